@@ -1,0 +1,1 @@
+"""Loopsize: rows of loops over one size, for every size at once."""

@@ -1,0 +1,277 @@
+"""Formulas of counts: how counts go on."""
+
+from math import comb
+
+from loopsize.counts import Count
+from loopsize.errors import BadNumber, TooFar, TooMany
+from loopsize.rowvalues import differences, first_positive, moved_back, peak_from, row_value
+from loopsize.systems import column_at, column_behind, least_system, pivot_of, reduced
+
+TOP_PERIOD = 60
+TOP_START = 10000
+TOP_EARLY = 60
+TIERS = (6, 20, TOP_PERIOD)
+
+
+class Formula:
+    """The formula of a count. Made by the functions of the package alone."""
+
+    def __init__(self, rows, start, early):
+        self.rows = rows
+        self.period = len(rows)
+        self.start = start
+        self.early = early
+
+    def __call__(self, n):
+        return value_of_rows(self.rows, n)
+
+    def __eq__(self, other):
+        if not isinstance(other, Formula):
+            return False
+        return self.rows == other.rows and self.start == other.start and self.early == other.early
+
+
+def value_of_rows(rows, n):
+    return row_value(rows[n % len(rows)], n // len(rows))
+
+
+def formula_of(count):
+    """The formula of a count, with the least period, length and start.
+
+    Small periods are tried first, as fewer values tell whether they may be right.
+    """
+    if not count.firsts:
+        return Formula(((0,),), 0, ())
+    for top in TIERS:
+        formula = formula_up_to(count, top)
+        if formula is not None:
+            return formula
+    raise TooFar("period", TOP_PERIOD)
+
+
+def formula_up_to(count, top):
+    """The formula if its period is not above top, otherwise None.
+
+    Far away, where the count surely has the values of its formula, the least period that will do is looked for. If
+    that is by chance alone, the rows found do not go together with the rules of the count.
+    """
+    far = 1 << len(count.sections)
+    values = values_from(count, far, 2 * top * count.length)
+    period = period_in(values, count.length, top)
+    if period is None:
+        return None
+    rows = rows_in(values, far, period, count.length)
+    tables = section_tables(count, rows)
+    start = start_of(count, tables) if fit_rules(count, tables) else None
+    return None if start is None else Formula(rows, start, tuple(values_from(count, 0, start)))
+
+
+def values_from(count, low, many):
+    """The values of a count at low, low + 1, and so on."""
+    if many == 0:
+        return []
+    columns = columns_from(count, low // 2, (low + many - 1) // 2 - low // 2 + 1)
+    told = []
+    for number in range(low, low + many):
+        factor, parts = count.steps[number % 2][0]
+        column = columns[number // 2 - low // 2]
+        told.append(sum([x * column[j] for j, x in parts]) // factor)
+    return told
+
+
+def columns_from(count, low, many):
+    """The values of all kept sections at low, low + 1, and so on, each made from those at half the number."""
+    if many <= 2:
+        return [column_at(count.steps, list(count.firsts), number) for number in range(low, low + many)]
+    columns = columns_from(count, low // 2, (low + many - 1) // 2 - low // 2 + 1)
+    told = []
+    for number in range(low, low + many):
+        told.append(column_behind(count.steps[number % 2], columns[number // 2 - low // 2]))
+    return told
+
+
+def period_in(values, length, top):
+    """The least period up to top for rows of this length that the values have, None if there is none."""
+    signs = [comb(length, j) * (-1 if j % 2 == 1 else 1) for j in range(length + 1)]
+    for period in range(1, top + 1):
+        if is_period(values, period, signs):
+            return period
+    return None
+
+
+def is_period(values, period, signs):
+    for at in range(len(values) - period * (len(signs) - 1)):
+        if sum([sign * values[at + j * period] for j, sign in enumerate(signs)]) != 0:
+            return False
+    return True
+
+
+def rows_in(values, far, period, length):
+    """The rows that have these values from far on, all as short as can be."""
+    rows = []
+    for rest in range(period):
+        at = (rest - far) % period
+        row = differences([values[at + j * period] for j in range(length)])
+        rows.append(moved_back(row, (far + at) // period))
+    many = max([needed_length(row) for row in rows])
+    return tuple([tuple(row[:many]) for row in rows])
+
+
+def needed_length(row):
+    many = len(row)
+    while many > 1 and row[many - 1] == 0:
+        many -= 1
+    return many
+
+
+def section_tables(count, rows):
+    """For each kept section the values of the rows where the section takes its own: twice as many as tell them all."""
+    many = 2 * len(rows) * len(rows[0])
+    return [[value_of_rows(rows, (n << k) + r) for n in range(many)] for k, r in count.sections]
+
+
+def fit_rules(count, tables):
+    """Whether the sections of the rows keep to the rules of those of the count."""
+    for table, pair in zip(tables, count.rules):
+        for digit in (0, 1):
+            many, factors = pair[digit]
+            used = [(factor, other) for factor, other in zip(factors, tables) if factor != 0]
+            for n in range(len(table) // 2):
+                if many * table[2 * n + digit] != sum([factor * other[n] for factor, other in used]):
+                    return False
+    return True
+
+
+def start_of(count, tables):
+    """The least number from which on the count has the values of the rows, None if there is none.
+
+    What the sections of both differ by keeps to the rules of the count, too. So if all of them are alike at all
+    numbers of one length, they are so at all longer ones.
+    """
+    column = [first - table[0] for first, table in zip(count.firsts, tables)]
+    start = 1 if column[0] != 0 else 0
+    first = column_behind(count.steps[1], column)
+    many = lengths_unlike(count.steps, first)
+    if many is None:
+        return None
+    if (1 << many) > 2 * TOP_START:
+        raise TooFar("start", TOP_START)
+    wave = [(1, first)]
+    for _ in range(many):
+        start = max([start] + [number + 1 for number, unlike in wave if unlike[0] != 0])
+        wave = [pair for pair in columns_behind(count.steps, wave) if not is_nothing(pair[1])]
+    if start > TOP_START:
+        raise TooFar("start", TOP_START)
+    return start
+
+
+def columns_behind(steps, wave):
+    told = []
+    for number, column in wave:
+        for digit in (0, 1):
+            told.append((2 * number + digit, column_behind(steps[digit], column)))
+    return told
+
+
+def lengths_unlike(steps, first):
+    """How many digits numbers can have at which the columns are not all 0; None if there is no greatest such number.
+
+    For each length the space of the columns is told. Once it holds that of the length before, it does so ever on.
+    """
+    basis, columns = independent_ones([first])
+    many = 0
+    while columns:
+        behind = [column_behind(step, column) for column in columns for step in steps]
+        before = columns
+        basis, columns = independent_ones(behind)
+        many += 1
+        if many > len(first) or all([is_nothing(reduced(basis, column)) for column in before]):
+            return None
+    return many
+
+
+def independent_ones(columns):
+    """A basis of the space of the columns, and those of them that made it."""
+    basis = []
+    told = []
+    for column in columns:
+        row = reduced(basis, column)
+        pivot = pivot_of(row, len(row))
+        if pivot is not None:
+            basis.append((pivot, row))
+            told.append(column)
+    return basis, told
+
+
+def is_nothing(row):
+    return not any([entry != 0 for entry in row])
+
+
+def count_from(early, rows):
+    """The count whose value at n is early[n], behind these that of the formula with the rows.
+
+    Its system has a function for each entry of the rows, alone at its numbers and 0 at others, and one for each
+    early value; no two of them touch, so they are independent.
+    """
+    if not 1 <= len(rows) <= TOP_PERIOD:
+        raise BadNumber("rows", len(rows))
+    if len(early) > TOP_EARLY:
+        raise TooMany("early", len(early), TOP_EARLY)
+    length = max([len(row) for row in rows])
+    flat = []
+    for row in rows:
+        flat.extend([*row, *([0] * (length - len(row)))])
+    many = len(flat)
+    start = flat + [value - value_of_rows(rows, n) for n, value in enumerate(early)]
+    firsts = [1 if at in (0, many) else 0 for at in range(len(start))]
+    steps = []
+    for digit in (0, 1):
+        step = row_step(len(rows), length, digit)
+        for n in range(len(early)):
+            step.append((1, ((many + n // 2, 1),) if n % 2 == digit else ()))
+        steps.append(step)
+    return Count(least_system((start, steps, firsts), True), length)
+
+
+def row_step(period, length, digit):
+    """For each rest and each place j of a row: what the choices of j of t come to, at 2 * n + digit, told at n."""
+    told = [[] for _ in range(period * length)]
+    for rest in range(period):
+        shift, source = divmod(2 * rest + digit, period)
+        for j in range(length):
+            parts = differences([comb(2 * u + shift, j) for u in range(j + 1)])
+            for place, factor in enumerate(parts):
+                told[source * length + j].append((rest * length + place, factor))
+    return [(1, tuple(parts)) for parts in told]
+
+
+def first_above(a, b):
+    """The least n at which the count a has a greater value than the count b, None if there is none."""
+    formula = formula_of(a - b)
+    for n, value in enumerate(formula.early):
+        if value > 0:
+            return n
+    found = []
+    for rest, row in enumerate(formula.rows):
+        t = first_positive(row, first_turn(formula, rest))
+        if t is not None:
+            found.append(t * formula.period + rest)
+    return min(found) if found else None
+
+
+def first_turn(formula, rest):
+    """The least t at which the row with this number stands for a number from the start on."""
+    return max(0, -((rest - formula.start) // formula.period))
+
+
+def peak_of(count):
+    """(value, n) of the greatest value and the least n that has it, None if there is no greatest one."""
+    formula = formula_of(count)
+    found = [(-value, n) for n, value in enumerate(formula.early)]
+    for rest, row in enumerate(formula.rows):
+        peak = peak_from(row, first_turn(formula, rest))
+        if peak is None:
+            return None
+        found.append((-peak[0], peak[1] * formula.period + rest))
+    value, n = min(found)
+    return -value, n

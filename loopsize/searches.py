@@ -1,0 +1,142 @@
+"""Least and greatest numbers in machines, found by whole bundles of states, not number by number."""
+
+from loopsize.machines import leads_to
+
+
+def bit(number, at):
+    return number >> at & 1
+
+
+def letters_with(digits, free):
+    """The letters with these digits at the first places and any digits at as many free places behind them."""
+    low = 0
+    for place, digit in enumerate(digits):
+        low = low | digit << place
+    return [low | rest << len(digits) for rest in range(1 << free)]
+
+
+def goals_behind(machine, arity, place):
+    """For each state whether zeros up to the place, and any digits behind it, lead from it to an end."""
+    return leads_to(machine[0], letters_with([0] * (place + 1), arity - place - 1), machine[1])
+
+
+def letters_at(level, fixed, digit, free):
+    return letters_with([bit(number, level) for number in fixed] + [digit], free)
+
+
+def goals_by_level(rows, goals, fixed, low, free):
+    """For each level the states from which the fixed numbers and low, from their digit there on, lead to a goal."""
+    told = [goals]
+    for level in reversed(range(max([number.bit_length() for number in [*fixed, low]]))):
+        letters = letters_at(level, fixed, bit(low, level), free)
+        behind = told[-1]
+        told.append([any([behind[row[letter]] for letter in letters]) for row in rows])
+    return told[::-1]
+
+
+def followers(rows, states, letters):
+    return sorted({rows[state][letter] for state in states for letter in letters})
+
+
+def least_from(rows, goals, fixed, low, free):
+    """The least number from low on that leads, behind the fixed ones, to a goal; None if there is none.
+
+    A goal is a state that stays one while zeros of all these numbers are read with some digits of the free ones.
+    The number has the digits of low down to some level, there 1 instead of 0, and whatever is least below: so the
+    lowest such level is looked for.
+    """
+    zones = goals_by_level(rows, goals, fixed, low, free)
+    if zones[0][0]:
+        return low
+    last = len(zones) - 1
+    lasting = lasting_states(rows, goals, letters_at(last, fixed, 0, free), letters_at(last, fixed, 1, free))
+    fronts = [[0]]
+    while fronts[-1]:
+        level = len(fronts) - 1
+        letters = letters_at(level, fixed, 1, free)
+        zone = zones[min(level + 1, last)]
+        found = [state for state in fronts[-1] if any([zone[rows[state][letter]] for letter in letters])]
+        if found and bit(low, level) == 0:
+            number = (low >> level | 1) << level
+            return number | least_below(rows, fronts[:-1], found, fixed, free)
+        front = followers(rows, fronts[-1], letters + letters_at(level, fixed, 0, free))
+        fronts.append([state for state in front if level + 1 < last or lasting[state]])
+    return None
+
+
+def lasting_states(rows, goals, zeros, ones):
+    """The states from which, behind the last digits of all given numbers, a digit 1 can still lead to a goal."""
+    marked = [any([goals[row[letter]] for letter in ones]) for row in rows]
+    return leads_to(rows, zeros + ones, marked)
+
+
+def least_below(rows, fronts, found, fixed, free):
+    """The least digits for the levels of the fronts, from the highest one down, that lead to the states found."""
+    number = 0
+    for level in reversed(range(len(fronts))):
+        is_found = [False] * len(rows)
+        for state in found:
+            is_found[state] = True
+        for digit in (0, 1):
+            letters = letters_at(level, fixed, digit, free)
+            found = [s for s in fronts[level] if any([is_found[rows[s][letter]] for letter in letters])]
+            if found:
+                number = number | digit << level
+                break
+    return number
+
+
+def useful_states(machine):
+    """For each state of a machine of one number whether digits, the last one 1, lead from it to an end."""
+    rows, ends = machine
+    return leads_to(rows, (0, 1), [ends[row[1]] for row in rows])
+
+
+def has_finitely_many(machine):
+    """Whether a machine of one number has finitely many: no cycle may pass through useful states."""
+    rows = machine[0]
+    useful = useful_states(machine)
+    many = [0] * len(rows)
+    for state, row in enumerate(rows):
+        if useful[state]:
+            many[row[0]] += 1
+            many[row[1]] += 1
+    free = [state for state in range(len(rows)) if useful[state] and many[state] == 0]
+    gone = 0
+    while free:
+        state = free.pop()
+        gone += 1
+        for then in rows[state]:
+            many[then] -= 1
+            if many[then] == 0 and useful[then]:
+                free.append(then)
+    return gone == sum([1 for state in useful if state])
+
+
+def greatest_in(machine):
+    """The greatest number of a machine that has finitely many, None if it has none."""
+    rows, ends = machine
+    useful = useful_states(machine)
+    fronts = [[0] if useful[0] else []]
+    while fronts[-1]:
+        fronts.append([state for state in followers(rows, fronts[-1], (0, 1)) if useful[state]])
+    level = len(fronts) - 2
+    if level < 0:
+        return 0 if ends[0] else None
+    found = [state for state in fronts[level] if ends[rows[state][1]]]
+    return 1 << level | greatest_below(rows, fronts[:level], found)
+
+
+def greatest_below(rows, fronts, found):
+    """The greatest digits for the levels of the fronts that lead to the states found."""
+    number = 0
+    for level in reversed(range(len(fronts))):
+        is_found = [False] * len(rows)
+        for state in found:
+            is_found[state] = True
+        for digit in (1, 0):
+            found = [state for state in fronts[level] if is_found[rows[state][digit]]]
+            if found:
+                number = number | digit << level
+                break
+    return number
