@@ -80,15 +80,24 @@ def condition_machine(condition):
     return rest_machine(condition[1], condition[2], condition[3])
 
 
-def case_machine(arity, case):
-    told = full_machine(arity)
-    for condition in case:
-        told = in_both(told, condition_machine(condition))
+def case_machines(arity, cases):
+    """For each case the machines of its conditions, but no cases without rows and no conditions for all rows."""
+    told = []
+    for case in cases:
+        machines = [condition_machine(condition) for condition in case]
+        if empty_machine(arity) not in machines:
+            told.append([machine for machine in machines if machine != full_machine(arity)])
     return told
 
 
-def cases_machine(arity, cases):
+def machine_of_cases(arity, cases):
+    """The machine of the rows that are in all machines of one of the cases."""
+    if [] in cases:
+        return full_machine(arity)
     told = empty_machine(arity)
     for case in cases:
-        told = in_either(told, case_machine(arity, case))
+        part = full_machine(arity)
+        for machine in case:
+            part = in_both(part, machine)
+        told = in_either(told, part)
     return told

@@ -1,9 +1,10 @@
 """Sets of rows of numbers, told by machines that read the digits of the numbers."""
 
-from loopsize.conditionsets import cases_machine
+from loopsize.conditionsets import case_machines, machine_of_cases
 from loopsize.cuts import left_machine, put_machine
 from loopsize.errors import TooLarge
 from loopsize.kinds import is_natural
+from loopsize.largeness import is_laborious, surely_above
 from loopsize.machines import arity_of, in_both, in_either, in_first_alone
 from loopsize.machines import reordered_machine, turned, widened_machine
 
@@ -19,8 +20,8 @@ class DigitSet:
         self.ends = machine[1]
         self.states = len(machine[0])
 
-    def __contains__(self, row):
-        numbers = (row,) if self.arity == 1 and is_natural(row) else row
+    def __contains__(self, x):
+        numbers = (x,) if self.arity == 1 and is_natural(x) else x
         return is_row(numbers, self.arity) and self.ends[state_behind(self.rows, numbers)]
 
     def __eq__(self, other):
@@ -57,7 +58,10 @@ def told_set(machine):
 
 def digit_set(arity, cases):
     """The rows of an arity for which one of the cases holds."""
-    return told_set(cases_machine(arity, cases))
+    machines = case_machines(arity, cases)
+    if is_laborious(machines) and surely_above(machines, MOST_STATES):
+        raise TooLarge(MOST_STATES)
+    return told_set(machine_of_cases(arity, machines))
 
 
 def both(a, b):

@@ -10,7 +10,7 @@ from loopsize.systems import column_at, column_behind, least_system, pivot_of, r
 TOP_PERIOD = 60
 TOP_START = 10000
 TOP_EARLY = 60
-TIERS = (6, 20, TOP_PERIOD)
+TIERS = (6, 20, 60)
 
 
 class Formula:

@@ -3,9 +3,11 @@
 import itertools
 import unittest
 
+from loopsize.conditionsets import case_machines
 from loopsize.digitsets import DigitSet, both, digit_set, either, is_all, is_none, left_out, others, put_in
 from loopsize.digitsets import reordered, widened, without
 from loopsize.errors import LoopError, TooLarge
+from loopsize.largeness import surely_above
 from loopsize.members import least_of
 from tests.plain import numbers_set, plain_cases, random_sets, small_rows
 
@@ -209,6 +211,37 @@ class MachinesTest(unittest.TestCase):
         self.assertTrue(is_all(digit_set(1, cases)))
         hard = (("is", (100, 99, -98), 10 ** 6), ("least", (-100, 99, -97), 10 ** 6), ("is", (0, 0, 1), 5))
         self.assertLessEqual(digit_set(3, (hard,)).states, 400)
+
+
+class LargenessTest(unittest.TestCase):
+    """What is seen of a large machine before it is made is true of it."""
+
+    def test_not_more_states_are_seen_than_there_are(self):
+        seen = 0
+        for arity, cases, s in random_sets(8, 80):
+            machines = case_machines(arity, cases)
+            if machines and [] not in machines:
+                self.assertFalse(surely_above(machines, s.states), cases)
+                seen += surely_above(machines, s.states // 2)
+        self.assertGreater(seen, 10)
+
+    def test_sets_that_nobody_could_make(self):
+        one = ("least", (100, -99, 98, -97), 10 ** 6)
+        other = ("least", (-91, 89, -98, 83), -10 ** 6)
+        third = ("rest", (7, 5, 3, 1), 24, (1, 2, 3, 5, 8, 13, 21))
+        for cases in (((one, other, third),), ((one, third), (other,)), ((one,), (other,), (third,))):
+            with self.assertRaises(TooLarge):
+                digit_set(4, cases)
+
+    def test_large_conditions_that_do_not_matter(self):
+        one = ("least", (100, -99, 98, -97), 10 ** 6)
+        other = ("least", (-91, 89, -98, 83), -10 ** 6)
+        self.assertTrue(is_all(digit_set(4, ((one, other), (("least", (1, 1, 1, 1), 0),)))))
+        self.assertTrue(is_none(digit_set(4, ((one, other, ("least", (-1, -1, -1, -1), 1)),))))
+        self.assertTrue(is_all(digit_set(4, ((one, other), ()))))
+        few = (("least", (-1, -1, -1, -1), -3),)
+        s = digit_set(4, (few + (one,), few + (other,)))
+        self.assertTrue(s == digit_set(4, (few,)))
 
 
 class SetsOfSetsTest(unittest.TestCase):

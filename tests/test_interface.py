@@ -28,7 +28,7 @@ FUNCTIONS = {
              "log_program(program, n)"],
 }
 CLASSES = {
-    ("digitsets", "DigitSet"): ["__contains__(self, row)", "__eq__(self, other)"],
+    ("digitsets", "DigitSet"): ["__contains__(self, x)", "__eq__(self, other)"],
     ("counts", "Count"): ["__call__(self, n)", "__eq__(self, other)", "__add__(self, other)", "__radd__(self, other)",
                           "__sub__(self, other)", "__rsub__(self, other)", "__mul__(self, other)",
                           "__rmul__(self, other)", "__neg__(self)"],
