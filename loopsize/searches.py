@@ -58,7 +58,7 @@ def least_from(rows, goals, fixed, low, free):
         found = [state for state in fronts[-1] if any([zone[rows[state][letter]] for letter in letters])]
         if found and bit(low, level) == 0:
             number = (low >> level | 1) << level
-            return number | least_below(rows, fronts[:-1], found, fixed, free)
+            return number | digits_below(rows, fronts[:-1], found, (0, 1), fixed, free)
         front = followers(rows, fronts[-1], letters + letters_at(level, fixed, 0, free))
         fronts.append([state for state in front if level + 1 < last or lasting[state]])
     return None
@@ -70,14 +70,15 @@ def lasting_states(rows, goals, zeros, ones):
     return leads_to(rows, zeros + ones, marked)
 
 
-def least_below(rows, fronts, found, fixed, free):
-    """The least digits for the levels of the fronts, from the highest one down, that lead to the states found."""
+def digits_below(rows, fronts, found, order, fixed, free):
+    """The digits for the levels of the fronts that lead to the states found: from the highest one down, each time
+    the first one of the order that can be had."""
     number = 0
     for level in reversed(range(len(fronts))):
         is_found = [False] * len(rows)
         for state in found:
             is_found[state] = True
-        for digit in (0, 1):
+        for digit in order:
             letters = letters_at(level, fixed, digit, free)
             found = [s for s in fronts[level] if any([is_found[rows[s][letter]] for letter in letters])]
             if found:
@@ -124,19 +125,4 @@ def greatest_in(machine):
     if level < 0:
         return 0 if ends[0] else None
     found = [state for state in fronts[level] if ends[rows[state][1]]]
-    return 1 << level | greatest_below(rows, fronts[:level], found)
-
-
-def greatest_below(rows, fronts, found):
-    """The greatest digits for the levels of the fronts that lead to the states found."""
-    number = 0
-    for level in reversed(range(len(fronts))):
-        is_found = [False] * len(rows)
-        for state in found:
-            is_found[state] = True
-        for digit in (1, 0):
-            found = [state for state in fronts[level] if is_found[rows[state][digit]]]
-            if found:
-                number = number | digit << level
-                break
-    return number
+    return 1 << level | digits_below(rows, fronts[:level], found, (1, 0), [], 0)
