@@ -1,10 +1,18 @@
 """Machines of the conditions of [3]: what remains of a condition when the lowest digits are read."""
 
-from loopsize.machines import empty_machine, full_machine, in_both, in_either, minimal
+from math import gcd
+
+from loopsize.machines import BOTH, EITHER, empty_machine, full_machine, joined, joined_freely, minimal
 
 
 def explored(first, letters, follow, is_end):
     """The machine whose states are what follow makes of first, letter by letter."""
+    rows, ends = explored_freely(first, letters, follow, is_end)
+    return minimal(rows, ends)
+
+
+def explored_freely(first, letters, follow, is_end):
+    """The same machine, but not with the fewest states; they are in the order of [5]."""
     place = {first: 0}
     met = [first]
     rows = []
@@ -18,7 +26,7 @@ def explored(first, letters, follow, is_end):
                 met.append(then)
             row.append(place[then])
         rows.append(tuple(row))
-    return minimal(rows, [is_end(state) for state in met])
+    return tuple(rows), tuple([is_end(state) for state in met])
 
 
 def digit_sums(factors):
@@ -29,19 +37,24 @@ def digit_sums(factors):
     return told
 
 
-def is_machine(factors, number):
-    """The rows whose sum is the number. A state is the sum that is still wanted, None if it cannot be had."""
+def between_machine(factors, least, most):
+    """The rows whose sum is from least to most. A state is the pair of these for the digits to come, None if it
+    cannot be had."""
     low = sum([factor for factor in factors if factor < 0])
     high = sum([factor for factor in factors if factor > 0])
 
     def follow(wanted, digits):
-        if wanted is None or (wanted - digits) % 2 == 1:
+        if wanted is None:
             return None
-        then = (wanted - digits) // 2
-        out_of_reach = (then > 0 and high == 0) or (then < 0 and low == 0)
-        return None if out_of_reach else then
+        least, most = -((digits - wanted[0]) // 2), (wanted[1] - digits) // 2
+        # Beyond these bounds nothing that is to come has such a sum.
+        least, most = (max(least, 0) if low == 0 else least), (min(most, 0) if high == 0 else most)
+        return (least, most) if least <= most else None
 
-    return explored(number, digit_sums(factors), follow, lambda wanted: wanted == 0)
+    def is_end(wanted):
+        return wanted is not None and wanted[0] <= 0 <= wanted[1]
+
+    return explored((least, most), digit_sums(factors), follow, is_end)
 
 
 def least_machine(factors, number):
@@ -62,19 +75,40 @@ def least_machine(factors, number):
 
 
 def rest_machine(factors, m, rests):
-    """The rows whose sum has one of the rests. A state is (worth of the next digit, sum so far), modulo m."""
-    wanted = [rest in rests for rest in range(m)]
+    """The rows whose sum has one of the rests. A state tells of each rest of the sum to come whether it is wanted.
 
-    def follow(state, digits):
-        worth, so_far = state
-        return worth * 2 % m, (so_far + worth * digits) % m
+    All rests can come, once the common divisor is taken out, and those that are wanted are told for the least
+    modulus that will do: so no two states are alike.
+    """
+    common = m
+    for factor in factors:
+        common = gcd(common, factor)
+    first = shortest([rest in rests for rest in range(0, m, common)])
 
-    return explored((1 % m, 0), digit_sums(factors), follow, lambda state: wanted[state[1]])
+    def follow(wanted, digits):
+        many = len(wanted)
+        if many == 1:
+            return wanted
+        if many % 2 == 1:
+            return tuple([wanted[(digits + 2 * rest) % many] for rest in range(many)])
+        return shortest([wanted[(digits + 2 * rest) % many] for rest in range(many // 2)])
+
+    sums = digit_sums([factor // common for factor in factors])
+    return explored_freely(first, sums, follow, lambda wanted: wanted[0])
+
+
+def shortest(wanted):
+    """The truths up to the least place from which on they are repeated."""
+    many = len(wanted)
+    for part in range(1, many):
+        if many % part == 0 and wanted == wanted[:part] * (many // part):
+            return tuple(wanted[:part])
+    return tuple(wanted)
 
 
 def condition_machine(condition):
     if condition[0] == "is":
-        return is_machine(condition[1], condition[2])
+        return between_machine(condition[1], condition[2], condition[2])
     if condition[0] == "least":
         return least_machine(condition[1], condition[2])
     return rest_machine(condition[1], condition[2], condition[3])
@@ -91,13 +125,27 @@ def case_machines(arity, cases):
 
 
 def machine_of_cases(arity, cases):
-    """The machine of the rows that are in all machines of one of the cases."""
+    """A machine of the rows that are in all machines of one of the cases; it may have more states than are needed."""
     if [] in cases:
         return full_machine(arity)
-    told = empty_machine(arity)
-    for case in cases:
-        part = full_machine(arity)
-        for machine in case:
-            part = in_both(part, machine)
-        told = in_either(told, part)
+    if not cases:
+        return empty_machine(arity)
+    if len(cases) == 1:
+        return joined_at_last(cases[0], BOTH)
+    return joined_at_last([in_all(case) for case in cases], EITHER)
+
+
+def joined_at_last(machines, keep):
+    """Machines joined one behind the other; what comes out may have more states than are needed."""
+    told = machines[0]
+    for machine in machines[1:-1]:
+        told = joined(told, machine, keep)
+    return joined_freely(told, machines[-1], keep) if len(machines) > 1 else told
+
+
+def in_all(machines):
+    """The machine of the rows that are in all of some machines, at least one."""
+    told = machines[0]
+    for machine in machines[1:]:
+        told = joined(told, machine, BOTH)
     return told

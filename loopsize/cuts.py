@@ -4,37 +4,59 @@ from loopsize.machines import leads_to, minimal, settled, with_digit
 
 
 def left_machine(machine, place):
-    """The rows with the number at the place left out: its digits are guessed, so a state is a bundle of states.
+    """The rows with the number at the place left out."""
+    rows, ends = left_freely(machine, place)
+    return minimal(rows, ends)
+
+
+def left_freely(machine, place):
+    """The same machine, but not with the fewest states.
+
+    The digits of the number that is left out are guessed, so a state is a bundle of states.
 
     The number left out may have more digits than the others, so a bundle is an end if zeros of the others and
-    some digits of this number lead on to an end.
+    some digits of this number lead on to an end. A bundle is kept as the integer with the bits of its states.
     """
-    letters = [(with_digit(k, place, 0), with_digit(k, place, 1)) for k in range(len(machine[0][0]) // 2)]
-    is_end = leads_to(machine[0], letters[0], machine[1])
-    sure = settled(machine[0], machine[1], (-1, 1))
-    place_of = {(0,): 0}
-    bundles = [(0,)]
-    rows = []
-    while len(rows) < len(bundles):
+    rows, ends = machine
+    letters = [(with_digit(k, place, 0), with_digit(k, place, 1)) for k in range(len(rows[0]) // 2)]
+    bits, full = bits_of_states(rows, ends)
+    place_of = {bits[0]: 0}
+    bundles = [bits[0]]
+    told = []
+    while len(told) < len(bundles):
+        lines = [rows[state] for state in states_in(bundles[len(told)])]
         row = []
-        lines = [machine[0][state] for state in bundles[len(rows)]]
         for zero, one in letters:
-            then = bundle_of([line[zero] for line in lines] + [line[one] for line in lines], sure)
+            then = 0
+            for line in lines:
+                then = then | bits[line[zero]] | bits[line[one]]
+            if then & full:
+                then = full & -full
             if then not in place_of:
                 place_of[then] = len(bundles)
                 bundles.append(then)
             row.append(place_of[then])
-        rows.append(tuple(row))
-    return minimal(rows, [any([is_end[state] for state in bundle]) for bundle in bundles])
+        told.append(row)
+    is_end = leads_to(rows, letters[0], ends)
+    marked = sum([1 << state for state in range(len(rows)) if is_end[state]])
+    return told, [bundle & marked != 0 for bundle in bundles]
 
 
-def bundle_of(states, sure):
-    """The states, each once, without those from which nothing is in; one alone if all is in from it."""
-    told = sorted({state for state in states if sure[state] >= 0})
-    for state in told:
-        if sure[state] == 1:
-            return (state,)
-    return tuple(told)
+def bits_of_states(rows, ends):
+    """For each state its bit, 0 if nothing is in from it; and the bits of the states from which all is in."""
+    alive = leads_to(rows, list(range(len(rows[0]))), ends)
+    sure = settled(rows, ends, (0, 1))
+    bits = [1 << state if alive[state] else 0 for state in range(len(rows))]
+    return bits, sum([1 << state for state in range(len(rows)) if sure[state]])
+
+
+def states_in(bundle):
+    told = []
+    while bundle:
+        low = bundle & -bundle
+        told.append(low.bit_length() - 1)
+        bundle = bundle ^ low
+    return told
 
 
 def put_machine(machine, place, number):

@@ -1,11 +1,11 @@
 """Sets of rows of numbers, told by machines that read the digits of the numbers."""
 
 from loopsize.conditionsets import case_machines, machine_of_cases
-from loopsize.cuts import left_machine, put_machine
+from loopsize.cuts import left_freely, put_machine
 from loopsize.errors import TooLarge
 from loopsize.kinds import is_natural
 from loopsize.largeness import is_laborious, surely_above
-from loopsize.machines import arity_of, in_both, in_either, in_first_alone
+from loopsize.machines import BOTH, EITHER, FIRST_ALONE, arity_of, joined_freely, minimal_up_to
 from loopsize.machines import reordered_machine, turned, widened_machine
 
 MOST_STATES = 400
@@ -56,24 +56,38 @@ def told_set(machine):
     return DigitSet(machine)
 
 
+def least_told_set(rows, ends):
+    """The set of a machine that need not have the fewest states, if it may be told."""
+    machine = minimal_up_to(rows, ends, MOST_STATES)
+    if machine is None:
+        raise TooLarge(MOST_STATES)
+    return DigitSet(machine)
+
+
+def joined_set(a, b, keep):
+    rows, ends = joined_freely(machine_of(a), machine_of(b), keep)
+    return least_told_set(rows, ends)
+
+
 def digit_set(arity, cases):
     """The rows of an arity for which one of the cases holds."""
     machines = case_machines(arity, cases)
     if is_laborious(machines) and surely_above(machines, MOST_STATES):
         raise TooLarge(MOST_STATES)
-    return told_set(machine_of_cases(arity, machines))
+    rows, ends = machine_of_cases(arity, machines)
+    return least_told_set(rows, ends)
 
 
 def both(a, b):
-    return told_set(in_both(machine_of(a), machine_of(b)))
+    return joined_set(a, b, BOTH)
 
 
 def either(a, b):
-    return told_set(in_either(machine_of(a), machine_of(b)))
+    return joined_set(a, b, EITHER)
 
 
 def without(a, b):
-    return told_set(in_first_alone(machine_of(a), machine_of(b)))
+    return joined_set(a, b, FIRST_ALONE)
 
 
 def others(a):
@@ -82,7 +96,8 @@ def others(a):
 
 def left_out(a, place):
     """The rows with one number less that are in with some number put in at the place."""
-    return told_set(left_machine(machine_of(a), place))
+    rows, ends = left_freely(machine_of(a), place)
+    return least_told_set(rows, ends)
 
 
 def put_in(a, place, number):

@@ -5,38 +5,72 @@ the rows that lead to it are in. State 0 is the first one. Zeros behind the high
 nothing. All states can be reached. Nothing here minds how many states a machine has.
 """
 
+SURELY_OUT = -(1 << 40)
+SURELY_IN = -(1 << 50)
+BETWEEN = -(1 << 45)
+BOTH = ((False, False), (False, True))
+EITHER = ((False, True), (True, True))
+FIRST_ALONE = ((False, False), (True, False))
+UNLIKE = ((False, True), (True, False))
+
 
 def minimal(rows, ends):
     """The machine with the fewest states for the same rows, its states in the order of [5]."""
-    return in_order(rows, ends, classes_of(rows, ends))
+    return in_order(rows, ends, classes_of(rows, ends, len(rows)))
 
 
-def classes_of(rows, ends):
-    """For each state the number of its class: states are of one class if the same rows are in from them."""
+def minimal_up_to(rows, ends, most):
+    """The same, or None if it has more states than these."""
+    marks = classes_of(rows, ends, most)
+    return None if marks is None else in_order(rows, ends, marks)
+
+
+def classes_of(rows, ends, most):
+    """For each state the number of its class: states are of one class if the same rows are in from them.
+
+    None if there are more classes than these.
+    """
     early = ahead_of_cycles(rows)
-    is_early = [False] * len(rows)
-    for state in early:
-        is_early[state] = True
-    core = [state for state in range(len(rows)) if not is_early[state]]
-    marks = refined(rows, [1 if end else 0 for end in ends], core)
+    if not early:
+        return refined(rows, ends, most)
+    kept, place = without_states(rows, early)
+    found = refined([[place[then] for then in rows[state]] for state in kept], [ends[state] for state in kept], most)
+    if found is None:
+        return None
+    marks = [0] * len(rows)
+    for state, mark in zip(kept, found):
+        marks[state] = mark
     table = {}
-    for state in core:
-        key = (ends[state], *[marks[then] for then in rows[state]])
-        table[key] = marks[state]
+    for state in kept:
+        table[(ends[state], *[marks[then] for then in rows[state]])] = marks[state]
     # No cycle passes through the early states, so one look at what stands behind each of them will do.
     for state in reversed(early):
         key = (ends[state], *[marks[then] for then in rows[state]])
-        marks[state] = table.setdefault(key, len(table))
-    return marks
+        marks[state] = table.setdefault(key, -1 - state)
+    return marks if len(table) <= most else None
+
+
+def without_states(rows, gone):
+    """The states that are not gone, and for each of them its place among these."""
+    is_gone = [False] * len(rows)
+    for state in gone:
+        is_gone[state] = True
+    kept = [state for state in range(len(rows)) if not is_gone[state]]
+    place = [0] * len(rows)
+    for at, state in enumerate(kept):
+        place[state] = at
+    return kept, place
 
 
 def ahead_of_cycles(rows):
     """The states to which no cycle leads, each one ahead of those to which it leads."""
+    if any([0 in row for row in rows]):
+        return []
     many = [0] * len(rows)
     for row in rows:
         for then in row:
             many[then] += 1
-    early = [0] if many[0] == 0 else []
+    early = [0]
     at = 0
     while at < len(early):
         for then in rows[early[at]]:
@@ -47,21 +81,21 @@ def ahead_of_cycles(rows):
     return early
 
 
-def refined(rows, marks, core):
+def refined(rows, marks, most):
     """The coarsest marks below the given ones that tell of a state those of the states behind it.
 
-    Only states of the core are marked; they lead into the core alone.
+    None if there are more of them than these.
     """
+    columns = list(zip(*rows))
     many = 0
     while True:
-        table = {}
-        told = list(marks)
-        for state in core:
-            key = (marks[state], *[marks[then] for then in rows[state]])
-            told[state] = table.setdefault(key, len(table))
-        marks = told
+        keys = list(zip(marks, *[[marks[then] for then in column] for column in columns]))
+        table = dict(zip(keys, range(len(keys))))
         if len(table) == many:
             return marks
+        if len(table) > most:
+            return None
+        marks = [table[key] for key in keys]
         many = len(table)
 
 
@@ -107,22 +141,30 @@ def leads_to(rows, letters, marked):
 
 def settled(rows, ends, sure):
     """For each state sure[its end] if nothing that is read leads away from it, otherwise 0."""
-    told = []
-    for state in range(len(rows)):
-        stays = all([then == state for then in rows[state]])
-        told.append(sure[ends[state]] if stays else 0)
+    told = [0] * len(rows)
+    for state, row in enumerate(rows):
+        if row[0] == state and row.count(state) == len(row):
+            told[state] = sure[ends[state]]
     return told
 
 
 def joined(one, other, keep):
     """The machine of the rows for which keep[in one][in other] is True."""
-    verdicts = (-1, -2)
-    sure_one = settled(one[0], one[1], [verdicts[keep[e][0]] if keep[e][0] == keep[e][1] else 0 for e in (0, 1)])
-    sure_other = settled(other[0], other[1], [verdicts[keep[0][e]] if keep[0][e] == keep[1][e] else 0 for e in (0, 1)])
+    rows, ends = joined_freely(one, other, keep)
+    return minimal(rows, ends)
+
+
+def joined_freely(one, other, keep):
+    """The same machine, but not with the fewest states.
+
+    The code of a pair of states is the sum of a number for each of the two. Where one of the states makes the
+    verdict certain, its number is so far below 0 that the sum tells it.
+    """
     wide = len(other[0])
-    first = sure_one[0] or sure_other[0]
-    place = {first: 0}
-    codes = [first]
+    rows_one, first_one = numbered(one, wide, [verdict_of(keep[e]) for e in (0, 1)])
+    rows_other, first_other = numbered(other, 1, [verdict_of((keep[0][e], keep[1][e])) for e in (0, 1)])
+    codes = [code_of(first_one + first_other)]
+    place = {codes[0]: 0}
     rows = []
     while len(rows) < len(codes):
         code = codes[len(rows)]
@@ -130,27 +172,51 @@ def joined(one, other, keep):
             rows.append((len(rows),) * len(one[0][0]))
             continue
         row = []
-        for s, t in zip(one[0][code // wide], other[0][code % wide]):
-            then = sure_one[s] or sure_other[t] or s * wide + t
+        for x, y in zip(rows_one[code // wide], rows_other[code % wide]):
+            then = x + y
+            if then < 0:
+                then = code_of(then)
             if then not in place:
                 place[then] = len(codes)
                 codes.append(then)
             row.append(place[then])
-        rows.append(tuple(row))
-    ends = [keep[one[1][c // wide]][other[1][c % wide]] if c >= 0 else c == -2 for c in codes]
-    return minimal(rows, ends)
+        rows.append(row)
+    ends = [keep[one[1][c // wide]][other[1][c % wide]] if c >= 0 else c == SURELY_IN for c in codes]
+    return rows, ends
+
+
+def verdict_of(pair):
+    """What is sure if the verdict is one of these two; 0 if nothing is."""
+    if pair[0] != pair[1]:
+        return 0
+    return SURELY_IN if pair[0] else SURELY_OUT
+
+
+def numbered(machine, factor, sure):
+    """The rows of a machine, and its first state, with numbers for the states: multiples of the factor, or what
+    is sure from them on."""
+    rows, ends = machine
+    verdicts = settled(rows, ends, sure)
+    numbers = [verdict or state * factor for state, verdict in enumerate(verdicts)]
+    return [[numbers[then] for then in row] for row in rows], numbers[0]
+
+
+def code_of(total):
+    if total >= 0:
+        return total
+    return SURELY_IN if total < BETWEEN else SURELY_OUT
 
 
 def in_both(one, other):
-    return joined(one, other, ((False, False), (False, True)))
+    return joined(one, other, BOTH)
 
 
 def in_either(one, other):
-    return joined(one, other, ((False, True), (True, True)))
+    return joined(one, other, EITHER)
 
 
 def in_first_alone(one, other):
-    return joined(one, other, ((False, False), (True, False)))
+    return joined(one, other, FIRST_ALONE)
 
 
 def turned(machine):

@@ -12,31 +12,46 @@ from loopsize.machines import refined
 def germs_of(machine):
     """For each state the number of its germ, and for each germ the two germs behind it."""
     rows, ends = machine
-    states = list(range(len(rows)))
     # Numbers from 1 on end in the digit 1, so the states alike in all of them are told by what follows that digit.
-    marks = refined(rows, [1 if ends[row[1]] else 0 for row in rows], states)
-    many = max(marks) + 1
+    marks = refined(rows, [1 if ends[row[1]] else 0 for row in rows], len(rows))
+    low = [row[0] for row in rows]
+    high = [row[1] for row in rows]
+    many = 0
     while True:
         table = {}
-        marks = [table.setdefault((marks[row[0]], marks[row[1]]), len(table)) for row in rows]
+        pairs = list(zip([marks[then] for then in low], [marks[then] for then in high]))
+        marks = [table.setdefault(pair, len(table)) for pair in pairs]
         if len(table) == many:
             break
         many = len(table)
     behind = [None] * many
-    for state in states:
-        behind[marks[state]] = (marks[rows[state][0]], marks[rows[state][1]])
+    for state, row in enumerate(rows):
+        behind[marks[state]] = (marks[row[0]], marks[row[1]])
     return marks, behind
 
 
-def zero_cycle(behind, germ):
-    """The germs that come again and again as zeros are read, from the first one that does."""
-    path = []
-    place = {}
-    while germ not in place:
-        place[germ] = len(path)
-        path.append(germ)
-        germ = behind[germ][0]
-    return path[place[germ]:]
+def on_cycles(follow):
+    """For each number whether it comes again if each number is followed by the one at its place."""
+    walk = [-1] * len(follow)
+    told = [False] * len(follow)
+    for start in range(len(follow)):
+        at = start
+        while walk[at] < 0:
+            walk[at] = start
+            at = follow[at]
+        while walk[at] == start and not told[at]:
+            told[at] = True
+            at = follow[at]
+    return told
+
+
+def far_behind(follow):
+    """For each number the one far behind it, at least as many steps as there are numbers."""
+    steps = 1
+    while steps < len(follow):
+        follow = [follow[then] for then in follow]
+        steps = 2 * steps
+    return follow
 
 
 def periods_of(behind):
@@ -45,17 +60,18 @@ def periods_of(behind):
     If it is odd, zeros lead back to the germ. Otherwise it is twice the least common multiple of the two behind it.
     """
     told = [0] * len(behind)
-    pending = list(range(len(behind)))
+    comes_again = on_cycles([pair[0] for pair in behind])
     for germ in range(len(behind)):
-        if told[germ] == 0 and germ in zero_cycle(behind, germ):
+        if told[germ] == 0 and comes_again[germ]:
             met = germs_behind(behind, germ)
             period = odd_period(behind, met)
             for other in met:
                 told[other] = period
+    pending = [germ for germ in range(len(behind)) if told[germ] == 0]
     while pending:
-        for germ in pending:
+        for germ in reversed(pending):
             low, high = behind[germ]
-            if told[germ] == 0 and told[low] > 0 and told[high] > 0:
+            if told[low] > 0 and told[high] > 0:
                 told[germ] = 2 * lcm(told[low], told[high])
         pending = [germ for germ in pending if told[germ] == 0]
     return told
@@ -76,38 +92,33 @@ def germs_behind(behind, germ):
 
 
 def odd_period(behind, germs):
-    """The period of germs that lead to one another: if some zeros lead each of them back to itself, a digit 1 and
-    zeros, as many together, move it by 1."""
-    many = 1
-    for germ in germs:
-        many = lcm(many, len(zero_cycle(behind, germ)))
-    germ = germs[0]
-    period = 0
-    while period == 0 or germ != germs[0]:
-        germ = behind[germ][1]
-        for _ in range(many - 1):
-            germ = behind[germ][0]
+    """The period of germs that lead to one another: some zeros lead each of them back to itself, so a digit 1 and
+    zeros, as many together, move it by 1. All but one of as many zeros undo a single one."""
+    ahead = {behind[germ][0]: germ for germ in germs}
+    germ = ahead[behind[germs[0]][1]]
+    period = 1
+    while germ != germs[0]:
+        germ = ahead[behind[germ][1]]
         period += 1
     return period
 
 
 def lasting_at_zero(machine, marks, behind, periods):
-    """For each germ whether the multiples of its period, if they are great, are in."""
+    """For each germ whether the multiples of its period, if they are great, are in.
+
+    From the power of 2 with as many zeros as there are states, all is as it lasts.
+    """
     rows, ends = machine
-    of_germ = [None] * len(behind)
-    for state in range(len(rows)):
-        of_germ[marks[state]] = state
-    told = []
-    for germ in range(len(behind)):
-        state = of_germ[zero_cycle(behind, germ)[0]]
-        number = periods[marks[state]]
-        # From the power of 2 with as many zeros as there are states, all is as it lasts.
-        for _ in rows:
-            state = rows[state][0]
-        while number > 0:
-            state = rows[state][number & 1]
-            number = number >> 1
-        told.append(ends[state])
+    far = far_behind([row[0] for row in rows])
+    told = [None] * len(behind)
+    for state, germ in enumerate(marks):
+        if told[germ] is None:
+            at = far[state]
+            number = periods[marks[at]]
+            while number > 0:
+                at = rows[at][number & 1]
+                number = number >> 1
+            told[germ] = ends[at]
     return told
 
 
