@@ -46,10 +46,14 @@ def between_machine(factors, least, most):
     def follow(wanted, digits):
         if wanted is None:
             return None
-        least, most = -((digits - wanted[0]) // 2), (wanted[1] - digits) // 2
+        bottom = -((digits - wanted[0]) // 2)
+        top = (wanted[1] - digits) // 2
         # Beyond these bounds nothing that is to come has such a sum.
-        least, most = (max(least, 0) if low == 0 else least), (min(most, 0) if high == 0 else most)
-        return (least, most) if least <= most else None
+        if low == 0:
+            bottom = max(bottom, 0)
+        if high == 0:
+            top = min(top, 0)
+        return (bottom, top) if bottom <= top else None
 
     def is_end(wanted):
         return wanted is not None and wanted[0] <= 0 <= wanted[1]

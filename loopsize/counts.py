@@ -3,6 +3,7 @@
 from loopsize.digitsets import machine_of
 from loopsize.errors import BadNumber, Endless
 from loopsize.kinds import is_integer, is_integer_from, is_natural
+from loopsize.machines import arity_of
 from loopsize.pathcounts import path_steps, rows_at_zero
 from loopsize.searches import least_from
 from loopsize.systems import column_at, least_system
@@ -156,13 +157,18 @@ def product_step(one, other, wide):
 
 def count_of(s):
     """The count of the rows of a set that have the same first number."""
-    machine = machine_of(s)
+    return count_of_machine(machine_of(s))
+
+
+def count_of_machine(machine):
+    """The same for the rows that are in by a machine, of any number of states."""
     firsts = rows_at_zero(machine)
+    arity = arity_of(machine)
     if -1 in firsts:
         goals = [many == -1 for many in firsts]
-        raise Endless(least_from(machine[0], goals, [], 0, s.arity - 1))
-    start = [1 if state == 0 else 0 for state in range(s.states)]
-    return Count(least_system((start, path_steps(machine[0]), firsts), False), s.arity)
+        raise Endless(least_from(machine[0], goals, [], 0, arity - 1))
+    start = [1 if state == 0 else 0 for state in range(len(firsts))]
+    return Count(least_system((start, path_steps(machine[0]), firsts), False), arity)
 
 
 def sum_of(counts):

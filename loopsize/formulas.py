@@ -247,13 +247,17 @@ def row_step(period, length, digit):
 
 def first_above(a, b):
     """The least n at which the count a has a greater value than the count b, None if there is none."""
-    formula = formula_of(a - b)
+    return first_from(formula_of(a - b), 1)
+
+
+def first_from(formula, bound):
+    """The least n at which a count with this formula is not below a bound, None if there is none."""
     for n, value in enumerate(formula.early):
-        if value > 0:
+        if value >= bound:
             return n
     found = []
     for rest, row in enumerate(formula.rows):
-        t = first_positive(row, first_turn(formula, rest))
+        t = first_positive((row[0] - bound + 1, *row[1:]), first_turn(formula, rest))
         if t is not None:
             found.append(t * formula.period + rest)
     return min(found) if found else None

@@ -2,7 +2,7 @@
 
 from loopsize.digitsets import machine_of
 from loopsize.errors import TooFar
-from loopsize.searches import goals_behind, greatest_in, has_finitely_many, least_from
+from loopsize.searches import greatest_in, has_finitely_many, least_row
 from loopsize.tails import is_in, lasting_machine
 
 TOP_PERIOD = 2048
@@ -17,18 +17,6 @@ def least_of(a):
 def next_of(a, low):
     """The same of the rows whose first number is not less than low."""
     return least_row(machine_of(a), a.arity, low)
-
-
-def least_row(machine, arity, low):
-    numbers = []
-    for place in range(arity):
-        goals = goals_behind(machine, arity, place)
-        start = low if place == 0 else 0
-        number = least_from(machine[0], goals, numbers, start, arity - place - 1)
-        if number is None:
-            return None
-        numbers.append(number)
-    return tuple(numbers)
 
 
 def is_finite(a):

@@ -1,6 +1,6 @@
 """Least and greatest numbers in machines, found by whole bundles of states, not number by number."""
 
-from loopsize.machines import leads_to
+from loopsize.machines import arity_of, leads_to
 
 
 def bit(number, at):
@@ -85,6 +85,25 @@ def digits_below(rows, fronts, found, order, fixed, free):
                 number = number | digit << level
                 break
     return number
+
+
+def least_row(machine, arity, low):
+    """The least row whose first number is not less than low, None if there is none."""
+    numbers = []
+    for place in range(arity):
+        goals = goals_behind(machine, arity, place)
+        start = low if place == 0 else 0
+        number = least_from(machine[0], goals, numbers, start, arity - place - 1)
+        if number is None:
+            return None
+        numbers.append(number)
+    return tuple(numbers)
+
+
+def least_first(machine):
+    """The least first number of the rows of a machine, None without rows."""
+    arity = arity_of(machine)
+    return least_from(machine[0], goals_behind(machine, arity, 0), [], 0, arity - 1)
 
 
 def useful_states(machine):

@@ -26,6 +26,18 @@ FUNCTIONS = {
     "texts": ["read_program(text)", "read_place(text)", "program_text(program)"],
     "runs": ["input_value(array, cell)", "run_program(program, n, *, start=())", "first_difference(one, other)",
              "log_program(program, n)"],
+    "spaces": ["turn_set(program, loop)", "work_set(program, loop, statement)",
+               "sizes_with_work(program, loop, statement)", "sizes_with_every_turn(program, loop, statement)",
+               "turns_differ(first, first_loop, second, second_loop)", "bad_cell(program)"],
+    "works": ["count_works(program, n)", "count_statement(program, n, loop, statement)", "work_at(program, n, number)",
+              "number_of(program, n, work)", "next_work(program, n, number, loop, statement)",
+              "last_work(program, n, number, loop, statement)", "work_totals(program)", "totals_differ(first, second)",
+              "first_size_with(program, many)"],
+    "pairs": ["same_cell(program, access, writer)", "ahead(program, one, other)"],
+    "flows": ["takes(program, read, writer)", "takes_input(program, read)", "sources_of(program, read)",
+              "readers_of(program, writer)"],
+    "lasts": ["stays(program, writer)", "last_works(program, writer)", "untouched(program, array)",
+              "last_at(program, n, array, cell, *, work=None)", "source_at(program, n, read, j)"],
 }
 CLASSES = {
     ("digitsets", "DigitSet"): ["__contains__(self, x)", "__eq__(self, other)"],
