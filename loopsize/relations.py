@@ -30,23 +30,42 @@ def gap_ahead(program, one, other):
 
 def gap_machine(gap):
     """The rows (n, j, i) with a gap."""
+    return difference_machine((0, -1, 1), gap)
+
+
+def difference_machine(factors, gap):
+    """The rows whose sum is what a gap allows."""
     least, most = gap
     if least is None and most is None:
-        return full_machine(3)
+        return full_machine(len(factors))
     if least is None:
-        return least_machine((0, 1, -1), -most)
+        return least_machine(tuple([-factor for factor in factors]), -most)
     if most is None:
-        return least_machine((0, -1, 1), least)
-    return between_machine((0, -1, 1), least, most)
+        return least_machine(factors, least)
+    return between_machine(factors, least, most)
 
 
 def cells_machine(place, cell):
     """The rows (n, j, i) for which a place at j is the cell at i."""
+    at_size, at_place, at_cell, start = cells_sum(place, cell)
+    return between_machine((at_size, at_place, at_cell), start, start + place.divisor - 1)
+
+
+def meeting_machine(one, other):
+    """The rows (n, i, k) for which two places are of one cell, that of one at i; one of them is not divided."""
+    if other.divisor == 1:
+        return cells_machine(one, other.straight)
+    at_size, at_place, at_cell, start = cells_sum(other, one.straight)
+    return between_machine((at_size, at_cell, at_place), start, start + other.divisor - 1)
+
+
+def cells_sum(place, cell):
+    """The factors of the size, and of the counters of a place and of a cell, in the sum that the place has ahead of
+    the cell, times the divisor; and what this sum is at the least if they are of one cell."""
     straight = place.straight
     divisor = place.divisor
-    factors = (straight.n - divisor * cell.n, straight.i, -divisor * cell.i)
-    start = divisor * cell.one - straight.one
-    return between_machine(factors, start, start + divisor - 1)
+    at_size = straight.n - divisor * cell.n
+    return at_size, straight.i, -divisor * cell.i, divisor * cell.one - straight.one
 
 
 def value_machine(straight):

@@ -91,3 +91,23 @@ def or_error(function, *arguments):
         return function(*arguments)
     except LoopError as error:
         return error.__class__.__name__
+
+
+def kept_program(chance):
+    """A program whose array t is often kept between: a first loop writes many cells, the others read and write them."""
+    many = chance.choice([Straight(0, 2, 6), Straight(0, 1, 9), Straight(0, 3, 3)])
+    first = Statement("t", Straight(chance.choice([1, 1, 1, 2]), 0, chance.choice([0, -3, -4])), 1,
+                      reads=[Read("a", Straight(1, 0, 0))])
+    loops = [Loop(0, many, [first], down=chance.random() < 0.3)]
+    for _ in range(chance.randint(1, 2)):
+        statements = []
+        for _ in range(chance.randint(1, 2)):
+            place = Place(Straight(chance.choice([1, 1, 2, 0]), chance.choice([0, 0, 1]), chance.randint(-2, 2)),
+                          chance.choice([1, 1, 2, 3]))
+            array = chance.choice(["t", "b"])
+            conditions = [random_condition(chance) for _ in range(chance.choice([0, 0, 1]))]
+            statements.append(Statement(array, Straight(chance.choice([1, 1, 2, 0]), 0, chance.randint(-2, 3)), 1,
+                                        reads=[Read("t", place)], conditions=conditions))
+        loops.append(Loop(chance.choice([0, 1, 2]), Straight(0, 1, chance.randint(-1, 1)), statements,
+                          step=chance.choice([1, 1, 2]), down=chance.random() < 0.4))
+    return Program(loops)

@@ -10,6 +10,7 @@ from loopsize.counts import count_of
 from loopsize.digitsets import digit_set
 from loopsize.formulas import count_from, formula_of
 from loopsize.programs import Loop, Program, Read, Statement
+from loopsize.rewriting import turn_loop
 from loopsize.runs import Stepper, log_program, run_program
 from loopsize.straights import Place, Straight
 from loopsize.texts import program_text, read_program
@@ -38,6 +39,15 @@ FUNCTIONS = {
               "readers_of(program, writer)"],
     "lasts": ["stays(program, writer)", "last_works(program, writer)", "untouched(program, array)",
               "last_at(program, n, array, cell, *, work=None)", "source_at(program, n, read, j)"],
+    "unread": ["unread(program, writer)", "idle(program, writer)", "overwritten(program, writer, other)"],
+    "rewriting": ["swap_loops(program, loop)", "swap_statements(program, loop, statement)", "turn_loop(program, loop)",
+                  "join_loops(program, loop)", "split_loop(program, loop, statement)",
+                  "cut_loop(program, loop, place)", "deal_loop(program, loop, many)",
+                  "unroll_loop(program, loop, many)", "no_rewriting(program)"],
+    "orders": ["lost_work(rewriting)", "is_whole(rewriting)", "turned_pair(rewriting)", "is_let(rewriting)"],
+    "sameflow": ["unlike_flow(rewriting)", "has_same_flow(rewriting)"],
+    "folding": ["fold_distances(program, name)", "fold_least(program, name)", "fold_is_right(program, name, m)",
+                "fold_fails(program, name, m)"],
 }
 CLASSES = {
     ("digitsets", "DigitSet"): ["__contains__(self, x)", "__eq__(self, other)"],
@@ -64,6 +74,7 @@ CLASSES = {
     ("runs", "Log"): ["last_writer(self, array, cell)", "term_of(self, work, depth)"],
     ("runs", "Stepper"): ["__init__(self, program, n, *, start=())", "many_done(self)", "next_work(self)",
                           "do_work(self)", "undo_work(self)", "go_to(self, many)", "value_of(self, array, cell)"],
+    ("rewriting", "Rewriting"): ["then(self, other)", "origin(self, work)", "places(self, n, work)"],
 }
 SMALL = "for i from 0 below n:\n a[i] = 1 + 2 * b[i]\n if i >= 1 and n mod 2 == 0: c[0] = a[i] - a[i // 2]\n"
 
@@ -79,7 +90,8 @@ def things():
     statement = program.loops[0].statements[1]
     return [below, count_of(below), formula_of(count_of(below)), Straight(1, 2, 3), Place(Straight(1, 0, 0), 2),
             statement.conditions[0], statement.conditions[1], statement.reads[0], statement, program.loops[0], program,
-            run_program(program, 2), log_program(program, 2), Stepper(program, 2), errors.AtEnd()]
+            run_program(program, 2), log_program(program, 2), Stepper(program, 2), turn_loop(program, 0),
+            errors.AtEnd()]
 
 
 class InterfaceTest(unittest.TestCase):
@@ -104,7 +116,8 @@ class InterfaceTest(unittest.TestCase):
             ("rows", "period", "start", "early"), ("i", "n", "one"), ("straight", "divisor"), ("straight",),
             ("straight", "modulus", "rest"), ("array", "place", "factor"),
             ("array", "cell", "constant", "reads", "conditions"), ("low", "high", "statements", "step", "down"),
-            ("loops", "arrays"), ("many_works",), ("works", "writes", "takes"), (), (),
+            ("loops", "arrays"), ("many_works",), ("works", "writes", "takes"), (),
+            ("before", "after", "origins"), (),
         ]
         for thing, names in zip(things(), wanted):
             for name in names:

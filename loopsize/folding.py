@@ -1,0 +1,103 @@
+"""In how few places an array can be kept that is used in between only."""
+
+from math import gcd
+
+from loopsize.checks import check_array
+from loopsize.conditionsets import joined_at_last, rest_machine
+from loopsize.cuts import left_machine, put_machine
+from loopsize.digitsets import least_told_set
+from loopsize.distances import cells_apart, distance_machines, triples_of
+from loopsize.errors import BadNumber, NotKept
+from loopsize.kinds import is_integer, is_integer_from
+from loopsize.machines import BOTH, EITHER, joined_freely
+from loopsize.members import tail_of_machine
+from loopsize.relations import gap_ahead
+from loopsize.searches import least_first, least_row
+from loopsize.shifts import first_at, least_size
+from loopsize.sources import Sources, in_any, is_empty, reads_of
+
+MOST_FAILING = 100
+
+
+def kept_sources(program, array):
+    """What tells the sources of a program; refuses an array of which some read takes the value of the beginning."""
+    check_array(program, array)
+    sources = Sources(program)
+    found = []
+    for read in reads_of(program, array):
+        machine = sources.of_access(read, 0)[1]
+        if not is_empty(machine):
+            found.append((*read, machine))
+    if found:
+        n = least_size([entry[3] for entry in found])
+        loop, counter, statement, number = first_at(program, n, found)
+        raise NotKept(n, (loop, counter, statement), number)
+    return sources
+
+
+def fold_distances(program, name):
+    """The pairs (size, distance)."""
+    rows, ends = joined_at_last(distance_machines(kept_sources(program, name), name), EITHER)
+    return least_told_set(rows, ends)
+
+
+def tail_of_distances(sources, name):
+    """How the distances of all sizes go on: (start, period, rests, early)."""
+    return tail_of_machine(in_any([left_machine(machine, 0) for machine in distance_machines(sources, name)]))
+
+
+def fold_least(program, name):
+    """The least right number, or None."""
+    start, period, rests, early = tail_of_distances(kept_sources(program, name), name)
+    if 0 in rests:
+        return None
+    is_early = {number: True for number in early}
+    is_wrong = {}
+    m = 0
+    while True:
+        m += 1
+        common = gcd(m, period)
+        if common not in is_wrong:
+            is_wrong[common] = divides_one(common, rests)
+        if not is_wrong[common] and not any([d in is_early for d in range(m, start, m)]):
+            return m
+
+
+def divides_one(m, numbers):
+    return any([number % m == 0 for number in numbers])
+
+
+def fold_is_right(program, name, m):
+    """Whether m is right."""
+    sources = kept_sources(program, name)
+    if not is_integer(m) or m < 1:
+        raise BadNumber("m", m)
+    _, period, rests, early = tail_of_distances(sources, name)
+    return not divides_one(gcd(m, period), rests) and not divides_one(m, early)
+
+
+def fold_fails(program, name, m):
+    """(n, r, read, w, v) with a distance that m divides, at the least size; None if m is right."""
+    sources = kept_sources(program, name)
+    if not is_integer_from(m, 1, MOST_FAILING):
+        raise BadNumber("m", m)
+    best = None
+    for triple in triples_of(sources, name):
+        factors, constant = cells_apart(program, triple[1], triple[2])
+        failing = joined_freely(triple[3], rest_machine(factors, m, (-constant % m,)), BOTH)
+        n = least_first(failing)
+        if n is not None and (best is None or n < best[0]):
+            best = (n, triple, failing)
+    return None if best is None else failing_works(sources, best)
+
+
+def failing_works(sources, found):
+    """The works of a size, a triple and the machine of the rows of it that fail."""
+    n, triple, failing = found
+    read, source, other, _ = triple
+    n, i, k = least_row(failing, 3, n)
+    taken = sources.of_access(read, 0)[0][source]
+    most = gap_ahead(sources.program, read[:2], other)[1]
+    readers = put_machine(put_machine(taken, 2, i), 0, n)
+    j = least_row(readers, 1, 0 if most is None else max(0, k - most))[0]
+    return n, (read[0], j, read[1]), read[2], (source[0], i, source[1]), (other[0], k, other[1])

@@ -1,0 +1,65 @@
+"""Machines with one number moved, and the first of the works that a machine has at one size."""
+
+from loopsize.cuts import put_machine
+from loopsize.machines import minimal
+from loopsize.searches import greatest_in, least_first
+
+
+def moved_machine(machine, place, shift):
+    """The rows that are in with the number at the place less by the shift. A state has what is carried, too."""
+    if shift == 0:
+        return machine
+    rows, ends = machine
+    mark = 1 << place
+    place_of = {(0, -shift): 0}
+    met = [(0, -shift)]
+    told = []
+    while len(told) < len(met):
+        state, carry = met[len(told)]
+        row = []
+        for letter in range(len(rows[0])):
+            total = carry + (1 if letter & mark else 0)
+            then = (rows[state][letter & ~mark | (mark if total & 1 else 0)], total >> 1)
+            if then not in place_of:
+                place_of[then] = len(met)
+                met.append(then)
+            row.append(place_of[then])
+        told.append(row)
+    return minimal(told, [ends_moved(rows, ends, mark, state, carry) for state, carry in met])
+
+
+def ends_moved(rows, ends, mark, state, carry):
+    """Whether the row may end here: the carry still makes digits, and below 0 there are no numbers."""
+    while carry > 0:
+        state = rows[state][mark if carry & 1 else 0]
+        carry = carry >> 1
+    return carry == 0 and ends[state]
+
+
+def first_counter(machine, n, down):
+    """The first counter that is in at a size by a machine of pairs (n, i), None if there is none."""
+    there = put_machine(machine, 0, n)
+    return greatest_in(there) if down else least_first(there)
+
+
+def first_at(program, n, found):
+    """The first work at a size, with its least mark: found has tuples (loop, statement, mark, machine of pairs (n, i)).
+
+    It is (loop, counter, statement, mark), None if there is none.
+    """
+    for place, loop in enumerate(program.loops):
+        firsts = []
+        for other, statement, mark, machine in found:
+            counter = first_counter(machine, n, loop.down) if other == place else None
+            if counter is not None:
+                firsts.append((-counter if loop.down else counter, statement, mark))
+        if firsts:
+            counter, statement, mark = min(firsts)
+            return place, -counter if loop.down else counter, statement, mark
+    return None
+
+
+def least_size(machines):
+    """The least first number of the rows of some machines, None if they have none."""
+    sizes = [least_first(machine) for machine in machines]
+    return min([n for n in sizes if n is not None], default=None)
