@@ -116,20 +116,39 @@ def negative(count):
 def total_of(counts):
     """The sum of counts: their systems stand side by side."""
     length = max([1] + [count.length for count in counts])
-    counts = [count for count in counts if count.firsts]
-    if len(counts) == 1:
-        return Count((counts[0].sections, counts[0].firsts, counts[0].rules), length)
-    start = []
+    counts = together_by_rules([count for count in counts if count.firsts])
+    if len(counts) == 1 and counts[0][2]:
+        return Count(counts[0][2], length)
+    start = {}
     firsts = []
     low = []
     high = []
-    for count in counts:
-        places = list(range(len(firsts), len(firsts) + len(count.firsts)))
-        start = start + [1 if place == places[0] else 0 for place in places]
-        firsts = firsts + list(count.firsts)
-        low = low + moved_step(count.steps[0], places)
-        high = high + moved_step(count.steps[1], places)
+    for own, steps, _ in counts:
+        places = list(range(len(firsts), len(firsts) + len(own)))
+        start[places[0]] = 1
+        firsts = firsts + own
+        low = low + moved_step(steps[0], places)
+        high = high + moved_step(steps[1], places)
     return Count(least_system((start, (low, high), firsts), False), length)
+
+
+def together_by_rules(counts):
+    """(firsts, steps, told) for each rules of the counts: those with the same rules are added up.
+
+    told is what makes the count, if there was just one with these rules, otherwise it is empty.
+    """
+    told = []
+    done = []
+    for at, count in enumerate(counts):
+        if at in done:
+            continue
+        same = [place for place in range(at, len(counts)) if counts[place].rules == count.rules]
+        done = done + same
+        firsts = [sum(column) for column in list(zip(*[counts[place].firsts for place in same]))]
+        if any([first != 0 for first in firsts]):
+            parts = (count.sections, count.firsts, count.rules) if len(same) == 1 else ()
+            told.append((firsts, count.steps, parts))
+    return told
 
 
 def moved_step(step, places):
@@ -142,8 +161,12 @@ def product_of(one, other):
     firsts = [first * second for first in one.firsts for second in other.firsts]
     low = product_step(one.steps[0], other.steps[0], wide)
     high = product_step(one.steps[1], other.steps[1], wide)
-    start = [1 if place == 0 else 0 for place in range(len(firsts))]
-    return Count(least_system((start, (low, high), firsts), False), one.length + other.length - 1)
+    return Count(least_system((first_alone(firsts), (low, high), firsts), False), one.length + other.length - 1)
+
+
+def first_alone(firsts):
+    """The row that tells the first function of a system, if there is one."""
+    return {0: 1} if firsts else {}
 
 
 def product_step(one, other, wide):
@@ -167,8 +190,7 @@ def count_of_machine(machine):
     if -1 in firsts:
         goals = [many == -1 for many in firsts]
         raise Endless(least_from(machine[0], goals, [], 0, arity - 1))
-    start = [1 if state == 0 else 0 for state in range(len(firsts))]
-    return Count(least_system((start, path_steps(machine[0]), firsts), False), arity)
+    return Count(least_system(({0: 1}, path_steps(machine[0]), firsts), False), arity)
 
 
 def sum_of(counts):
@@ -197,8 +219,7 @@ def composed(count, factor, shift):
             low = place[then // 2]
             places = list(range(low, low + len(count.firsts)))
             steps[digit].extend(moved_step(count.steps[then % 2], places))
-    start = [1 if at == 0 else 0 for at in range(len(firsts))]
-    return Count(least_system((start, steps, firsts), False), count.length)
+    return Count(least_system((first_alone(firsts), steps, firsts), False), count.length)
 
 
 def carries_from(factor, shift):
@@ -231,9 +252,8 @@ def total_below(count):
         more.append((common, tuple(parts + extra)))
     places = list(range(many, 2 * many))
     steps = (sums + moved_step(low, places), more + moved_step(high, places))
-    start = [1 if at == 0 else 0 for at in range(2 * many)]
     firsts = [0] * many + list(count.firsts)
-    return Count(least_system((start, steps, firsts), False), count.length + 1)
+    return Count(least_system((first_alone(firsts), steps, firsts), False), count.length + 1)
 
 
 def parts_together(one, other):

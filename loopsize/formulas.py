@@ -5,12 +5,15 @@ from math import comb
 from loopsize.counts import Count
 from loopsize.errors import BadNumber, TooFar, TooMany
 from loopsize.rowvalues import differences, first_positive, moved_back, peak_from, row_value
-from loopsize.systems import column_at, column_behind, least_system, pivot_of, reduced
+from loopsize.sectionvalues import values_behind
+from loopsize.systems import column_at, column_behind, least_system, pivot_of, reduced, row_of
 
 TOP_PERIOD = 60
 TOP_START = 10000
 TOP_EARLY = 60
 TIERS = (6, 20, 60)
+MANY_SECTIONS = 24
+SOME = 8
 
 
 class Formula:
@@ -32,78 +35,63 @@ class Formula:
 
 
 def value_of_rows(rows, n):
-    return row_value(rows[n % len(rows)], n // len(rows))
+    row = rows[n % len(rows)]
+    return row[0] if len(row) == 1 else row_value(row, n // len(rows))
 
 
 def formula_of(count):
     """The formula of a count, with the least period, length and start.
 
-    Small periods are tried first, as fewer values tell whether they may be right.
+    Far away, where the count surely has the values of its formula, the least period that will do is looked for. Small
+    ones are tried first, as fewer values tell whether they may be right; but not if it takes long to see that they
+    are not.
     """
     if not count.firsts:
         return Formula(((0,),), 0, ())
-    for top in TIERS:
-        formula = formula_up_to(count, top)
-        if formula is not None:
-            return formula
+    levels = (2 * TOP_PERIOD * count.length).bit_length()
+    far = 1 << max(len(count.sections), levels)
+    column = column_at(count.steps, list(count.firsts), far >> levels)
+    for top in TIERS if len(count.sections) <= MANY_SECTIONS else TIERS[-1:]:
+        values = values_behind(count.steps, column, levels, 2 * top * count.length)
+        period = period_in(values, count.length, top)
+        if period is not None:
+            formula = formula_with(count, rows_in(values, far, period, count.length))
+            if formula is not None:
+                return formula
     raise TooFar("period", TOP_PERIOD)
 
 
-def formula_up_to(count, top):
-    """The formula if its period is not above top, otherwise None.
-
-    Far away, where the count surely has the values of its formula, the least period that will do is looked for. If
-    that is by chance alone, the rows found do not go together with the rules of the count.
-    """
-    far = 1 << len(count.sections)
-    values = values_from(count, far, 2 * top * count.length)
-    period = period_in(values, count.length, top)
-    if period is None:
-        return None
-    rows = rows_in(values, far, period, count.length)
+def formula_with(count, rows):
+    """The formula with these rows; None if the values that told them were so by chance alone."""
     tables = section_tables(count, rows)
-    start = start_of(count, tables) if fit_rules(count, tables) else None
-    return None if start is None else Formula(rows, start, tuple(values_from(count, 0, start)))
-
-
-def values_from(count, low, many):
-    """The values of a count at low, low + 1, and so on."""
-    if many == 0:
-        return []
-    columns = columns_from(count, low // 2, (low + many - 1) // 2 - low // 2 + 1)
-    told = []
-    for number in range(low, low + many):
-        factor, parts = count.steps[number % 2][0]
-        column = columns[number // 2 - low // 2]
-        told.append(sum([x * column[j] for j, x in parts]) // factor)
-    return told
-
-
-def columns_from(count, low, many):
-    """The values of all kept sections at low, low + 1, and so on, each made from those at half the number."""
-    if many <= 2:
-        return [column_at(count.steps, list(count.firsts), number) for number in range(low, low + many)]
-    columns = columns_from(count, low // 2, (low + many - 1) // 2 - low // 2 + 1)
-    told = []
-    for number in range(low, low + many):
-        told.append(column_behind(count.steps[number % 2], columns[number // 2 - low // 2]))
-    return told
+    if not fit_rules(count, tables):
+        return None
+    many = many_unlike(count, tables)
+    if many is None:
+        return None
+    values = values_behind(count.steps, list(count.firsts), many.bit_length(), many)
+    start = many
+    while start > 0 and values[start - 1] == value_of_rows(rows, start - 1):
+        start -= 1
+    if start > TOP_START:
+        raise TooFar("start", TOP_START)
+    return Formula(rows, start, tuple(values[:start]))
 
 
 def period_in(values, length, top):
     """The least period up to top for rows of this length that the values have, None if there is none."""
-    signs = [comb(length, j) * (-1 if j % 2 == 1 else 1) for j in range(length + 1)]
     for period in range(1, top + 1):
-        if is_period(values, period, signs):
+        # Most periods are refused by few values.
+        if is_period(values[:period * length + SOME], period, length) and is_period(values, period, length):
             return period
     return None
 
 
-def is_period(values, period, signs):
-    for at in range(len(values) - period * (len(signs) - 1)):
-        if sum([sign * values[at + j * period] for j, sign in enumerate(signs)]) != 0:
-            return False
-    return True
+def is_period(values, period, length):
+    """Whether the differences at a distance of the period, made as often as the rows are long, are 0."""
+    for _ in range(length - 1):
+        values = [after - before for before, after in zip(values, values[period:])]
+    return values[period:] == values[:len(values) - period]
 
 
 def rows_in(values, far, period, length):
@@ -127,50 +115,45 @@ def needed_length(row):
 def section_tables(count, rows):
     """For each kept section the values of the rows where the section takes its own: twice as many as tell them all."""
     many = 2 * len(rows) * len(rows[0])
-    return [[value_of_rows(rows, (n << k) + r) for n in range(many)] for k, r in count.sections]
+    if len(rows[0]) > 1:
+        return [[value_of_rows(rows, (n << k) + r) for n in range(many)] for k, r in count.sections]
+    values = [row[0] for row in rows]
+    return [[values[((n << k) + r) % len(rows)] for n in range(many)] for k, r in count.sections]
 
 
 def fit_rules(count, tables):
     """Whether the sections of the rows keep to the rules of those of the count."""
-    for table, pair in zip(tables, count.rules):
-        for digit in (0, 1):
-            many, factors = pair[digit]
-            used = [(factor, other) for factor, other in zip(factors, tables) if factor != 0]
-            for n in range(len(table) // 2):
-                if many * table[2 * n + digit] != sum([factor * other[n] for factor, other in used]):
-                    return False
+    for digit in (0, 1):
+        for table, (many, parts) in zip(tables, count.steps[digit]):
+            told = table[digit::2]
+            if many != 1:
+                told = [many * value for value in told]
+            if told != sum_of_tables(tables, parts, len(told)):
+                return False
     return True
 
 
-def start_of(count, tables):
-    """The least number from which on the count has the values of the rows, None if there is none.
+def sum_of_tables(tables, parts, many):
+    """The sums of some tables, each one so often, at the numbers below many."""
+    if len(parts) == 1 and parts[0][1] == 1:
+        return tables[parts[0][0]][:many]
+    told = [0] * many
+    for j, factor in parts:
+        told = [value + factor * entry for value, entry in zip(told, tables[j])]
+    return told
+
+
+def many_unlike(count, tables):
+    """A number from which on the count has the values of the rows, None if there is none.
 
     What the sections of both differ by keeps to the rules of the count, too. So if all of them are alike at all
     numbers of one length, they are so at all longer ones.
     """
     column = [first - table[0] for first, table in zip(count.firsts, tables)]
-    start = 1 if column[0] != 0 else 0
-    first = column_behind(count.steps[1], column)
-    many = lengths_unlike(count.steps, first)
-    if many is None:
-        return None
-    if (1 << many) > 2 * TOP_START:
+    many = lengths_unlike(count.steps, column_behind(count.steps[1], column))
+    if many is not None and (1 << many) > 2 * TOP_START:
         raise TooFar("start", TOP_START)
-    wave = [(1, first)]
-    for _ in range(many):
-        start = max([start] + [number + 1 for number, unlike in wave if unlike[0] != 0])
-        wave = [pair for pair in columns_behind(count.steps, wave) if not is_nothing(pair[1])]
-    if start > TOP_START:
-        raise TooFar("start", TOP_START)
-    return start
-
-
-def columns_behind(steps, wave):
-    told = []
-    for number, column in wave:
-        for digit in (0, 1):
-            told.append((2 * number + digit, column_behind(steps[digit], column)))
-    return told
+    return None if many is None else 1 << many
 
 
 def lengths_unlike(steps, first):
@@ -185,7 +168,7 @@ def lengths_unlike(steps, first):
         before = columns
         basis, columns = independent_ones(behind)
         many += 1
-        if many > len(first) or all([is_nothing(reduced(basis, column)) for column in before]):
+        if many > len(first) or all([not reduced(basis, row_of(column)) for column in before]):
             return None
     return many
 
@@ -195,16 +178,12 @@ def independent_ones(columns):
     basis = []
     told = []
     for column in columns:
-        row = reduced(basis, column)
-        pivot = pivot_of(row, len(row))
+        row = reduced(basis, row_of(column))
+        pivot = pivot_of(row, len(column))
         if pivot is not None:
             basis.append((pivot, row))
             told.append(column)
     return basis, told
-
-
-def is_nothing(row):
-    return not any([entry != 0 for entry in row])
 
 
 def count_from(early, rows):
@@ -222,15 +201,15 @@ def count_from(early, rows):
     for row in rows:
         flat.extend([*row, *([0] * (length - len(row)))])
     many = len(flat)
-    start = flat + [value - value_of_rows(rows, n) for n, value in enumerate(early)]
-    firsts = [1 if at in (0, many) else 0 for at in range(len(start))]
+    entries = flat + [value - value_of_rows(rows, n) for n, value in enumerate(early)]
+    firsts = [1 if at in (0, many) else 0 for at in range(len(entries))]
     steps = []
     for digit in (0, 1):
         step = row_step(len(rows), length, digit)
         for n in range(len(early)):
             step.append((1, ((many + n // 2, 1),) if n % 2 == digit else ()))
         steps.append(step)
-    return Count(least_system((start, steps, firsts), True), length)
+    return Count(least_system((row_of(entries), steps, firsts), True), length)
 
 
 def row_step(period, length, digit):
