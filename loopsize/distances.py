@@ -18,7 +18,7 @@ def triples_of(sources, array):
     writers = writers_of(sources.program, array)
     told = []
     for read in reads_of(sources.program, array):
-        taken = sources.of_access(read, 0)[0]
+        taken = sources.taken_by(read)
         for source in taken:
             for other in writers:
                 machine = between_works(sources, read, source, taken[source], other)

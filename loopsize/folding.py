@@ -25,7 +25,7 @@ def kept_sources(program, array):
     sources = Sources(program)
     found = []
     for read in reads_of(program, array):
-        machine = sources.of_access(read, 0)[1]
+        machine = sources.without_source(read, 0)
         if not is_empty(machine):
             found.append((*read, machine))
     if found:
@@ -96,7 +96,7 @@ def failing_works(sources, found):
     n, triple, failing = found
     read, source, other, _ = triple
     n, i, k = least_row(failing, 3, n)
-    taken = sources.of_access(read, 0)[0][source]
+    taken = sources.taken_from(read, source)
     most = gap_ahead(sources.program, read[:2], other)[1]
     readers = put_machine(put_machine(taken, 2, i), 0, n)
     j = least_row(readers, 1, 0 if most is None else max(0, k - most))[0]

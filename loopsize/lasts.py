@@ -24,9 +24,7 @@ def stays_machine(sources, writer):
     told = sources.works_of(writer)
     for loop, statement in writers_of(sources.program, array):
         access = (loop, statement, len(statement_at(sources.program, loop, statement).reads))
-        later = sources.candidates(access, writer)
-        if later is not None:
-            told = joined(told, left_machine(later, 1), FIRST_ALONE)
+        told = joined(told, left_machine(sources.candidates(access, writer), 1), FIRST_ALONE)
     return told
 
 

@@ -163,8 +163,11 @@ def joined_freely(one, other, keep):
     wide = len(other[0])
     rows_one, first_one = numbered(one, wide, [verdict_of(keep[e]) for e in (0, 1)])
     rows_other, first_other = numbered(other, 1, [verdict_of((keep[0][e], keep[1][e])) for e in (0, 1)])
-    codes = [code_of(first_one + first_other)]
-    place = {codes[0]: 0}
+    first = first_one + first_other
+    if first < 0:
+        first = SURELY_IN if first < BETWEEN else SURELY_OUT
+    codes = [first]
+    place = {first: 0}
     rows = []
     while len(rows) < len(codes):
         code = codes[len(rows)]
@@ -175,7 +178,7 @@ def joined_freely(one, other, keep):
         for x, y in zip(rows_one[code // wide], rows_other[code % wide]):
             then = x + y
             if then < 0:
-                then = code_of(then)
+                then = SURELY_IN if then < BETWEEN else SURELY_OUT
             if then not in place:
                 place[then] = len(codes)
                 codes.append(then)
@@ -199,12 +202,6 @@ def numbered(machine, factor, sure):
     verdicts = settled(rows, ends, sure)
     numbers = [verdict or state * factor for state, verdict in enumerate(verdicts)]
     return [[numbers[then] for then in row] for row in rows], numbers[0]
-
-
-def code_of(total):
-    if total >= 0:
-        return total
-    return SURELY_IN if total < BETWEEN else SURELY_OUT
 
 
 def in_both(one, other):

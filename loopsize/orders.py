@@ -55,4 +55,4 @@ def turned_pair(rewriting):
 
 def is_let(rewriting):
     """Whether the rewriting is whole and keeps the order."""
-    return is_whole(rewriting) and not Turnings(rewriting).is_turned(None)
+    return is_whole(rewriting) and not Turnings(rewriting).is_turned()

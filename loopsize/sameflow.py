@@ -2,12 +2,12 @@
 
 from loopsize.cuts import left_machine
 from loopsize.lasts import stays_machine
-from loopsize.machines import UNLIKE, empty_machine, joined
+from loopsize.machines import EITHER, FIRST_ALONE, UNLIKE, empty_machine, joined
 from loopsize.orders import check_whole, is_whole
 from loopsize.rewriting import stands_for
 from loopsize.shifts import first_at, least_size, moved_machine
 from loopsize.sources import Sources, in_any, is_empty, reads_of, writers_of
-from loopsize.turnings import turned_arrays
+from loopsize.turnings import Turnings
 
 
 def unlike_flow(rewriting):
@@ -21,15 +21,17 @@ def first_unlike_flow(rewriting):
     """The same of a rewriting that is whole."""
     before = Sources(rewriting.before)
     after = Sources(rewriting.after)
-    reads = []
-    works = []
-    # The flow in an array hangs on nothing but the order of the works that meet there.
-    for array in turned_arrays(rewriting):
-        for read in reads_of(rewriting.before, array):
-            reads.append((*read, unlike_reads(rewriting, before, after, read)))
-        for writer in writers_of(rewriting.before, array):
-            works.append((*writer, 0, unlike_works(rewriting, before, after, writer)))
-    return first_unlike(rewriting.before, kept_entries(reads), kept_entries(works))
+    turnings = Turnings(rewriting)
+    # Sources hang on the order of a read and the writes of its cell, and on that of these writes, alone.
+    mixed = turnings.mixed_arrays()
+    reads = turnings.moved_reads(mixed)
+    writers = []
+    for array in mixed:
+        reads = reads + reads_of(rewriting.before, array)
+        writers = writers + writers_of(rewriting.before, array)
+    unlike_there = [(*read, machine) for read in reads for machine in unlike_reads(rewriting, before, after, read)]
+    works = [(*writer, 0, unlike_works(rewriting, before, after, writer)) for writer in writers]
+    return first_unlike(rewriting.before, kept_entries(unlike_there), kept_entries(works))
 
 
 def kept_entries(found):
@@ -47,28 +49,33 @@ def first_unlike(program, reads, works):
 
 
 def unlike_reads(rewriting, before, after, read):
-    """The pairs (n, j) at which a read takes from unlike works in both programs."""
-    one = before.of_access(read, 0)[0]
-    other = taken_after(rewriting, after, read)
-    unlike = [empty_machine(2)]
-    for writer in sorted(set([*one, *other])):
-        parts = joined(one.get(writer, empty_machine(3)), other.get(writer, empty_machine(3)), UNLIKE)
-        unlike.append(left_machine(parts, 2))
-    return in_any(unlike)
+    """Machines of pairs (n, j): at those of one of them a read takes from unlike works in both programs, or in one
+    program alone from the input."""
+    one = before.taken_by(read)
+    other, free_after = taken_after(rewriting, after, read)
+    unlike = [joined(before.without_source(read, 0), free_after, FIRST_ALONE)]
+    for writer in one:
+        lost = joined(one[writer], other[writer], FIRST_ALONE) if writer in other else one[writer]
+        unlike.append(left_machine(lost, 2))
+    return unlike
 
 
 def taken_after(rewriting, after, read):
-    """From which works a read of the program before takes in the one after: for each writer the rows (n, j, i), with
-    the counters that both have in the program before."""
+    """From which works a read of the program before takes in the one after: for each writer the rows (n, j, i), and
+    the pairs (n, j) of the input, with the counters in the program before."""
     told = {}
+    free = empty_machine(2)
     for loop, statement, shift in stands_for(rewriting, read[0], read[1]):
-        taken = after.of_access((loop, statement, read[2]), 0)[0]
+        access = (loop, statement, read[2])
+        taken = after.taken_by(access)
+        free = joined(free, moved_machine(after.without_source(access, 0), 1, shift), EITHER)
         for writer in taken:
             first, number, more = rewriting.origins[writer[0]][writer[1]]
             machine = moved_machine(moved_machine(taken[writer], 1, shift), 2, more)
-            known = told.get((first, number), empty_machine(3))
-            told[(first, number)] = in_any([known, machine])
-    return told
+            if (first, number) in told:
+                machine = joined(told[(first, number)], machine, EITHER)
+            told[(first, number)] = machine
+    return told, free
 
 
 def unlike_works(rewriting, before, after, writer):

@@ -5,19 +5,22 @@ An access is that of a read or of a write; the source of a write is the work tha
 
 from loopsize.checks import statement_at
 from loopsize.conditionsets import in_all, least_machine
-from loopsize.cuts import left_freely, left_machine
-from loopsize.machines import BOTH, EITHER, FIRST_ALONE, empty_machine, joined, joined_freely, minimal, widened_machine
+from loopsize.cuts import left_machine
+from loopsize.machines import BOTH, EITHER, FIRST_ALONE, empty_machine, joined, joined_freely, widened_machine
 from loopsize.relations import ANY_GAP, cells_machine, gap_ahead, gap_machine, place_of_access
 from loopsize.workmachines import work_machine
 
 
 class Sources:
-    """Tells of a program which works are there, and from which ones the accesses take."""
+    """Tells of a program which works are there, and from which ones the accesses take. It keeps what it has told."""
 
     def __init__(self, program):
         self.program = program
         self.works = {}
         self.wide = {}
+        self.found = {}
+        self.late = {}
+        self.rests = {}
 
     def works_of(self, name):
         """The machine of the works (n, i) of a statement."""
@@ -50,58 +53,69 @@ class Sources:
         return [gap_machine(gap), self.wide_works(one, 2), self.wide_works(other, 1)]
 
     def candidates(self, access, writer):
-        """The machine of the rows (n, j, i) at which a writer at i has written the cell ahead of an access at j; None
-        if there are none."""
-        gap = gap_ahead(self.program, access[:2], writer)
-        if gap is None:
-            return None
-        order = [] if gap == ANY_GAP else [gap_machine(gap)]
-        told = in_all(order + self.same_cell_parts(access, writer))
-        return None if is_empty(told) else told
+        """The machine of the rows (n, j, i) at which a writer at i has written the cell ahead of an access at j."""
+        key = (access, writer)
+        if key not in self.found:
+            gap = gap_ahead(self.program, access[:2], writer)
+            if gap is None:
+                self.found[key] = empty_machine(3)
+            else:
+                order = [] if gap == ANY_GAP else [gap_machine(gap)]
+                self.found[key] = in_all(order + self.same_cell_parts(access, writer))
+        return self.found[key]
 
-    def of_access(self, access, until):
-        """The sources of an access among the loops from its own one down to the loop until.
+    def with_later(self, access, writer):
+        """The rows (n, j, k) such that a writer has written the cell ahead of an access in a later turn than k."""
+        key = (access, writer)
+        if key not in self.late:
+            machine = widened_machine(self.candidates(access, writer), 2)
+            factors = (0, 0, 1, -1) if self.program.loops[writer[0]].down else (0, 0, -1, 1)
+            rows, ends = joined_freely(machine, least_machine(factors, 1), BOTH)
+            self.late[key] = left_machine((rows, ends), 3)
+        return self.late[key]
 
-        They are a dict with a machine of rows (n, j, i) for each writer that is a source, and the machine of the
-        pairs (n, j) that have no source there.
-        """
-        rest = self.works_of(access[:2])
-        told = {}
-        for loop in reversed(range(until, access[0] + 1)):
-            found = self.of_loop(access, loop)
-            if found and not is_empty(rest):
-                wide = widened_machine(rest, 2)
-                for writer, machine in self.last_ones(loop, found):
-                    taken = machine if loop == access[0] else joined(machine, wide, BOTH)
-                    if not is_empty(taken):
-                        told[writer] = taken
-                rest = joined(rest, left_machine(in_any([machine for _, machine in found]), 2), FIRST_ALONE)
-        return told, rest
+    def without_source(self, access, loop):
+        """The works (n, j) of an access whose cell no work has written ahead of it from the loop on."""
+        if loop > access[0]:
+            return self.works_of(access[:2])
+        key = (access, loop)
+        if key not in self.rests:
+            told = self.without_source(access, loop + 1)
+            for writer in self.writers_for(access, loop):
+                told = joined(told, left_machine(self.candidates(access, writer), 2), FIRST_ALONE)
+            self.rests[key] = told
+        return self.rests[key]
 
-    def of_loop(self, access, loop):
-        """Pairs (writer, machine) of the candidates in a loop."""
-        array = place_of_access(self.program, access)[0]
-        told = []
-        for writer in writers_in(self.program, loop, array):
-            machine = self.candidates(access, writer)
-            if machine is not None:
-                told.append((writer, machine))
+    def writers_for(self, access, loop):
+        return writers_in(self.program, loop, place_of_access(self.program, access)[0])
+
+    def taken_from(self, access, writer):
+        """The machine of the rows (n, j, i) at which the source of an access at j is the work of a writer at i."""
+        loop = writer[0]
+        told = self.candidates(access, writer)
+        if loop < access[0] and not is_empty(told):
+            told = joined(told, widened_machine(self.without_source(access, loop + 1), 2), BOTH)
+        cell = statement_at(self.program, loop, writer[1]).cell
+        for other in self.writers_for(access, loop):
+            if is_empty(told):
+                return told
+            # A cell that goes with the counter is written in one turn alone.
+            other_cell = statement_at(self.program, loop, other[1]).cell
+            if other_cell.i == 0 or other_cell != cell:
+                told = joined(told, self.with_later(access, other), FIRST_ALONE)
+            if other[1] > writer[1]:
+                told = joined(told, self.candidates(access, other), FIRST_ALONE)
         return told
 
-    def last_ones(self, loop, found):
-        """The same pairs with those works alone that are the last ones of the loop to write the cell."""
-        cells = [statement_at(self.program, writer[0], writer[1]).cell for writer, _ in found]
-        told = found
-        if cells[0].i == 0 or any([cell != cells[0] for cell in cells]):
-            every = in_any([machine for _, machine in found])
-            early = with_later(every, self.program.loops[loop].down)
-            told = [(writer, joined(machine, early, FIRST_ALONE)) for writer, machine in found]
-        last = []
-        for at, (writer, machine) in enumerate(told):
-            for _, other in told[at + 1:]:
-                machine = joined(machine, other, FIRST_ALONE)
-            last.append((writer, machine))
-        return last
+    def taken_by(self, access):
+        """For each writer that is a source of an access the same machine."""
+        told = {}
+        for loop in range(access[0] + 1):
+            for writer in self.writers_for(access, loop):
+                machine = self.taken_from(access, writer)
+                if not is_empty(machine):
+                    told[writer] = machine
+        return told
 
 
 def is_empty(machine):
@@ -114,14 +128,6 @@ def in_any(machines):
     for machine in machines[1:]:
         told = joined(told, machine, EITHER)
     return told
-
-
-def with_later(machine, down):
-    """The rows (n, j, i) such that some row (n, j, k) is in with k in a later turn than i."""
-    factors = (0, 0, 1, -1) if down else (0, 0, -1, 1)
-    rows, ends = joined_freely(widened_machine(machine, 2), least_machine(factors, 1), BOTH)
-    rows, ends = left_freely((rows, ends), 3)
-    return minimal(rows, ends)
 
 
 def writers_in(program, loop, array):

@@ -6,14 +6,14 @@ which comes first in the program after.
 
 from loopsize.conditionsets import in_all
 from loopsize.cuts import left_machine, put_machine
-from loopsize.machines import widened_machine
+from loopsize.machines import BOTH, joined_freely, widened_machine
 from loopsize.relations import gap_ahead, gap_machine, meeting_machine, place_of_access
 from loopsize.rewriting import stands_for
 from loopsize.shifts import first_at, least_size, moved_machine
-from loopsize.sources import in_any, is_empty
 from loopsize.workmachines import work_machine
 
 FAR_GAP = 600
+WRITE = -1
 
 
 class Stand:
@@ -42,44 +42,70 @@ class Turnings:
         self.stands = stands_of(rewriting)
         self.meetings = {}
 
-    def meeting_of(self, one, other, array):
-        """The machine of the rows (n, i, k) at which two statements meet, in one array or, for None, in any; None if
-        they do not touch it."""
-        key = (one, other, array)
-        if key not in self.meetings:
-            found = []
-            for name, place, other_place in meeting_places(self.rewriting.before, one, other):
-                if array is None or name == array:
-                    found.append(meeting_machine(place, other_place))
-            self.meetings[key] = in_any(found) if found else None
-        return self.meetings[key]
+    def meetings_of(self, one, other):
+        """For two accesses each of two statements that touch one array, one of them a write: tuples (access, access,
+        array, machine), the machine of the rows (n, i, k) at which they are of one cell."""
+        if (one, other) not in self.meetings:
+            told = []
+            for access, array, place in all_places(self.rewriting.before, one):
+                for other_access, other_array, other_place in all_places(self.rewriting.before, other):
+                    if array == other_array and WRITE in (access, other_access):
+                        told.append((access, other_access, array, meeting_machine(place, other_place)))
+            self.meetings[(one, other)] = told
+        return self.meetings[(one, other)]
 
-    def machine_of(self, one, other, array):
-        """The machine of the rows (n, i, k) of two stands that meet and change places; None if it has no rows."""
+    def machine_of(self, one, other, meeting):
+        """A machine of the rows (n, i, k) of two stands that meet so and change places, None if it has no rows; it may
+        have more states than are needed."""
         gap = turned_gap(self.rewriting, one, other)
-        meeting = None if gap is None else self.meeting_of(one.name, other.name, array)
-        if meeting is None:
+        if gap is None:
             return None
-        told = in_all([gap_machine(gap), meeting, one.wide_works(2), other.wide_works(1)])
-        return None if is_empty(told) else told
+        told = in_all([gap_machine(gap), meeting, one.wide_works(2)])
+        rows, ends = joined_freely(told, other.wide_works(1), BOTH)
+        return (rows, ends) if True in ends else None
 
     def pairs(self):
-        """(name, other name, machine) for all stands of which works meet and change places."""
+        """(name, other name, machine) for all accesses of stands at which works meet and change places."""
         told = []
         for one in self.stands:
             for other in self.stands:
-                machine = self.machine_of(one, other, None)
-                if machine is not None:
-                    told.append((one.name, other.name, machine))
+                for _, _, _, meeting in self.meetings_of(one.name, other.name):
+                    machine = self.machine_of(one, other, meeting)
+                    if machine is not None:
+                        told.append((one.name, other.name, machine))
         return told
 
-    def is_turned(self, array):
-        """Whether works meet and change places in one array or, for None, in any one."""
+    def is_turned(self):
+        """Whether any works meet and change places."""
         for one in self.stands:
             for other in self.stands:
-                if self.machine_of(one, other, array) is not None:
-                    return True
+                for _, _, _, meeting in self.meetings_of(one.name, other.name):
+                    if self.machine_of(one, other, meeting) is not None:
+                        return True
         return False
+
+    def mixed_arrays(self):
+        """The arrays of which two writes of one cell change places."""
+        told = []
+        for one in self.stands:
+            for other in self.stands:
+                for access, other_access, array, meeting in self.meetings_of(one.name, other.name):
+                    if access == other_access == WRITE and array not in told:
+                        if self.machine_of(one, other, meeting) is not None:
+                            told.append(array)
+        return told
+
+    def moved_reads(self, mixed):
+        """The reads that change places with a write of their cell, in arrays that are not mixed."""
+        told = []
+        for one in self.stands:
+            for other in self.stands:
+                for access, other_access, array, meeting in self.meetings_of(one.name, other.name):
+                    read = (*other.name, other_access) if access == WRITE else (*one.name, access)
+                    if array not in mixed and read[2] != WRITE and read not in told:
+                        if self.machine_of(one, other, meeting) is not None:
+                            told.append(read)
+        return told
 
 
 def stands_of(rewriting):
@@ -124,27 +150,14 @@ def has_no_gap(gap, steps):
     return not any([all([(d - rest) % step == 0 for step, rest in steps]) for d in range(least, most + 1)])
 
 
-def meeting_places(program, one, other):
-    """For each two accesses of two statements that touch one array, one of them a write: (array, place, place)."""
-    accesses = [all_places(program, name) for name in (one, other)]
-    told = []
-    for at, (array, place) in enumerate(accesses[0]):
-        for to, (other_array, other_place) in enumerate(accesses[1]):
-            is_write = at + 1 == len(accesses[0]) or to + 1 == len(accesses[1])
-            if array == other_array and is_write:
-                told.append((array, place, other_place))
-    return told
-
-
 def all_places(program, name):
+    """For each access of a statement (access, array, place); that of the write is told as WRITE."""
     many = len(program.loops[name[0]].statements[name[1]].reads)
-    return [place_of_access(program, (name[0], name[1], access)) for access in range(many + 1)]
-
-
-def turned_arrays(rewriting):
-    """The arrays in which works meet and change places."""
-    turnings = Turnings(rewriting)
-    return [array for array in rewriting.before.arrays if turnings.is_turned(array)]
+    told = []
+    for access in range(many + 1):
+        array, place = place_of_access(program, (name[0], name[1], access))
+        told.append((access if access < many else WRITE, array, place))
+    return told
 
 
 def first_turned(rewriting):

@@ -3,7 +3,6 @@
 from loopsize.checks import check_statement, statement_at
 from loopsize.cuts import left_machine
 from loopsize.digitsets import told_set
-from loopsize.flows import takes_machine
 from loopsize.lasts import stays_machine
 from loopsize.machines import FIRST_ALONE, joined
 from loopsize.sources import Sources, reads_of
@@ -18,7 +17,7 @@ def unread(program, writer):
 def unread_machine(sources, writer):
     told = sources.works_of(writer)
     for read in reads_of(sources.program, statement_at(sources.program, writer[0], writer[1]).array):
-        told = joined(told, left_machine(takes_machine(sources, read, writer), 1), FIRST_ALONE)
+        told = joined(told, left_machine(sources.taken_from(read, writer), 1), FIRST_ALONE)
     return told
 
 
@@ -39,4 +38,4 @@ def overwritten(program, writer, other):
     loop, statement = other
     check_statement(program, loop, statement)
     write = (loop, statement, len(statement_at(program, loop, statement).reads))
-    return told_set(takes_machine(Sources(program), write, tuple(writer)))
+    return told_set(Sources(program).taken_from(write, tuple(writer)))
