@@ -144,7 +144,8 @@ def together_by_rules(counts):
             continue
         same = [place for place in range(at, len(counts)) if counts[place].rules == count.rules]
         done = done + same
-        firsts = [sum(column) for column in list(zip(*[counts[place].firsts for place in same]))]
+        rows = [counts[place].firsts for place in same]
+        firsts = [sum(column) for column in list(zip(*rows))]
         if any([first != 0 for first in firsts]):
             parts = (count.sections, count.firsts, count.rules) if len(same) == 1 else ()
             told.append((firsts, count.steps, parts))

@@ -89,7 +89,8 @@ def refined(rows, marks, most):
     columns = list(zip(*rows))
     many = 0
     while True:
-        keys = list(zip(marks, *[[marks[then] for then in column] for column in columns]))
+        behind = [[marks[then] for then in column] for column in columns]
+        keys = list(zip(marks, *behind))
         table = dict(zip(keys, range(len(keys))))
         if len(table) == many:
             return marks

@@ -4,7 +4,7 @@ from loopsize.checks import check_size, check_statement
 from loopsize.counts import count_of_machine, differs_at, sum_of
 from loopsize.errors import NoNumber, NoWork
 from loopsize.formulas import first_from, formula_of
-from loopsize.turnsets import done_turns, is_done_in, last_of_turns, many_before, many_of, next_of_turns
+from loopsize.turnsets import CYCLE, done_turns, is_done_in, last_of_turns, many_before, many_of, next_of_turns
 from loopsize.workmachines import work_machine
 
 
@@ -56,23 +56,30 @@ def position_of(program, n, tables, number):
         number -= works_in(tables[loop])
         loop += 1
     columns = tables[loop]
-    turn = turn_with(columns, program.loops[loop].many_turns(n), number)
+    turn = turn_with(columns, number)
     number -= works_before(columns, turn)
     done = [statement for statement, turns in enumerate(columns) if is_done_in(turns, turn)]
     return loop, turn, done[number]
 
 
-def turn_with(columns, many, number):
-    """The turn that does the work with this number among those of the loop."""
-    low = 0
-    high = many - 1
-    while low < high:
-        middle = (low + high) // 2
-        if works_before(columns, middle + 1) > number:
-            high = middle
-        else:
-            low = middle + 1
-    return low
+def turn_with(columns, number):
+    """The turn that does the work with this number among those of the loop.
+
+    Between two turns at which a statement begins or ends, the same is done in each cycle of turns.
+    """
+    marks = sorted(set([0] + [turns[0] for turns in columns] + [turns[1] + 1 for turns in columns]))
+    starts = [mark for mark in marks if works_before(columns, mark) <= number]
+    turn = starts[-1]
+    number -= works_before(columns, turn)
+    per_cycle = sum([len(turns[2]) for turns in columns if turns[0] <= turn <= turns[1]])
+    turn += number // per_cycle * CYCLE
+    number = number % per_cycle
+    done = [turns for turns in columns if is_done_in(turns, turn)]
+    while number >= len(done):
+        number -= len(done)
+        turn += 1
+        done = [turns for turns in columns if is_done_in(turns, turn)]
+    return turn
 
 
 def turn_of_work(program, n, work):

@@ -234,7 +234,7 @@ class LanguageTest(unittest.TestCase):
                     self.fail_at(name, node, "is not gone over on the spot")
 
     def test_names(self):
-        every = set(dir(builtins))
+        every = set(dir(builtins)) - {"_"}
         for name, tree in self.trees.items():
             top = [part.name for part in tree.body if isinstance(part, ast.ClassDef)]
             for part in tree.body:
