@@ -22,12 +22,12 @@ def first_unlike_flow(rewriting):
     before = Sources(rewriting.before)
     after = Sources(rewriting.after)
     turnings = Turnings(rewriting)
-    # Sources hang on the order of a read and the writes of its cell, and on that of these writes, alone.
+    # Sources hang on the order of a read and the writes of its cell, and on that of the writes ahead of it, alone.
     mixed = turnings.mixed_arrays()
     reads = turnings.moved_reads(mixed)
     writers = []
     for array in mixed:
-        reads = reads + reads_of(rewriting.before, array)
+        reads = reads + [read for read in reads_of(rewriting.before, array) if read[0] >= mixed[array]]
         writers = writers + writers_of(rewriting.before, array)
     unlike_there = [(*read, machine) for read in reads for machine in unlike_reads(rewriting, before, after, read)]
     works = [(*writer, 0, unlike_works(rewriting, before, after, writer)) for writer in writers]

@@ -39,8 +39,14 @@ class Turnings:
 
     def __init__(self, rewriting):
         self.rewriting = rewriting
-        self.stands = stands_of(rewriting)
         self.meetings = {}
+        self.couples = []
+        stands = stands_of(rewriting)
+        for one in stands:
+            for other in stands:
+                gap = turned_gap(rewriting, one, other)
+                if gap is not None:
+                    self.couples.append((one, other, gap))
 
     def meetings_of(self, one, other):
         """For two accesses each of two statements that touch one array, one of them a write: tuples (access, access,
@@ -54,12 +60,10 @@ class Turnings:
             self.meetings[(one, other)] = told
         return self.meetings[(one, other)]
 
-    def machine_of(self, one, other, meeting):
+    def machine_of(self, couple, meeting):
         """A machine of the rows (n, i, k) of two stands that meet so and change places, None if it has no rows; it may
         have more states than are needed."""
-        gap = turned_gap(self.rewriting, one, other)
-        if gap is None:
-            return None
+        one, other, gap = couple
         told = in_all([gap_machine(gap), meeting, one.wide_works(2)])
         rows, ends = joined_freely(told, other.wide_works(1), BOTH)
         return (rows, ends) if True in ends else None
@@ -67,45 +71,51 @@ class Turnings:
     def pairs(self):
         """(name, other name, machine) for all accesses of stands at which works meet and change places."""
         told = []
-        for one in self.stands:
-            for other in self.stands:
-                for _, _, _, meeting in self.meetings_of(one.name, other.name):
-                    machine = self.machine_of(one, other, meeting)
-                    if machine is not None:
-                        told.append((one.name, other.name, machine))
+        for couple in self.couples:
+            one, other, _ = couple
+            for _, _, _, meeting in self.meetings_of(one.name, other.name):
+                machine = self.machine_of(couple, meeting)
+                if machine is not None:
+                    told.append((one.name, other.name, machine))
         return told
 
     def is_turned(self):
         """Whether any works meet and change places."""
-        for one in self.stands:
-            for other in self.stands:
-                for _, _, _, meeting in self.meetings_of(one.name, other.name):
-                    if self.machine_of(one, other, meeting) is not None:
-                        return True
+        for couple in self.couples:
+            one, other, _ = couple
+            for _, _, _, meeting in self.meetings_of(one.name, other.name):
+                if self.machine_of(couple, meeting) is not None:
+                    return True
         return False
 
     def mixed_arrays(self):
-        """The arrays of which two writes of one cell change places."""
-        told = []
-        for one in self.stands:
-            for other in self.stands:
-                for access, other_access, array, meeting in self.meetings_of(one.name, other.name):
-                    if access == other_access == WRITE and array not in told:
-                        if self.machine_of(one, other, meeting) is not None:
-                            told.append(array)
+        """The arrays of which two writes of one cell change places: a dict with, for each of them, the first loop of
+        the program before by which both writes can be done."""
+        told = {}
+        for couple in sorted(self.couples, key=last_loop):
+            one, other, _ = couple
+            for access, other_access, array, meeting in self.meetings_of(one.name, other.name):
+                if access == other_access == WRITE and array not in told:
+                    if self.machine_of(couple, meeting) is not None:
+                        told[array] = last_loop(couple)
         return told
 
     def moved_reads(self, mixed):
-        """The reads that change places with a write of their cell, in arrays that are not mixed."""
+        """The reads that change places with a write of their cell, but for those behind writes that do so."""
         told = []
-        for one in self.stands:
-            for other in self.stands:
-                for access, other_access, array, meeting in self.meetings_of(one.name, other.name):
-                    read = (*other.name, other_access) if access == WRITE else (*one.name, access)
-                    if array not in mixed and read[2] != WRITE and read not in told:
-                        if self.machine_of(one, other, meeting) is not None:
-                            told.append(read)
+        for couple in self.couples:
+            one, other, _ = couple
+            for access, other_access, array, meeting in self.meetings_of(one.name, other.name):
+                read = (*other.name, other_access) if access == WRITE else (*one.name, access)
+                is_behind = array in mixed and read[0] >= mixed[array]
+                if read[2] != WRITE and not is_behind and read not in told:
+                    if self.machine_of(couple, meeting) is not None:
+                        told.append(read)
         return told
+
+
+def last_loop(couple):
+    return max(couple[0].name[0], couple[1].name[0])
 
 
 def stands_of(rewriting):
