@@ -8,9 +8,13 @@ the other one always writes another cell.
 from loopsize.checks import statement_at
 from loopsize.conditionsets import between_machine, in_all, least_machine
 from loopsize.cuts import left_freely, left_machine
-from loopsize.machines import BOTH, empty_machine, joined_freely, minimal, widened_machine
+from loopsize.guesses import Guesses
+from loopsize.machines import BOTH, EITHER, FIRST_ALONE, empty_machine, joined, joined_freely, minimal
+from loopsize.machines import widened_machine
 from loopsize.relations import ANY_GAP, difference_machine, gap_ahead
-from loopsize.sources import in_any, is_empty, reads_of, writers_of
+from loopsize.sources import is_empty, reads_of, writers_of
+
+MANY_BUNDLES = 1000
 
 
 def triples_of(sources, array):
@@ -53,25 +57,43 @@ def cells_apart(program, source, other):
     return (two.n - one.n, -one.i, two.i), two.one - one.one
 
 
-def distance_machines(sources, array):
-    """Machines of pairs (n, d) such that d is a distance of the array at n: each one is in one of them, at least."""
-    together = {}
+def distance_rows(sources, array):
+    """Machines of rows (n, i, k, d) such that d is a distance of the array at n: all distances are in one of them."""
+    told = []
     for _, source, other, machine in triples_of(sources, array):
-        together.setdefault((source, other), []).append(machine)
-    told = [empty_machine(2)]
-    for source, other in together:
-        machine = widened_machine(in_any(together[(source, other)]), 3)
         factors, constant = cells_apart(sources.program, source, other)
         for sign in (1, -1):
-            part = distances_in(machine, (*factors, -sign), constant)
-            if not is_empty(part):
+            apart = between_machine((*factors, -sign), -constant, -constant)
+            part = in_all([apart, least_machine((0, 0, 0, 1), 1), widened_machine(machine, 3)])
+            if not is_empty(part) and part not in told:
                 told.append(part)
     return told
 
 
-def distances_in(machine, factors, constant):
-    """The pairs (n, d), d from 1 on, out of rows (n, i, k, d) with a sum of 0."""
-    rows, ends = joined_freely(machine, between_machine(factors, -constant, -constant), BOTH)
-    rows, ends = joined_freely((rows, ends), least_machine((0, 0, 0, 1), 1), BOTH)
-    rows, ends = left_freely((rows, ends), 2)
-    return left_machine(minimal(rows, ends), 1)
+def distance_numbers(sources, array):
+    """The machine of all distances of an array."""
+    told = empty_machine(1)
+    for part in distance_rows(sources, array):
+        rows, ends = Guesses([part], (3,)).machine()
+        told = joined(told, minimal(rows, ends), EITHER)
+    return told
+
+
+def distance_pairs(sources, array, most):
+    """The machine of the pairs (n, d) such that d is a distance of the array at n; None if it surely has more states
+    than these."""
+    parts = distance_rows(sources, array)
+    if parts and Guesses(parts, (0, 3)).surely_above(most, MANY_BUNDLES):
+        return None
+    told = empty_machine(2)
+    for part in sorted(parts, key=many_states):
+        # What is known need not be found again: often nothing is left of what would take longest.
+        known = widened_machine(widened_machine(told, 1), 2)
+        rows, ends = joined_freely(part, known, FIRST_ALONE)
+        if True in ends:
+            told = joined(told, left_machine(left_machine(minimal(rows, ends), 2), 1), EITHER)
+    return told
+
+
+def many_states(machine):
+    return len(machine[0])

@@ -3,18 +3,18 @@
 from math import gcd
 
 from loopsize.checks import check_array
-from loopsize.conditionsets import joined_at_last, rest_machine
-from loopsize.cuts import left_machine, put_machine
-from loopsize.digitsets import least_told_set
-from loopsize.distances import cells_apart, distance_machines, triples_of
-from loopsize.errors import BadNumber, NotKept
+from loopsize.conditionsets import rest_machine
+from loopsize.cuts import put_machine
+from loopsize.digitsets import MOST_STATES, told_set
+from loopsize.distances import cells_apart, distance_numbers, distance_pairs, triples_of
+from loopsize.errors import BadNumber, NotKept, TooLarge
 from loopsize.kinds import is_integer, is_integer_from
-from loopsize.machines import BOTH, EITHER, joined_freely
+from loopsize.machines import BOTH, joined_freely
 from loopsize.members import tail_of_machine
 from loopsize.relations import gap_ahead
 from loopsize.searches import least_first, least_row
 from loopsize.shifts import first_at, least_size
-from loopsize.sources import Sources, in_any, is_empty, reads_of
+from loopsize.sources import Sources, is_empty, reads_of
 
 MOST_FAILING = 100
 
@@ -37,13 +37,15 @@ def kept_sources(program, array):
 
 def fold_distances(program, name):
     """The pairs (size, distance)."""
-    rows, ends = joined_at_last(distance_machines(kept_sources(program, name), name), EITHER)
-    return least_told_set(rows, ends)
+    machine = distance_pairs(kept_sources(program, name), name, MOST_STATES)
+    if machine is None:
+        raise TooLarge(MOST_STATES)
+    return told_set(machine)
 
 
 def tail_of_distances(sources, name):
     """How the distances of all sizes go on: (start, period, rests, early)."""
-    return tail_of_machine(in_any([left_machine(machine, 0) for machine in distance_machines(sources, name)]))
+    return tail_of_machine(distance_numbers(sources, name))
 
 
 def fold_least(program, name):
