@@ -205,16 +205,9 @@ def numbered(machine, factor, sure):
     return [[numbers[then] for then in row] for row in rows], numbers[0]
 
 
-def in_both(one, other):
-    return joined(one, other, BOTH)
-
-
-def in_either(one, other):
-    return joined(one, other, EITHER)
-
-
 def in_first_alone(one, other):
-    return joined(one, other, FIRST_ALONE)
+    """The rows that are in one machine and not in the other one; often this changes nothing."""
+    return joined(one, other, FIRST_ALONE) if True in joined_freely(one, other, BOTH)[1] else one
 
 
 def turned(machine):

@@ -1,12 +1,11 @@
 """Whether a rewriting leaves to each read its source, and to each cell its last work."""
 
-from loopsize.cuts import left_machine
 from loopsize.lasts import stays_machine
-from loopsize.machines import EITHER, FIRST_ALONE, UNLIKE, empty_machine, joined
+from loopsize.machines import EITHER, FIRST_ALONE, UNLIKE, empty_machine, joined, joined_freely
 from loopsize.orders import check_whole, is_whole
 from loopsize.rewriting import stands_for
 from loopsize.shifts import first_at, least_size, moved_machine
-from loopsize.sources import Sources, in_any, is_empty, reads_of, writers_of
+from loopsize.sources import Sources, in_any, reads_of, writers_of
 from loopsize.turnings import Turnings
 
 
@@ -35,7 +34,7 @@ def first_unlike_flow(rewriting):
 
 
 def kept_entries(found):
-    return [entry for entry in found if not is_empty(entry[3])]
+    return [entry for entry in found if True in entry[3][1]]
 
 
 def first_unlike(program, reads, works):
@@ -49,14 +48,14 @@ def first_unlike(program, reads, works):
 
 
 def unlike_reads(rewriting, before, after, read):
-    """Machines of pairs (n, j): at those of one of them a read takes from unlike works in both programs, or in one
-    program alone from the input."""
+    """Machines of rows (n, j) or (n, j, i): at the counters j of one of them a read takes from unlike works in both
+    programs, or in one program alone from the input. They may have more states than are needed."""
     one = before.taken_by(read)
     other, free_after = taken_after(rewriting, after, read)
-    unlike = [joined(before.without_source(read, 0), free_after, FIRST_ALONE)]
+    unlike = [joined_freely(before.without_source(read, 0), free_after, FIRST_ALONE)]
     for writer in one:
-        lost = joined(one[writer], other[writer], FIRST_ALONE) if writer in other else one[writer]
-        unlike.append(left_machine(lost, 2))
+        lost = one[writer]
+        unlike.append(joined_freely(lost, other[writer], FIRST_ALONE) if writer in other else lost)
     return unlike
 
 
@@ -83,7 +82,7 @@ def unlike_works(rewriting, before, after, writer):
     there = [empty_machine(2)]
     for loop, statement, shift in stands_for(rewriting, writer[0], writer[1]):
         there.append(moved_machine(stays_machine(after, (loop, statement)), 1, shift))
-    return joined(stays_machine(before, writer), in_any(there), UNLIKE)
+    return joined_freely(stays_machine(before, writer), in_any(there), UNLIKE)
 
 
 def has_same_flow(rewriting):

@@ -1,7 +1,7 @@
 """Machines with one number moved, and the first of the works that a machine has at one size."""
 
-from loopsize.cuts import put_machine
-from loopsize.machines import minimal
+from loopsize.cuts import left_machine, put_machine
+from loopsize.machines import arity_of, minimal
 from loopsize.searches import greatest_in, least_first
 
 
@@ -37,15 +37,17 @@ def ends_moved(rows, ends, mark, state, carry):
 
 
 def first_counter(machine, n, down):
-    """The first counter that is in at a size by a machine of pairs (n, i), None if there is none."""
+    """The first counter that is in at a size by a machine of rows (n, i) or (n, i, k), None if there is none."""
     there = put_machine(machine, 0, n)
+    if arity_of(there) > 1:
+        there = left_machine(there, 1)
     return greatest_in(there) if down else least_first(there)
 
 
 def first_at(program, n, found):
-    """The first work at a size, with its least mark: found has tuples (loop, statement, mark, machine of pairs (n, i)).
+    """The first work at a size, with its least mark: (loop, counter, statement, mark), None if there is none.
 
-    It is (loop, counter, statement, mark), None if there is none.
+    found has tuples (loop, statement, mark, machine), the machine of rows (n, i) or (n, i, k).
     """
     for place, loop in enumerate(program.loops):
         firsts = []

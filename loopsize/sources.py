@@ -6,7 +6,7 @@ An access is that of a read or of a write; the source of a write is the work tha
 from loopsize.checks import statement_at
 from loopsize.conditionsets import in_all, least_machine
 from loopsize.cuts import left_machine
-from loopsize.machines import BOTH, EITHER, FIRST_ALONE, empty_machine, joined, joined_freely, widened_machine
+from loopsize.machines import BOTH, EITHER, empty_machine, in_first_alone, joined, joined_freely, widened_machine
 from loopsize.relations import ANY_GAP, cells_machine, gap_ahead, gap_machine, place_of_access
 from loopsize.workmachines import work_machine
 
@@ -82,7 +82,7 @@ class Sources:
         if key not in self.rests:
             told = self.without_source(access, loop + 1)
             for writer in self.writers_for(access, loop):
-                told = joined(told, left_machine(self.candidates(access, writer), 2), FIRST_ALONE)
+                told = in_first_alone(told, left_machine(self.candidates(access, writer), 2))
             self.rests[key] = told
         return self.rests[key]
 
@@ -102,9 +102,9 @@ class Sources:
             # A cell that goes with the counter is written in one turn alone.
             other_cell = statement_at(self.program, loop, other[1]).cell
             if other_cell.i == 0 or other_cell != cell:
-                told = joined(told, self.with_later(access, other), FIRST_ALONE)
+                told = in_first_alone(told, self.with_later(access, other))
             if other[1] > writer[1]:
-                told = joined(told, self.candidates(access, other), FIRST_ALONE)
+                told = in_first_alone(told, self.candidates(access, other))
         return told
 
     def taken_by(self, access):

@@ -5,7 +5,7 @@ which comes first in the program after.
 """
 
 from loopsize.conditionsets import in_all
-from loopsize.cuts import left_machine, put_machine
+from loopsize.cuts import put_machine
 from loopsize.machines import BOTH, joined_freely, widened_machine
 from loopsize.relations import gap_ahead, gap_machine, meeting_machine, place_of_access
 from loopsize.rewriting import stands_for
@@ -177,7 +177,7 @@ def first_turned(rewriting):
         return None
     program = rewriting.before
     n = least_size([machine for _, _, machine in found])
-    firsts = [(one[0], one[1], 0, left_machine(machine, 2)) for one, _, machine in found]
+    firsts = [(one[0], one[1], 0, machine) for one, _, machine in found]
     loop, counter, statement, _ = first_at(program, n, firsts)
     behind = []
     for one, other, machine in found:

@@ -5,11 +5,12 @@ import unittest
 
 from loopsize.digitsets import digit_set, is_all, is_none
 from loopsize.errors import BadNumber, BadSize, NoArray, NoLoop, NoRead, NoStatement, NoWork
-from loopsize.flows import takes
+from loopsize.flows import takes, takes_input
 from loopsize.lasts import last_at, last_works, source_at, stays, untouched
 from loopsize.runs import log_program
 from loopsize.spaces import work_set
 from loopsize.texts import program_text, read_program
+from loopsize.works import count_works, work_at
 from tests.samples import or_error, statements_in
 from tests.test_flows import FIRST, MORE, SECOND, programs
 from tests.test_runs import BAD_SIZES
@@ -116,6 +117,32 @@ class LastsTest(unittest.TestCase):
                 self.assertTrue((BIG, j, source[1]) in told)
         self.assertTrue((BIG, 6, 3) in last_works(TWICE, (0, 0)))
         self.assertTrue(is_none(last_works(read_program("for i from 0 below n:\n x[-i - 1] = 1\n"), (0, 0))))
+
+    def test_sets_and_points_agree_at_great_sizes(self):
+        for program in programs(65, 15):
+            told = {writer: (stays(program, writer), last_works(program, writer)) for writer in statements_in(program)}
+            for n in (173, BIG - 1, BIG):
+                total = count_works(program, n)
+                for number in (0, total // 3, total // 2, total - 2, total - 1):
+                    if 0 <= number < total:
+                        self.check_work(program, n, work_at(program, n, number), told)
+
+    def check_work(self, program, n, work, told):
+        loop, i, number = work
+        statement = program.loops[loop].statements[number]
+        cell = statement.cell(i, n)
+        is_last = last_at(program, n, statement.array, cell) == work
+        self.assertIs((n, i) in told[loop, number][0], is_last, program_text(program))
+        if cell >= 0:
+            self.assertIs((n, cell, i) in told[loop, number][1], is_last, program_text(program))
+            self.assertFalse((n, cell) in untouched(program, statement.array))
+        for read in range(len(statement.reads)):
+            source = source_at(program, n, (loop, number, read), i)
+            self.assertIs((n, i) in takes_input(program, (loop, number, read)), source is None, program_text(program))
+            if source is not None:
+                taken = takes(program, (loop, number, read), (source[0], source[2]))
+                self.assertTrue((n, i, source[1]) in taken, program_text(program))
+                self.assertFalse((n, i, source[1] + 1) in taken, program_text(program))
 
     def test_errors_and_their_order(self):
         for value in NONE:
