@@ -6,7 +6,7 @@ from loopsize.errors import TooLarge
 from loopsize.kinds import is_natural
 from loopsize.largeness import is_laborious, surely_above
 from loopsize.machines import BOTH, EITHER, FIRST_ALONE, arity_of, joined_freely, minimal_up_to
-from loopsize.machines import reordered_machine, turned, widened_machine
+from loopsize.machines import in_first_alone, reordered_machine, turned, widened_machine
 
 MOST_STATES = 400
 
@@ -67,6 +67,16 @@ def least_told_set(rows, ends):
 def joined_set(a, b, keep):
     rows, ends = joined_freely(machine_of(a), machine_of(b), keep)
     return least_told_set(rows, ends)
+
+
+def set_without(machine, left):
+    """The set of the rows that are in a machine and in none of those that are left out, if it may be told."""
+    case = [machine] + [turned(other) for other in left]
+    if is_laborious([case]) and surely_above([case], MOST_STATES):
+        raise TooLarge(MOST_STATES)
+    for other in left:
+        machine = in_first_alone(machine, other)
+    return told_set(machine)
 
 
 def digit_set(arity, cases):

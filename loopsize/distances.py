@@ -9,8 +9,8 @@ from loopsize.checks import statement_at
 from loopsize.conditionsets import between_machine, in_all, least_machine
 from loopsize.cuts import left_freely, left_machine
 from loopsize.guesses import Guesses
-from loopsize.machines import BOTH, EITHER, FIRST_ALONE, empty_machine, joined, joined_freely, minimal
-from loopsize.machines import widened_machine
+from loopsize.machines import BOTH, EITHER, FIRST_ALONE, empty_machine, full_machine, joined, joined_freely
+from loopsize.machines import minimal, widened_machine
 from loopsize.relations import ANY_GAP, difference_machine, gap_ahead
 from loopsize.sources import is_empty, reads_of, writers_of
 
@@ -83,7 +83,7 @@ def distance_pairs(sources, array, most):
     """The machine of the pairs (n, d) such that d is a distance of the array at n; None if it surely has more states
     than these."""
     parts = distance_rows(sources, array)
-    if parts and Guesses(parts, (0, 3)).surely_above(most, MANY_BUNDLES):
+    if parts and Guesses(parts, (0, 3)).surely_above(most, MANY_BUNDLES, full_machine(2)):
         return None
     told = empty_machine(2)
     for part in sorted(parts, key=many_states):

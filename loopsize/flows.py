@@ -1,7 +1,8 @@
 """From which works reads take their values."""
 
 from loopsize.checks import check_read, check_statement, statement_at
-from loopsize.digitsets import told_set
+from loopsize.digitsets import set_without, told_set
+from loopsize.remainders import remaining_set
 from loopsize.sources import Sources, is_empty, reads_of
 
 
@@ -9,13 +10,22 @@ def takes(program, read, writer):
     """All (n, j, i) at which the source of the read at j is the work of writer at i."""
     check_read(program, read)
     check_statement(program, writer[0], writer[1])
-    return told_set(Sources(program).taken_from(tuple(read), tuple(writer)))
+    return taken_set(Sources(program), tuple(read), tuple(writer))
+
+
+def taken_set(sources, access, writer):
+    """All (n, j, i) at which the source of an access at j is the work of writer at i."""
+    candidates = sources.candidates(access, writer)
+    if is_empty(candidates):
+        return told_set(candidates)
+    return set_without(candidates, sources.parts_behind(access, writer))
 
 
 def takes_input(program, read):
     """All (n, j) at which the source of the read at j is the input."""
     check_read(program, read)
-    return told_set(Sources(program).without_source(tuple(read), 0))
+    sources = Sources(program)
+    return remaining_set(sources.works_of(tuple(read)[:2]), sources.candidates_from(tuple(read), 0), 2)
 
 
 def sources_of(program, read):

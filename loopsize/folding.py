@@ -12,20 +12,26 @@ from loopsize.kinds import is_integer, is_integer_from
 from loopsize.machines import BOTH, joined_freely
 from loopsize.members import tail_of_machine
 from loopsize.relations import gap_ahead
+from loopsize.runs import log_program
 from loopsize.searches import least_first, least_row
 from loopsize.shifts import first_at, least_size
-from loopsize.sources import Sources, is_empty, reads_of
+from loopsize.sources import Sources, is_empty, reads_of, without_all
 
 MOST_FAILING = 100
+SMALL_SIZES = 6
+MANY_TURNS = 100
 
 
 def kept_sources(program, array):
     """What tells the sources of a program; refuses an array of which some read takes the value of the beginning."""
     check_array(program, array)
+    early = early_not_kept(program, array)
+    if early is not None:
+        raise NotKept(early[0], early[1], early[2])
     sources = Sources(program)
     found = []
     for read in reads_of(program, array):
-        machine = sources.without_source(read, 0)
+        machine = without_all(sources.works_of(read[:2]), sources.reaches_from(read, 0))
         if not is_empty(machine):
             found.append((*read, machine))
     if found:
@@ -33,6 +39,19 @@ def kept_sources(program, array):
         loop, counter, statement, number = first_at(program, n, found)
         raise NotKept(n, (loop, counter, statement), number)
     return sources
+
+
+def early_not_kept(program, array):
+    """What is seen at some small sizes already, by plain logs: (n, work, read), or None."""
+    for n in range(SMALL_SIZES):
+        if sum([loop.many_turns(n) for loop in program.loops]) > MANY_TURNS:
+            return None
+        log = log_program(program, n)
+        for work, taken in zip(log.works, log.takes):
+            for number, (name, _, source) in enumerate(taken):
+                if name == array and source is None:
+                    return n, work, number
+    return None
 
 
 def fold_distances(program, name):

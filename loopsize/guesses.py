@@ -4,6 +4,8 @@ The digits of the numbers that are left out are guessed: a state is a bundle of 
 integer with the bits of these, and it is the rows that are in by one of the machines that are told.
 """
 
+from loopsize.cuts import states_in
+from loopsize.largeness import side_by_side
 from loopsize.machines import leads_to
 
 MANY_BITS = 10
@@ -86,27 +88,38 @@ class Guesses:
             width = width * len(self.groups)
         return told
 
-    def surely_above(self, most, many):
-        """Whether among so many bundles more than these surely differ, as rows of few digits tell."""
+    def surely_above(self, most, many, whole):
+        """Whether the machine of the rows that are in a machine of the kept numbers and not in by one of these ones
+        surely has more states: they are counted among so many bundles, told apart by rows of few digits."""
         short = self.few_digits()
-        bundles = [self.first & self.bits_of([True] * len(self.rows))]
-        is_met = {bundles[0]: True}
+        short_whole = few_digits_of(whole)
+        met = [(0, self.first & self.bits_of([True] * len(self.rows)))]
+        is_met = {met[0]: True}
         is_found = {}
         at = 0
-        while at < len(bundles) and at < many and len(is_found) <= most:
-            told = 0
-            bundle = bundles[at]
-            while bundle:
-                low = bundle & -bundle
-                told = told | short[low.bit_length() - 1]
-                bundle = bundle ^ low
-            is_found[told] = True
-            for then in self.bundles_behind(bundles[at]):
+        while at < len(met) and at < many and len(is_found) <= most:
+            state, bundle = met[at]
+            left = 0
+            for other in states_in(bundle):
+                left = left | short[other]
+            is_found[short_whole[state] & ~left] = True
+            for then in list(zip(whole[0][state], self.bundles_behind(bundle))):
                 if then not in is_met:
                     is_met[then] = True
-                    bundles.append(then)
+                    met.append(then)
             at += 1
         return len(is_found) > most
+
+
+def few_digits_of(machine):
+    """The same for a machine of which no number is left out."""
+    rows, ends = machine
+    told = [1 if end else 0 for end in ends]
+    width = 1
+    while width * len(rows[0]) <= 1 << MANY_BITS:
+        told = [side_by_side([told[then] for then in row], width) for row in rows]
+        width = width * len(rows[0])
+    return told
 
 
 def letters_by_kept(many, places):

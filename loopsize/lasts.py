@@ -3,12 +3,13 @@
 from loopsize.checks import check_array, check_read, check_size, check_statement, statement_at
 from loopsize.conditionsets import in_all
 from loopsize.cuts import left_machine
-from loopsize.digitsets import told_set
+from loopsize.digitsets import set_without
 from loopsize.errors import BadNumber, NoWork
 from loopsize.kinds import is_integer
-from loopsize.machines import FIRST_ALONE, empty_machine, joined, turned, widened_machine
+from loopsize.machines import full_machine, widened_machine
 from loopsize.relations import value_machine
-from loopsize.sources import Sources, in_any, writers_of
+from loopsize.remainders import remaining_set
+from loopsize.sources import Sources, is_empty, writers_of
 from loopsize.turnsets import done_turns, is_done_in, last_of_turns
 from loopsize.works import turn_of_work
 
@@ -16,35 +17,44 @@ from loopsize.works import turn_of_work
 def stays(program, writer):
     """All (n, i) at which no work behind that of writer at i writes the same cell."""
     check_statement(program, writer[0], writer[1])
-    return told_set(stays_machine(Sources(program), tuple(writer)))
+    sources = Sources(program)
+    return remaining_set(sources.works_of(tuple(writer)), later_parts(sources, tuple(writer)), 1)
 
 
-def stays_machine(sources, writer):
+def later_parts(sources, writer):
+    """Machines of rows (n, k, i) at which a later work at k writes the cell of that of writer at i."""
     array = statement_at(sources.program, writer[0], writer[1]).array
-    told = sources.works_of(writer)
+    told = []
     for loop, statement in writers_of(sources.program, array):
         access = (loop, statement, len(statement_at(sources.program, loop, statement).reads))
-        told = joined(told, left_machine(sources.candidates(access, writer), 1), FIRST_ALONE)
+        if not is_empty(sources.candidates(access, writer)):
+            told.append(sources.candidates(access, writer))
     return told
+
+
+def later_writes(sources, writer):
+    """Machines of pairs (n, i) at which some later work writes the cell of that of writer at i."""
+    return [left_machine(part, 1) for part in later_parts(sources, writer)]
 
 
 def last_works(program, writer):
     """All (n, c, i) at which the work of writer at i is the last one to write the cell c."""
     check_statement(program, writer[0], writer[1])
-    staying = widened_machine(stays_machine(Sources(program), tuple(writer)), 1)
+    sources = Sources(program)
     cell = statement_at(program, writer[0], writer[1]).cell
-    return told_set(in_all([value_machine(cell), staying]))
+    writes = in_all([value_machine(cell), sources.wide_works(tuple(writer), 1)])
+    return set_without(writes, [widened_machine(later, 1) for later in later_writes(sources, tuple(writer))])
 
 
 def untouched(program, array):
     """All (n, c) at which no work writes the cell c of the array."""
     check_array(program, array)
     sources = Sources(program)
-    written = [empty_machine(2)]
+    written = []
     for writer in writers_of(program, array):
         cell = statement_at(program, writer[0], writer[1]).cell
-        written.append(left_machine(in_all([value_machine(cell), sources.wide_works(writer, 1)]), 2))
-    return told_set(turned(in_any(written)))
+        written.append(in_all([value_machine(cell), sources.wide_works(writer, 1)]))
+    return remaining_set(full_machine(2), written, 2)
 
 
 def last_at(program, n, array, cell, *, work=None):

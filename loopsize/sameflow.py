@@ -1,11 +1,11 @@
 """Whether a rewriting leaves to each read its source, and to each cell its last work."""
 
-from loopsize.lasts import stays_machine
+from loopsize.lasts import later_writes
 from loopsize.machines import EITHER, FIRST_ALONE, UNLIKE, empty_machine, joined, joined_freely
 from loopsize.orders import check_whole, is_whole
 from loopsize.rewriting import stands_for
 from loopsize.shifts import first_at, least_size, moved_machine
-from loopsize.sources import Sources, in_any, reads_of, writers_of
+from loopsize.sources import Sources, in_any, reads_of, without_all, writers_of
 from loopsize.turnings import Turnings
 
 
@@ -48,41 +48,46 @@ def first_unlike(program, reads, works):
 
 
 def unlike_reads(rewriting, before, after, read):
-    """Machines of rows (n, j) or (n, j, i): at the counters j of one of them a read takes from unlike works in both
-    programs, or in one program alone from the input. They may have more states than are needed."""
+    """Machines of rows (n, j, i): at the counters j of one of them a read takes from unlike works in both programs, or
+    in one program alone from the input. They may have more states than are needed."""
     one = before.taken_by(read)
-    other, free_after = taken_after(rewriting, after, read)
-    unlike = [joined_freely(before.without_source(read, 0), free_after, FIRST_ALONE)]
+    other = taken_after(rewriting, after, read)
+    unlike = []
     for writer in one:
         lost = one[writer]
         unlike.append(joined_freely(lost, other[writer], FIRST_ALONE) if writer in other else lost)
+    # If the source is the input before, the work from which the read takes after did not come ahead of it before.
+    for writer in other:
+        unlike.append(joined_freely(other[writer], before.candidates(read, writer), FIRST_ALONE))
     return unlike
 
 
 def taken_after(rewriting, after, read):
-    """From which works a read of the program before takes in the one after: for each writer the rows (n, j, i), and
-    the pairs (n, j) of the input, with the counters in the program before."""
+    """From which works a read of the program before takes in the one after: for each writer the rows (n, j, i), with
+    the counters in the program before."""
     told = {}
-    free = empty_machine(2)
     for loop, statement, shift in stands_for(rewriting, read[0], read[1]):
-        access = (loop, statement, read[2])
-        taken = after.taken_by(access)
-        free = joined(free, moved_machine(after.without_source(access, 0), 1, shift), EITHER)
+        taken = after.taken_by((loop, statement, read[2]))
         for writer in taken:
             first, number, more = rewriting.origins[writer[0]][writer[1]]
             machine = moved_machine(moved_machine(taken[writer], 1, shift), 2, more)
             if (first, number) in told:
                 machine = joined(told[(first, number)], machine, EITHER)
             told[(first, number)] = machine
-    return told, free
+    return told
 
 
 def unlike_works(rewriting, before, after, writer):
     """The pairs (n, i) at which a work is the last one to write its cell in one of both programs alone."""
     there = [empty_machine(2)]
     for loop, statement, shift in stands_for(rewriting, writer[0], writer[1]):
-        there.append(moved_machine(stays_machine(after, (loop, statement)), 1, shift))
-    return joined_freely(stays_machine(before, writer), in_any(there), UNLIKE)
+        there.append(moved_machine(staying(after, (loop, statement)), 1, shift))
+    return joined_freely(staying(before, writer), in_any(there), UNLIKE)
+
+
+def staying(sources, writer):
+    """The machine of the works (n, i) of a writer that stay."""
+    return without_all(sources.works_of(writer), later_writes(sources, writer))
 
 
 def has_same_flow(rewriting):

@@ -20,7 +20,7 @@ class Sources:
         self.wide = {}
         self.found = {}
         self.late = {}
-        self.rests = {}
+        self.reaches = {}
 
     def works_of(self, name):
         """The machine of the works (n, i) of a statement."""
@@ -74,38 +74,54 @@ class Sources:
             self.late[key] = left_machine((rows, ends), 3)
         return self.late[key]
 
-    def without_source(self, access, loop):
-        """The works (n, j) of an access whose cell no work has written ahead of it from the loop on."""
-        if loop > access[0]:
-            return self.works_of(access[:2])
-        key = (access, loop)
-        if key not in self.rests:
-            told = self.without_source(access, loop + 1)
+    def reach(self, access, writer):
+        """The works (n, j) of an access whose cell a writer has written ahead of it."""
+        key = (access, writer)
+        if key not in self.reaches:
+            self.reaches[key] = left_machine(self.candidates(access, writer), 2)
+        return self.reaches[key]
+
+    def reaches_from(self, access, first):
+        """The same for all writers from a loop on, without those that are empty."""
+        told = []
+        for loop in range(first, access[0] + 1):
             for writer in self.writers_for(access, loop):
-                told = in_first_alone(told, left_machine(self.candidates(access, writer), 2))
-            self.rests[key] = told
-        return self.rests[key]
+                if not is_empty(self.candidates(access, writer)):
+                    told.append(self.reach(access, writer))
+        return told
+
+    def candidates_from(self, access, first):
+        """The candidates of all writers from a loop on, without those that are empty."""
+        told = []
+        for loop in range(first, access[0] + 1):
+            for writer in self.writers_for(access, loop):
+                if not is_empty(self.candidates(access, writer)):
+                    told.append(self.candidates(access, writer))
+        return told
 
     def writers_for(self, access, loop):
         return writers_in(self.program, loop, place_of_access(self.program, access)[0])
 
-    def taken_from(self, access, writer):
-        """The machine of the rows (n, j, i) at which the source of an access at j is the work of a writer at i."""
+    def parts_behind(self, access, writer):
+        """Machines of rows (n, j, i): where one of the candidates is in one of them, another work comes behind it."""
         loop = writer[0]
-        told = self.candidates(access, writer)
-        if loop < access[0] and not is_empty(told):
-            told = joined(told, widened_machine(self.without_source(access, loop + 1), 2), BOTH)
+        told = [widened_machine(machine, 2) for machine in self.reaches_from(access, loop + 1)]
         cell = statement_at(self.program, loop, writer[1]).cell
         for other in self.writers_for(access, loop):
-            if is_empty(told):
-                return told
             # A cell that goes with the counter is written in one turn alone.
             other_cell = statement_at(self.program, loop, other[1]).cell
             if other_cell.i == 0 or other_cell != cell:
-                told = in_first_alone(told, self.with_later(access, other))
+                told.append(self.with_later(access, other))
             if other[1] > writer[1]:
-                told = in_first_alone(told, self.candidates(access, other))
+                told.append(self.candidates(access, other))
         return told
+
+    def taken_from(self, access, writer):
+        """The machine of the rows (n, j, i) at which the source of an access at j is the work of a writer at i."""
+        candidates = self.candidates(access, writer)
+        if is_empty(candidates):
+            return candidates
+        return without_all(candidates, self.parts_behind(access, writer))
 
     def taken_by(self, access):
         """For each writer that is a source of an access the same machine."""
@@ -120,6 +136,15 @@ class Sources:
 
 def is_empty(machine):
     return len(machine[0]) == 1 and not machine[1][0]
+
+
+def without_all(machine, others):
+    """The machine of the rows that are in one machine and in none of some others."""
+    for other in others:
+        if is_empty(machine):
+            return machine
+        machine = in_first_alone(machine, other)
+    return machine
 
 
 def in_any(machines):

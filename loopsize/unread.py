@@ -1,23 +1,27 @@
 """Works whose values nobody reads, and the works that write over others."""
 
 from loopsize.checks import check_statement, statement_at
-from loopsize.cuts import left_machine
-from loopsize.digitsets import told_set
-from loopsize.lasts import stays_machine
+from loopsize.flows import taken_set
+from loopsize.lasts import later_writes
 from loopsize.machines import FIRST_ALONE, joined
-from loopsize.sources import Sources, reads_of
+from loopsize.remainders import remaining_set
+from loopsize.sources import Sources, is_empty, reads_of, without_all
 
 
 def unread(program, writer):
     """All (n, i) at which the work of writer at i is the source of no read."""
     check_statement(program, writer[0], writer[1])
-    return told_set(unread_machine(Sources(program), tuple(writer)))
+    sources = Sources(program)
+    return remaining_set(sources.works_of(tuple(writer)), takings(sources, tuple(writer)), 1)
 
 
-def unread_machine(sources, writer):
-    told = sources.works_of(writer)
+def takings(sources, writer):
+    """Machines of rows (n, j, i) at which the work of writer at i is the source of a read at j."""
+    told = []
     for read in reads_of(sources.program, statement_at(sources.program, writer[0], writer[1]).array):
-        told = joined(told, left_machine(sources.taken_from(read, writer), 1), FIRST_ALONE)
+        taken = sources.taken_from(read, writer)
+        if not is_empty(taken):
+            told.append(taken)
     return told
 
 
@@ -25,8 +29,9 @@ def idle(program, writer):
     """All (n, i) of unread that are not in stays."""
     check_statement(program, writer[0], writer[1])
     sources = Sources(program)
-    told = unread_machine(sources, tuple(writer))
-    return told_set(joined(told, stays_machine(sources, tuple(writer)), FIRST_ALONE))
+    works = sources.works_of(tuple(writer))
+    staying = without_all(works, later_writes(sources, tuple(writer)))
+    return remaining_set(joined(works, staying, FIRST_ALONE), takings(sources, tuple(writer)), 1)
 
 
 def overwritten(program, writer, other):
@@ -38,4 +43,4 @@ def overwritten(program, writer, other):
     loop, statement = other
     check_statement(program, loop, statement)
     write = (loop, statement, len(statement_at(program, loop, statement).reads))
-    return told_set(Sources(program).taken_from(write, tuple(writer)))
+    return taken_set(Sources(program), write, tuple(writer))
