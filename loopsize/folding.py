@@ -19,7 +19,7 @@ from loopsize.sources import Sources, is_empty, reads_of, without_all
 
 MOST_FAILING = 100
 SMALL_SIZES = 6
-MANY_TURNS = 100
+MANY_TURNS = 1000
 
 
 def kept_sources(program, array):

@@ -4,9 +4,13 @@ from loopsize.lasts import later_writes
 from loopsize.machines import EITHER, FIRST_ALONE, UNLIKE, empty_machine, joined, joined_freely
 from loopsize.orders import check_whole, is_whole
 from loopsize.rewriting import stands_for
+from loopsize.runs import log_program
 from loopsize.shifts import first_at, least_size, moved_machine
 from loopsize.sources import Sources, in_any, reads_of, without_all, writers_of
 from loopsize.turnings import Turnings
+
+SMALL_SIZES = 6
+MANY_TURNS = 1000
 
 
 def unlike_flow(rewriting):
@@ -18,12 +22,17 @@ def unlike_flow(rewriting):
 
 def first_unlike_flow(rewriting):
     """The same of a rewriting that is whole."""
-    before = Sources(rewriting.before)
-    after = Sources(rewriting.after)
     turnings = Turnings(rewriting)
     # Sources hang on the order of a read and the writes of its cell, and on that of the writes ahead of it, alone.
     mixed = turnings.mixed_arrays()
     reads = turnings.moved_reads(mixed)
+    if not reads and not mixed:
+        return None
+    early = early_unlike(rewriting)
+    if early is not None:
+        return early
+    before = Sources(rewriting.before)
+    after = Sources(rewriting.after)
     writers = []
     for array in mixed:
         reads = reads + [read for read in reads_of(rewriting.before, array) if read[0] >= mixed[array]]
@@ -31,6 +40,33 @@ def first_unlike_flow(rewriting):
     unlike_there = [(*read, machine) for read in reads for machine in unlike_reads(rewriting, before, after, read)]
     works = [(*writer, 0, unlike_works(rewriting, before, after, writer)) for writer in writers]
     return first_unlike(rewriting.before, kept_entries(unlike_there), kept_entries(works))
+
+
+def early_unlike(rewriting):
+    """What is seen at some small sizes already, by plain logs: there most flows that are not the same differ."""
+    for n in range(SMALL_SIZES):
+        loops = rewriting.before.loops + rewriting.after.loops
+        if sum([loop.many_turns(n) for loop in loops]) > MANY_TURNS:
+            return None
+        found = unlike_at(rewriting, log_program(rewriting.before, n), log_program(rewriting.after, n))
+        if found is not None:
+            return n, found[0], found[1]
+    return None
+
+
+def unlike_at(rewriting, one, other):
+    """What comes first by the logs of both programs at a size: (work, read), (work, None), or None."""
+    taken = {rewriting.origin(work): parts for work, parts in zip(other.works, other.takes)}
+    for work, parts in zip(one.works, one.takes):
+        for number, (_, _, source) in enumerate(parts):
+            there = taken[work][number][2]
+            if source != (None if there is None else rewriting.origin(there)):
+                return work, number
+    for work, (array, cell) in zip(one.works, one.writes):
+        is_last = one.last_writer(array, cell) == work
+        if is_last != (rewriting.origin(other.last_writer(array, cell)) == work):
+            return work, None
+    return None
 
 
 def kept_entries(found):

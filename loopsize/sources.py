@@ -21,6 +21,7 @@ class Sources:
         self.found = {}
         self.late = {}
         self.reaches = {}
+        self.overs = {}
 
     def works_of(self, name):
         """The machine of the works (n, i) of a statement."""
@@ -90,6 +91,14 @@ class Sources:
                     told.append(self.reach(access, writer))
         return told
 
+    def written_over(self, writer, other):
+        """The works (n, i) of a writer whose cell the other one writes later."""
+        key = (writer, other)
+        if key not in self.overs:
+            write = (*other, len(statement_at(self.program, other[0], other[1]).reads))
+            self.overs[key] = left_machine(self.candidates(write, writer), 1)
+        return self.overs[key]
+
     def candidates_from(self, access, first):
         """The candidates of all writers from a loop on, without those that are empty."""
         told = []
@@ -105,7 +114,12 @@ class Sources:
     def parts_behind(self, access, writer):
         """Machines of rows (n, j, i): where one of the candidates is in one of them, another work comes behind it."""
         loop = writer[0]
-        told = [widened_machine(machine, 2) for machine in self.reaches_from(access, loop + 1)]
+        told = []
+        for between in range(loop + 1, access[0]):
+            for other in self.writers_for(access, between):
+                told.append(widened_machine(self.written_over(writer, other), 1))
+        if loop < access[0]:
+            told.extend([widened_machine(machine, 2) for machine in self.reaches_from(access, access[0])])
         cell = statement_at(self.program, loop, writer[1]).cell
         for other in self.writers_for(access, loop):
             # A cell that goes with the counter is written in one turn alone.
