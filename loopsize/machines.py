@@ -42,7 +42,8 @@ def classes_of(rows, ends, most):
         marks[state] = mark
     table = {}
     for state in kept:
-        table[(ends[state], *[marks[then] for then in rows[state]])] = marks[state]
+        key = (ends[state], *[marks[then] for then in rows[state]])
+        table[key] = marks[state]
     # No cycle passes through the early states, so one look at what stands behind each of them will do.
     for state in reversed(early):
         key = (ends[state], *[marks[then] for then in rows[state]])

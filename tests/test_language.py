@@ -217,6 +217,13 @@ class LanguageTest(unittest.TestCase):
                 sides = [node.left] + node.comparators
                 self.assertTrue(any(isinstance(side, ast.Constant) for side in sides), f"{name}:{node.lineno}")
 
+    def test_no_star_in_an_index(self):
+        for name, node in self.each_node():
+            if isinstance(node, ast.Subscript):
+                for part in ast.walk(node.slice):
+                    if isinstance(part, ast.Starred):
+                        self.fail_at(name, part, "a star in the brackets of an index")
+
     def test_sets_stand_where_they_may(self):
         for name, node in self.each_node():
             if isinstance(node, ast.SetComp) or call_name(node) in ("set", "frozenset"):
