@@ -17,9 +17,9 @@ from loopsize.sources import is_empty, reads_of, writers_of
 MANY_BUNDLES = 1000
 
 
-def triples_of(sources, array):
-    """All triples of an array that have rows."""
-    writers = writers_of(sources.program, array)
+def triples_of(sources, array, written):
+    """All triples with rows: of the reads of an array, and of the statements that write it, or another one."""
+    writers = writers_of(sources.program, written)
     told = []
     for read in reads_of(sources.program, array):
         taken = sources.taken_by(read)
@@ -60,7 +60,7 @@ def cells_apart(program, source, other):
 def distance_rows(sources, array):
     """Machines of rows (n, i, k, d) such that d is a distance of the array at n: all distances are in one of them."""
     told = []
-    for _, source, other, machine in triples_of(sources, array):
+    for _, source, other, machine in triples_of(sources, array, array):
         factors, constant = cells_apart(sources.program, source, other)
         for sign in (1, -1):
             apart = between_machine((*factors, -sign), -constant, -constant)

@@ -103,7 +103,7 @@ def fold_fails(program, name, m):
     if not is_integer_from(m, 1, MOST_FAILING):
         raise BadNumber("m", m)
     best = None
-    for triple in triples_of(sources, name):
+    for triple in triples_of(sources, name, name):
         factors, constant = cells_apart(program, triple[1], triple[2])
         failing = joined_freely(triple[3], rest_machine(factors, m, (-constant % m,)), BOTH)
         n = least_first(failing)

@@ -9,7 +9,7 @@ from loopsize.kinds import is_integer
 from loopsize.machines import full_machine, widened_machine
 from loopsize.relations import value_machine
 from loopsize.remainders import remaining_set
-from loopsize.sources import Sources, is_empty, writers_of
+from loopsize.sources import Sources, is_empty, without_all, writers_of
 from loopsize.turnsets import done_turns, is_done_in, last_of_turns
 from loopsize.works import turn_of_work
 
@@ -35,6 +35,11 @@ def later_parts(sources, writer):
 def later_writes(sources, writer):
     """Machines of pairs (n, i) at which some later work writes the cell of that of writer at i."""
     return [left_machine(part, 1) for part in later_parts(sources, writer)]
+
+
+def staying(sources, writer):
+    """The machine of the works (n, i) of a writer that stay."""
+    return without_all(sources.works_of(writer), later_writes(sources, writer))
 
 
 def last_works(program, writer):

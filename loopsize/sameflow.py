@@ -1,12 +1,12 @@
 """Whether a rewriting leaves to each read its source, and to each cell its last work."""
 
-from loopsize.lasts import later_writes
+from loopsize.lasts import staying
 from loopsize.machines import EITHER, FIRST_ALONE, UNLIKE, empty_machine, joined, joined_freely
 from loopsize.orders import check_whole, is_whole
 from loopsize.rewriting import stands_for
 from loopsize.runs import log_program
 from loopsize.shifts import first_at, least_size, moved_machine
-from loopsize.sources import Sources, in_any, reads_of, without_all, writers_of
+from loopsize.sources import Sources, in_any, reads_of, writers_of
 from loopsize.turnings import Turnings
 
 SMALL_SIZES = 6
@@ -119,11 +119,6 @@ def unlike_works(rewriting, before, after, writer):
     for loop, statement, shift in stands_for(rewriting, writer[0], writer[1]):
         there.append(moved_machine(staying(after, (loop, statement)), 1, shift))
     return joined_freely(staying(before, writer), in_any(there), UNLIKE)
-
-
-def staying(sources, writer):
-    """The machine of the works (n, i) of a writer that stay."""
-    return without_all(sources.works_of(writer), later_writes(sources, writer))
 
 
 def has_same_flow(rewriting):

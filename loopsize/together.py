@@ -1,0 +1,91 @@
+"""Which turns of a loop may be done in any order, and how many have to be done one behind the other."""
+
+from loopsize.checks import check_loop, check_size
+from loopsize.clashes import free_parts, value_parts
+from loopsize.cuts import left_machine, put_machine
+from loopsize.digitsets import told_set
+from loopsize.errors import BadGrade, BadNumber, Deeper
+from loopsize.kinds import is_integer_from
+from loopsize.layers import has_rows_at
+from loopsize.machines import BOTH, EITHER, FIRST_ALONE, empty_machine, joined, joined_freely, minimal, widened_machine
+from loopsize.remainders import united_set
+from loopsize.searches import least_first
+from loopsize.sources import Sources, is_empty
+from loopsize.touches import touching_parts
+from loopsize.workmachines import turn_machine
+
+GRADES = ("strict", "free", "values")
+MOST_FRONTS = 6
+
+
+def check_grade(grade):
+    if not isinstance(grade, str) or grade not in GRADES:
+        raise BadGrade(grade)
+
+
+def clashing_parts(program, loop, grade, wanted):
+    """Machines of the rows (n, i, j) with i < j whose turns are in conflict."""
+    sources = Sources(program)
+    if grade == "strict":
+        return touching_parts(sources, loop, loop)
+    if grade == "values":
+        return value_parts(sources, loop)
+    return free_parts(sources, loop, wanted)
+
+
+def conflicts(program, loop, grade, *, wanted=None):
+    """All (n, i, j) with i < j such that the turns at i and j are in conflict by a grade."""
+    check_loop(program, loop)
+    check_grade(grade)
+    return united_set(3, clashing_parts(program, loop, grade, wanted))
+
+
+def is_free(program, loop, grade, n, *, wanted=None):
+    """Whether no turns of the loop are in conflict at a size."""
+    check_loop(program, loop)
+    check_size(n)
+    check_grade(grade)
+    return not any([has_rows_at(part, n) for part in clashing_parts(program, loop, grade, wanted)])
+
+
+def fronts(program, loop, most):
+    """For each front from 1 on the set of all (n, i) whose turn has it."""
+    check_loop(program, loop)
+    if not is_integer_from(most, 1, MOST_FRONTS):
+        raise BadNumber("most", most)
+    parts = touching_parts(Sources(program), loop, loop)
+    down = program.loops[loop].down
+    waves = [turn_machine(program.loops[loop])]
+    while not is_empty(waves[-1]) and len(waves) <= most:
+        waves.append(behind_wave(parts, waves[-1], down))
+    if not is_empty(waves[-1]):
+        n = least_first(waves[-1])
+        raise Deeper(n, chain_at(parts, waves, down, n))
+    return tuple([told_set(joined(one, other, FIRST_ALONE)) for one, other in zip(waves, waves[1:])])
+
+
+def behind_wave(parts, wave, down):
+    """The turns (n, i) that touch one of a wave that is ahead of them."""
+    told = empty_machine(2)
+    ahead = 2 if down else 1
+    wide = widened_machine(wave, 3 - ahead)
+    for part in parts:
+        rows, ends = joined_freely(part, wide, BOTH)
+        if True in ends:
+            told = joined(told, left_machine(minimal(rows, ends), ahead), EITHER)
+    return told
+
+
+def chain_at(parts, waves, down, n):
+    """Counters of a turn of each wave at a size that touch one another, in the order of the loop."""
+    chain = [least_first(put_machine(waves[-1], 0, n))]
+    there = [put_machine(part, 0, n) for part in parts]
+    for wave in reversed(waves[:-1]):
+        turns = put_machine(wave, 0, n)
+        found = []
+        for part in there:
+            ahead = joined(turns, put_machine(part, 0 if down else 1, chain[-1]), BOTH)
+            if not is_empty(ahead):
+                found.append(least_first(ahead))
+        chain.append(min(found))
+    return tuple(chain[::-1])
