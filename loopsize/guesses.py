@@ -8,7 +8,7 @@ from loopsize.cuts import states_in
 from loopsize.largeness import side_by_side
 from loopsize.machines import leads_to
 
-MANY_BITS = 10
+MANY_BITS = 14
 
 
 class Guesses:

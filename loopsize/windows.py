@@ -3,18 +3,21 @@
 from loopsize.checks import check_size
 from loopsize.conditionsets import least_machine
 from loopsize.cuts import left_machine
-from loopsize.digitsets import told_set
+from loopsize.digitsets import MOST_STATES, told_set
 from loopsize.distances import cells_apart, triples_of
-from loopsize.errors import BadNumber, TooLong
+from loopsize.errors import BadNumber, TooLarge, TooLong
 from loopsize.folding import kept_sources
+from loopsize.guesses import Guesses
 from loopsize.kinds import is_integer
 from loopsize.layers import Layers
-from loopsize.machines import BOTH, EITHER, FIRST_ALONE, joined, joined_freely, minimal, widened_machine
+from loopsize.machines import BOTH, EITHER, FIRST_ALONE, full_machine, joined, joined_freely, minimal
+from loopsize.machines import widened_machine
 from loopsize.sumsat import SumsAt
 
 MOST_BY_RESTS = 64
 MOST_MULTIPLES = 2000
 MOST_WINDOW = 2000
+MANY_BUNDLES = 4000
 
 
 def checked_triples(program, name, n):
@@ -62,17 +65,40 @@ def window(program, name, n):
 
 def window_pairs(program, name):
     """The pairs (size, number) with a number below the window."""
+    parts = window_parts(program, triples_of(kept_sources(program, name), name, name))
+    least = least_machine((0, 0, 0, -1), 0)
+    if parts and Guesses([least] + parts, (0, 3)).surely_above(MOST_STATES, MANY_BUNDLES, full_machine(2)):
+        raise TooLarge(MOST_STATES)
     told = least_machine((0, -1), 0)
-    for _, source, other, machine in triples_of(kept_sources(program, name), name, name):
+    for part in parts:
+        # What is known need not be found again.
+        rows, ends = joined_freely(part, widened_machine(widened_machine(told, 1), 2), FIRST_ALONE)
+        if True in ends:
+            told = joined(told, left_machine(left_machine(minimal(rows, ends), 2), 1), EITHER)
+    return told_set(told)
+
+
+def window_parts(program, triples):
+    """Machines of rows (n, i, k, number): the number, from 1 on, is not greater than the distance of the cells."""
+    told = []
+    for _, source, other, machine in triples:
         factors, constant = cells_apart(program, source, other)
         for signed, start in ((factors, constant), (negative(factors), -constant)):
-            below = least_machine((*signed, -1), -start)
-            known = widened_machine(widened_machine(told, 1), 1)
-            new = joined_freely(below, known, FIRST_ALONE)
-            rows, ends = joined_freely(widened_machine(machine, 3), new, BOTH)
+            extreme = extreme_rows(extreme_rows(machine, 2, signed[2]), 1, signed[1])
+            below = joined_freely(least_machine((*signed, -1), -start), least_machine((0, 0, 0, 1), 1), BOTH)
+            rows, ends = joined_freely(widened_machine(extreme, 3), below, BOTH)
             if True in ends:
-                told = joined(told, left_machine(left_machine(minimal(rows, ends), 2), 1), EITHER)
-    return told_set(told)
+                told.append((rows, ends))
+    return told
+
+
+def extreme_rows(machine, place, factor):
+    """Of the rows (n, i, k) that differ at the place 1 or 2 alone the one for which the factor makes most of it."""
+    more = [0, 0, 0, 0]
+    more[place] = -1 if factor > 0 else 1
+    more[place + 1] = -more[place]
+    rows, ends = joined_freely(widened_machine(machine, place), least_machine(tuple(more), 1), BOTH)
+    return joined(machine, left_machine((rows, ends), place + 1), FIRST_ALONE)
 
 
 def fold_is_right_at(program, name, n, m):

@@ -27,7 +27,11 @@ def do_touch(one, other):
 def plain_touching(program, n, loop):
     """The pairs (i, j) with i < j whose turns touch."""
     cells = cells_of_turns(program, n, loop)
-    return {(i, j) for i in cells for j in cells if i < j and do_touch(cells[i], cells[j])}
+    touched = {}
+    for i in cells:
+        for cell in cells[i][0]:
+            touched.setdefault(cell, []).append(i)
+    return {(min(i, j), max(i, j)) for i in cells for cell in cells[i][1] for j in touched[cell] if i != j}
 
 
 def bare_cells(program, n, loop):

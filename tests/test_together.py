@@ -39,7 +39,7 @@ class ConflictsTest(unittest.TestCase):
 
     def test_conflicts_by_plain_logs(self):
         met = {grade: set() for grade in GRADES}
-        for program in random_programs(201, 60) + [FAR, CELL, HALVES, NO_TURNS]:
+        for program in random_programs(201, 40) + [FAR, CELL, HALVES, NO_TURNS]:
             for loop in range(len(program.loops)):
                 for grade in GRADES:
                     told = or_error(conflicts, program, loop, grade)
@@ -54,7 +54,7 @@ class ConflictsTest(unittest.TestCase):
 
     def test_wanted_arrays_by_plain_logs(self):
         unlike = 0
-        for program in random_programs(202, 40):
+        for program in random_programs(202, 24):
             for loop in range(len(program.loops)):
                 for wanted in WANTED:
                     for n in (2, 5):
@@ -63,7 +63,7 @@ class ConflictsTest(unittest.TestCase):
                         unlike += plain != plain_conflicts(program, n, loop, "free")
                     for grade in ("strict", "values"):
                         self.assertIs(is_free(program, loop, grade, 4, wanted=wanted), is_free(program, loop, grade, 4))
-        self.assertGreater(unlike, 20)
+        self.assertGreater(unlike, 10)
         for wanted in WANTED:
             told = conflicts(CELL, 0, "free", wanted=wanted)
             for n in SIZES:
@@ -162,8 +162,8 @@ class ConflictsTest(unittest.TestCase):
             conflicts(CELL, 0, "free", ("b",))
 
     def test_too_large(self):
-        large = read_program("for i from 0 below 2 * n by 13:\n x[11 * i + 7 * n + 997] = 1 + x[12 * i - 5 * n - 991]\n"
-                             " x[7 * i + 12 * n + 499] = 1 + x[(9 * i + n + 13) // 2]\n")
+        large = read_program("for i from 0 below 2 * n by 5:\n x[11 * i + 97] = 1 + x[12 * i - 5 * n - 91]\n"
+                             " x[7 * i + n] = 1\n")
         for grade in GRADES:
             with self.assertRaises(TooLarge) as caught:
                 conflicts(large, 0, grade)
