@@ -48,6 +48,16 @@ FUNCTIONS = {
     "sameflow": ["unlike_flow(rewriting)", "has_same_flow(rewriting)"],
     "folding": ["fold_distances(program, name)", "fold_least(program, name)", "fold_is_right(program, name, m)",
                 "fold_fails(program, name, m)"],
+    "windows": ["window(program, name, n)", "window_pairs(program, name)", "fold_is_right_at(program, name, n, m)",
+                "fold_least_at(program, name, n)"],
+    "sharing": ["share_least(program, x, y)", "share_is_right(program, x, y, shift)",
+                "share_fails(program, x, y, shift)"],
+    "gaps": ["touching(program, loop)", "gaps(program, loop)", "gaps_at(program, loop, n)", "least_gap(program, loop)",
+             "lanes(program, loop)", "least_gap_at(program, loop, n)", "lanes_at(program, loop, n)",
+             "lane_pairs(program, loop)"],
+    "together": ["conflicts(program, loop, grade, *, wanted=None)", "is_free(program, loop, grade, n, *, wanted=None)",
+                 "fronts(program, loop, most)"],
+    "lags": ["lag(program, loop)", "lag_at(program, loop, n)"],
 }
 CLASSES = {
     ("digitsets", "DigitSet"): ["__contains__(self, x)", "__eq__(self, other)"],
