@@ -6,6 +6,7 @@ from loopsize.cuts import left_machine
 from loopsize.digitsets import MOST_STATES, told_set
 from loopsize.distances import cells_apart, triples_of
 from loopsize.errors import BadNumber, TooLarge, TooLong
+from loopsize.extremes import extreme_rows
 from loopsize.folding import kept_sources
 from loopsize.guesses import Guesses
 from loopsize.kinds import is_integer
@@ -90,15 +91,6 @@ def window_parts(program, triples):
             if True in ends:
                 told.append((rows, ends))
     return told
-
-
-def extreme_rows(machine, place, factor):
-    """Of the rows (n, i, k) that differ at the place 1 or 2 alone the one for which the factor makes most of it."""
-    more = [0, 0, 0, 0]
-    more[place] = -1 if factor > 0 else 1
-    more[place + 1] = -more[place]
-    rows, ends = joined_freely(widened_machine(machine, place), least_machine(tuple(more), 1), BOTH)
-    return joined(machine, left_machine((rows, ends), place + 1), FIRST_ALONE)
 
 
 def fold_is_right_at(program, name, n, m):
