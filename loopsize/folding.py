@@ -25,20 +25,29 @@ MANY_TURNS = 1000
 def kept_sources(program, array):
     """What tells the sources of a program; refuses an array of which some read takes the value of the beginning."""
     check_array(program, array)
+    sources = Sources(program)
+    found = first_not_kept(sources, array)
+    if found is not None:
+        raise NotKept(found[0], found[1], found[2])
+    return sources
+
+
+def first_not_kept(sources, array):
+    """(n, work, read) of what takes a value of the beginning first; None if the array is kept between."""
+    program = sources.program
     early = early_not_kept(program, array)
     if early is not None:
-        raise NotKept(early[0], early[1], early[2])
-    sources = Sources(program)
+        return early
     found = []
     for read in reads_of(program, array):
         machine = without_all(sources.works_of(read[:2]), sources.reaches_from(read, 0))
         if not is_empty(machine):
             found.append((*read, machine))
-    if found:
-        n = least_size([entry[3] for entry in found])
-        loop, counter, statement, number = first_at(program, n, found)
-        raise NotKept(n, (loop, counter, statement), number)
-    return sources
+    if not found:
+        return None
+    n = least_size([entry[3] for entry in found])
+    loop, counter, statement, number = first_at(program, n, found)
+    return n, (loop, counter, statement), number
 
 
 def early_not_kept(program, array):
@@ -69,7 +78,12 @@ def tail_of_distances(sources, name):
 
 def fold_least(program, name):
     """The least right number, or None."""
-    start, period, rests, early = tail_of_distances(kept_sources(program, name), name)
+    return least_right(kept_sources(program, name), name)
+
+
+def least_right(sources, name):
+    """The same for an array that is kept between."""
+    start, period, rests, early = tail_of_distances(sources, name)
     if 0 in rests:
         return None
     is_early = {number: True for number in early}
