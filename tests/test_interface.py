@@ -5,11 +5,13 @@ import inspect
 import unittest
 
 from loopsize import errors
+from loopsize.benches import Bench, Paper
 from loopsize.conditions import AtLeast, Rest
 from loopsize.counts import count_of
 from loopsize.digitsets import digit_set
 from loopsize.formulas import count_from, formula_of
 from loopsize.programs import Loop, Program, Read, Statement
+from loopsize.reports import report_of
 from loopsize.rewriting import turn_loop
 from loopsize.runs import Stepper, log_program, run_program
 from loopsize.straights import Place, Straight
@@ -58,6 +60,12 @@ FUNCTIONS = {
     "together": ["conflicts(program, loop, grade, *, wanted=None)", "is_free(program, loop, grade, n, *, wanted=None)",
                  "fronts(program, loop, most)"],
     "lags": ["lag(program, loop)", "lag_at(program, loop, n)"],
+    "paths": ["path(program, n, read, j)"],
+    "origins": ["origins(program, read)", "contents(program, array)"],
+    "moves": ["same_contents(first, second)", "forward(program, read, array, place)",
+              "drop(program, loop, statement)"],
+    "reports": ["report_of(program)", "report_text(report)"],
+    "benches": ["rewriting_by(program, deed)", "judged(program, deed)", "page_text(bench, name)"],
 }
 CLASSES = {
     ("digitsets", "DigitSet"): ["__contains__(self, x)", "__eq__(self, other)"],
@@ -85,6 +93,13 @@ CLASSES = {
     ("runs", "Stepper"): ["__init__(self, program, n, *, start=())", "many_done(self)", "next_work(self)",
                           "do_work(self)", "undo_work(self)", "go_to(self, many)", "value_of(self, array, cell)"],
     ("rewriting", "Rewriting"): ["then(self, other)", "origin(self, work)", "places(self, n, work)"],
+    ("reports", "Report"): [],
+    ("benches", "Paper"): ["__init__(self, deed, grade, turned)"],
+    ("benches", "Bench"): ["put_program(self, name, program)", "drop_program(self, name)", "all_names(self)",
+                           "__contains__(self, name)", "first_of(self, name)", "program_of(self, name)",
+                           "papers_of(self, name)", "rewriting_of(self, name)",
+                           "do_deed(self, name, deed, *, grade='order')", "undo_deed(self, name)",
+                           "redo_deed(self, name)", "copy_program(self, name, other)"],
 }
 SMALL = "for i from 0 below n:\n a[i] = 1 + 2 * b[i]\n if i >= 1 and n mod 2 == 0: c[0] = a[i] - a[i // 2]\n"
 
@@ -101,7 +116,7 @@ def things():
     return [below, count_of(below), formula_of(count_of(below)), Straight(1, 2, 3), Place(Straight(1, 0, 0), 2),
             statement.conditions[0], statement.conditions[1], statement.reads[0], statement, program.loops[0], program,
             run_program(program, 2), log_program(program, 2), Stepper(program, 2), turn_loop(program, 0),
-            errors.AtEnd()]
+            errors.AtEnd(), report_of(program), Paper(("turn_loop", 0), "order", None), Bench()]
 
 
 class InterfaceTest(unittest.TestCase):
@@ -127,7 +142,8 @@ class InterfaceTest(unittest.TestCase):
             ("straight", "modulus", "rest"), ("array", "place", "factor"),
             ("array", "cell", "constant", "reads", "conditions"), ("low", "high", "statements", "step", "down"),
             ("loops", "arrays"), ("many_works",), ("works", "writes", "takes"), (),
-            ("before", "after", "origins"), (),
+            ("before", "after", "origins"), (), ("works", "loops", "arrays", "reads", "cell"),
+            ("deed", "grade", "turned"), (),
         ]
         for thing, names in zip(things(), wanted):
             for name in names:
