@@ -46,7 +46,7 @@ def first_not_kept(sources, array):
     if not found:
         return None
     n = least_size([entry[3] for entry in found])
-    loop, counter, statement, number = first_at(program, n, found)
+    loop, counter, statement, number = first_at(program, [n], found)
     return n, (loop, counter, statement), number
 
 

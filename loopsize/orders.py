@@ -5,32 +5,61 @@ from loopsize.machines import BOTH, EITHER, UNLIKE, empty_machine, joined
 from loopsize.rewriting import stands_for
 from loopsize.shifts import first_at, least_size, moved_machine
 from loopsize.sources import is_empty
-from loopsize.turnings import Turnings, first_turned
+from loopsize.touches import key_of_condition
+from loopsize.turnings import first_turned, turnings_of
 from loopsize.workmachines import work_machine
 
 
 def lost_work(rewriting):
     """(n, work) for the first tuple that is not stood for as it should be at the least size; None if it is whole."""
+    if "lost" not in rewriting.known:
+        rewriting.known["lost"] = first_lost(rewriting)
+    return rewriting.known["lost"]
+
+
+def first_lost(rewriting):
+    """The same, found out."""
     found = []
     for place, loop in enumerate(rewriting.before.loops):
         for number in range(len(loop.statements)):
-            machine = lost_machine(rewriting, place, number)
-            if not is_empty(machine):
-                found.append((place, number, 0, machine))
+            stands = stands_for(rewriting, place, number)
+            if not is_plainly_once(rewriting, place, number, stands):
+                machine = lost_machine(rewriting, place, number, stands)
+                if not is_empty(machine):
+                    found.append((place, number, 0, machine))
     if not found:
         return None
     n = least_size([entry[3] for entry in found])
-    return n, first_at(rewriting.before, n, found)[:3]
+    return n, first_at(rewriting.before, [n], found)[:3]
 
 
-def lost_machine(rewriting, place, number):
+def is_plainly_once(rewriting, place, number, stands):
+    """Whether it is seen at once that each work is stood for just once: by a statement with the same turns and
+    conditions, or by some with all rests of the counter ahead of these."""
+    before = rewriting.before.loops[place]
+    for loop, _, shift in stands:
+        after = rewriting.after.loops[loop]
+        if shift != 0 or after.step != before.step or after.low != before.low or after.high != before.high:
+            return False
+    checks = checks_of(before.statements[number])
+    there = [checks_of(rewriting.after.loops[loop].statements[other]) for loop, other, _ in stands]
+    many = len(stands)
+    return many > 0 and sorted(there) == ([checks] if many == 1 else [[(1, 0, 0, many, rest), *checks] for rest in range(many)])
+
+
+def checks_of(statement):
+    return [key_of_condition(condition) for condition in statement.conditions]
+
+
+def lost_machine(rewriting, place, number, stands):
     """The pairs (n, i) that are works and not stood for just once, or none and stood for."""
     once = empty_machine(2)
     twice = empty_machine(2)
-    for loop, statement, shift in stands_for(rewriting, place, number):
+    for loop, statement, shift in stands:
         after = rewriting.after.loops[loop]
         works = moved_machine(work_machine(after, after.statements[statement]), 1, shift)
-        twice = joined(twice, joined(once, works, BOTH), EITHER)
+        if not is_empty(once):
+            twice = joined(twice, joined(once, works, BOTH), EITHER)
         once = joined(once, works, EITHER)
     before = rewriting.before.loops[place]
     works = work_machine(before, before.statements[number])
@@ -55,4 +84,4 @@ def turned_pair(rewriting):
 
 def is_let(rewriting):
     """Whether the rewriting is whole and keeps the order."""
-    return is_whole(rewriting) and not Turnings(rewriting).is_turned()
+    return is_whole(rewriting) and not turnings_of(rewriting).is_turned()

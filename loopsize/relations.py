@@ -59,6 +59,22 @@ def meeting_machine(one, other):
     return between_machine((at_size, at_cell, at_place), start, start + other.divisor - 1)
 
 
+def meeting_gap(one, other):
+    """The gap k - i at which two places are of one cell, that of one at i, that of other at k, if nothing else matters;
+    otherwise None. A gap without numbers is (1, 0)."""
+    turned = other.divisor != 1
+    at_size, at_place, at_cell, start = cells_sum(other, one.straight) if turned else cells_sum(one, other.straight)
+    if at_size != 0 or at_place + at_cell != 0:
+        return None
+    last = start + (other.divisor if turned else one.divisor) - 1
+    if at_place == 0:
+        return ANY_GAP if start <= 0 <= last else (1, 0)
+    least = -(-start // abs(at_place))
+    most = last // abs(at_place)
+    # These are bounds of the counter of the place less that of the cell, or the other way round.
+    return (least, most) if turned == (at_place > 0) else (-most, -least)
+
+
 def cells_sum(place, cell):
     """The factors of the size, and of the counters of a place and of a cell, in the sum that the place has ahead of
     the cell, times the divisor; and what this sum is at the least if they are of one cell."""

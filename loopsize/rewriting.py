@@ -19,6 +19,8 @@ class Rewriting:
         self.before = before
         self.after = after
         self.origins = origins
+        # What was found out about it: a rewriting is asked one thing after the other.
+        self.known = {}
 
     def then(self, other):
         """The rewriting from the first program to the last."""

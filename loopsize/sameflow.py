@@ -1,13 +1,13 @@
 """Whether a rewriting leaves to each read its source, and to each cell its last work."""
 
-from loopsize.lasts import staying
-from loopsize.machines import EITHER, FIRST_ALONE, UNLIKE, empty_machine, joined, joined_freely
+from loopsize.lasts import source_at, staying
+from loopsize.machines import EITHER, FIRST_ALONE, UNLIKE, empty_machine, joined, joined_freely, reordered_machine
 from loopsize.orders import check_whole, is_whole
 from loopsize.rewriting import stands_for
 from loopsize.runs import log_program
 from loopsize.shifts import first_at, least_size, moved_machine
 from loopsize.sources import Sources, in_any, reads_of, writers_of
-from loopsize.turnings import Turnings
+from loopsize.turnings import WRITE, read_of, turnings_of
 
 SMALL_SIZES = 6
 MANY_TURNS = 1000
@@ -22,13 +22,15 @@ def unlike_flow(rewriting):
 
 def first_unlike_flow(rewriting):
     """The same of a rewriting that is whole."""
-    turnings = Turnings(rewriting)
+    turnings = turnings_of(rewriting)
     # Sources hang on the order of a read and the writes of its cell, and on that of the writes ahead of it, alone.
     mixed = turnings.mixed_arrays()
     reads = turnings.moved_reads(mixed)
     if not reads and not mixed:
         return None
-    early = early_unlike(rewriting)
+    # Below the least size at which works are turned about the flow is the same.
+    least = least_size([meeting.machine() for meeting in turnings.pairs()])
+    early = early_unlike(rewriting, least) if mixed else first_moved(rewriting, least)
     if early is not None:
         return early
     before = Sources(rewriting.before)
@@ -42,9 +44,27 @@ def first_unlike_flow(rewriting):
     return first_unlike(rewriting.before, kept_entries(unlike_there), kept_entries(works))
 
 
-def early_unlike(rewriting):
+def first_moved(rewriting, n):
+    """(n, work, read) of the first read that changes places with a write of its cell at a size, if it takes another
+    value; otherwise None. No two writes of a cell change places."""
+    found = []
+    for meeting in turnings_of(rewriting).pairs():
+        read = read_of(meeting)
+        machine = meeting.machine()
+        found.append((*read, reordered_machine(machine, (0, 2, 1)) if meeting.accesses[0] == WRITE else machine))
+    loop, counter, statement, number = first_at(rewriting.before, [n], found)
+    work = (loop, counter, statement)
+    there = rewriting.places(n, work)[0]
+    source = source_at(rewriting.before, n, (loop, statement, number), counter)
+    other = source_at(rewriting.after, n, (there[0], there[2], number), there[1])
+    if source == (None if other is None else rewriting.origin(other)):
+        return None
+    return n, work, number
+
+
+def early_unlike(rewriting, least):
     """What is seen at some small sizes already, by plain logs: there most flows that are not the same differ."""
-    for n in range(SMALL_SIZES):
+    for n in range(least, SMALL_SIZES):
         loops = rewriting.before.loops + rewriting.after.loops
         if sum([loop.many_turns(n) for loop in loops]) > MANY_TURNS:
             return None
@@ -77,10 +97,10 @@ def first_unlike(program, reads, works):
     n = least_size([entry[3] for entry in reads + works])
     if n is None:
         return None
-    first = first_at(program, n, reads)
+    first = first_at(program, [n], reads)
     if first is not None:
         return n, first[:3], first[3]
-    return n, first_at(program, n, works)[:3], None
+    return n, first_at(program, [n], works)[:3], None
 
 
 def unlike_reads(rewriting, before, after, read):

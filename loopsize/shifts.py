@@ -2,7 +2,7 @@
 
 from loopsize.cuts import left_machine, put_machine
 from loopsize.machines import arity_of, minimal
-from loopsize.searches import greatest_in, least_first
+from loopsize.searches import goals_behind, greatest_in, least_first, least_from
 
 
 def moved_machine(machine, place, shift):
@@ -36,23 +36,28 @@ def ends_moved(rows, ends, mark, state, carry):
     return carry == 0 and ends[state]
 
 
-def first_counter(machine, n, down):
-    """The first counter that is in at a size by a machine of rows (n, i) or (n, i, k), None if there is none."""
-    there = put_machine(machine, 0, n)
-    if arity_of(there) > 1:
-        there = left_machine(there, 1)
-    return greatest_in(there) if down else least_first(there)
+def first_counter(machine, fixed, down):
+    """The first counter behind fixed numbers, a size or more, of the rows of a machine; None if there is none."""
+    arity = arity_of(machine)
+    free = arity - len(fixed) - 1
+    if not down:
+        return least_from(machine[0], goals_behind(machine, arity, len(fixed)), fixed, 0, free)
+    there = machine
+    for number in fixed:
+        there = put_machine(there, 0, number)
+    return greatest_in(left_machine(there, 1) if free > 0 else there)
 
 
-def first_at(program, n, found):
-    """The first work at a size, with its least mark: (loop, counter, statement, mark), None if there is none.
+def first_at(program, fixed, found):
+    """The first work behind fixed numbers, with its least mark: (loop, counter, statement, mark), None if there is
+    none.
 
-    found has tuples (loop, statement, mark, machine), the machine of rows (n, i) or (n, i, k).
+    found has tuples (loop, statement, mark, machine), the machine of rows that begin with the fixed numbers.
     """
     for place, loop in enumerate(program.loops):
         firsts = []
         for other, statement, mark, machine in found:
-            counter = first_counter(machine, n, loop.down) if other == place else None
+            counter = first_counter(machine, fixed, loop.down) if other == place else None
             if counter is not None:
                 firsts.append((-counter if loop.down else counter, statement, mark))
         if firsts:

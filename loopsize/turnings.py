@@ -5,14 +5,14 @@ which comes first in the program after.
 """
 
 from loopsize.conditionsets import in_all
-from loopsize.cuts import put_machine
 from loopsize.machines import BOTH, joined_freely, widened_machine
-from loopsize.relations import gap_ahead, gap_machine, meeting_machine, place_of_access
+from loopsize.relations import ANY_GAP, gap_ahead, gap_machine, meeting_gap, meeting_machine, place_of_access
 from loopsize.rewriting import stands_for
 from loopsize.shifts import first_at, least_size, moved_machine
 from loopsize.workmachines import work_machine
 
 FAR_GAP = 600
+TOP_LOOP = 6
 WRITE = -1
 
 
@@ -24,14 +24,44 @@ class Stand:
         self.place = stand[:2]
         self.shift = stand[2]
         self.loop = rewriting.after.loops[stand[0]]
-        self.works = []
+        self.works = {}
 
     def wide_works(self, place):
         """The machine of the works (n, i), with any number put in at the place 1 or 2."""
-        if not self.works:
+        if place not in self.works:
             own = moved_machine(work_machine(self.loop, self.loop.statements[self.place[1]]), 1, self.shift)
-            self.works.extend([widened_machine(own, 1), widened_machine(own, 2)])
-        return self.works[place - 1]
+            self.works[place] = widened_machine(own, place)
+        return self.works[place]
+
+
+class Meeting:
+    """Two accesses of two stands that may be of one cell, and change places. The gap is that of their counters; if it
+    does not tell all, parts has the machine of the rows (n, i, k) at which they are of one cell."""
+
+    def __init__(self, one, other, accesses, array, gap, parts):
+        self.one = one
+        self.other = other
+        self.accesses = accesses
+        self.array = array
+        self.gap = gap
+        self.parts = parts
+        self.told = []
+
+    def machine(self):
+        """A machine of the rows (n, i, k) at which they meet and change places, None if it has no rows; it may have
+        more states than are needed."""
+        if not self.told:
+            order = [] if self.gap == ANY_GAP else [gap_machine(self.gap)]
+            rows, ends = joined_freely(in_all(order + self.parts + [self.one.wide_works(2)]), self.other.wide_works(1), BOTH)
+            self.told.append((rows, ends) if True in ends else None)
+        return self.told[0]
+
+    def is_met(self):
+        return self.machine() is not None
+
+    def last_loop(self):
+        """The first loop of the program before by which both accesses can be done."""
+        return max(self.one.name[0], self.other.name[0])
 
 
 class Turnings:
@@ -39,83 +69,83 @@ class Turnings:
 
     def __init__(self, rewriting):
         self.rewriting = rewriting
-        self.meetings = {}
-        self.couples = []
+        self.cells = {}
+        self.meetings = []
         stands = stands_of(rewriting)
         for one in stands:
             for other in stands:
                 gap = turned_gap(rewriting, one, other)
                 if gap is not None:
-                    self.couples.append((one, other, gap))
+                    self.meetings.extend(self.meetings_of(one, other, gap))
 
-    def meetings_of(self, one, other):
-        """For two accesses each of two statements that touch one array, one of them a write: tuples (access, access,
-        array, machine), the machine of the rows (n, i, k) at which they are of one cell."""
-        if (one, other) not in self.meetings:
+    def meetings_of(self, one, other, gap):
+        """The meetings of two stands that change places with a gap."""
+        told = []
+        steps = gap_steps(self.rewriting, one, other)
+        for accesses, array, near, parts in self.cells_of(one.name, other.name):
+            both = common_gap(gap, near)
+            if not has_no_gap(both, steps):
+                told.append(Meeting(one, other, accesses, array, both, parts))
+        return told
+
+    def cells_of(self, one, other):
+        """For two accesses each of two statements that touch one array, one of them a write: tuples (accesses, array,
+        gap, parts) as a meeting has them."""
+        if (one, other) not in self.cells:
             told = []
             for access, array, place in all_places(self.rewriting.before, one):
                 for other_access, other_array, other_place in all_places(self.rewriting.before, other):
                     if array == other_array and WRITE in (access, other_access):
-                        told.append((access, other_access, array, meeting_machine(place, other_place)))
-            self.meetings[(one, other)] = told
-        return self.meetings[(one, other)]
-
-    def machine_of(self, couple, meeting):
-        """A machine of the rows (n, i, k) of two stands that meet so and change places, None if it has no rows; it may
-        have more states than are needed."""
-        one, other, gap = couple
-        told = in_all([gap_machine(gap), meeting, one.wide_works(2)])
-        rows, ends = joined_freely(told, other.wide_works(1), BOTH)
-        return (rows, ends) if True in ends else None
+                        near = meeting_gap(place, other_place)
+                        parts = [meeting_machine(place, other_place)] if near is None else []
+                        told.append(((access, other_access), array, near or ANY_GAP, parts))
+            self.cells[(one, other)] = told
+        return self.cells[(one, other)]
 
     def pairs(self):
-        """(name, other name, machine) for all accesses of stands at which works meet and change places."""
-        told = []
-        for couple in self.couples:
-            one, other, _ = couple
-            for _, _, _, meeting in self.meetings_of(one.name, other.name):
-                machine = self.machine_of(couple, meeting)
-                if machine is not None:
-                    told.append((one.name, other.name, machine))
-        return told
+        """All meetings at which works meet and change places."""
+        return [meeting for meeting in self.meetings if meeting.is_met()]
 
     def is_turned(self):
         """Whether any works meet and change places."""
-        for couple in self.couples:
-            one, other, _ = couple
-            for _, _, _, meeting in self.meetings_of(one.name, other.name):
-                if self.machine_of(couple, meeting) is not None:
-                    return True
+        for meeting in self.meetings:
+            if meeting.is_met():
+                return True
         return False
 
     def mixed_arrays(self):
         """The arrays of which two writes of one cell change places: a dict with, for each of them, the first loop of
         the program before by which both writes can be done."""
         told = {}
-        for couple in sorted(self.couples, key=last_loop):
-            one, other, _ = couple
-            for access, other_access, array, meeting in self.meetings_of(one.name, other.name):
-                if access == other_access == WRITE and array not in told:
-                    if self.machine_of(couple, meeting) is not None:
-                        told[array] = last_loop(couple)
+        for meeting in self.meetings:
+            if meeting.accesses == (WRITE, WRITE) and meeting.last_loop() < told.get(meeting.array, TOP_LOOP):
+                if meeting.is_met():
+                    told[meeting.array] = meeting.last_loop()
         return told
 
     def moved_reads(self, mixed):
         """The reads that change places with a write of their cell, but for those behind writes that do so."""
         told = []
-        for couple in self.couples:
-            one, other, _ = couple
-            for access, other_access, array, meeting in self.meetings_of(one.name, other.name):
-                read = (*other.name, other_access) if access == WRITE else (*one.name, access)
-                is_behind = array in mixed and read[0] >= mixed[array]
-                if read[2] != WRITE and not is_behind and read not in told:
-                    if self.machine_of(couple, meeting) is not None:
-                        told.append(read)
+        for meeting in self.meetings:
+            read = read_of(meeting)
+            is_behind = read is None or meeting.array in mixed and read[0] >= mixed[meeting.array]
+            if not is_behind and read not in told and meeting.is_met():
+                told.append(read)
         return told
 
 
-def last_loop(couple):
-    return max(couple[0].name[0], couple[1].name[0])
+def read_of(meeting):
+    """The read of a meeting, None if both accesses are writes."""
+    access, other_access = meeting.accesses
+    if access != WRITE:
+        return (*meeting.one.name, access)
+    return None if other_access == WRITE else (*meeting.other.name, other_access)
+
+
+def turnings_of(rewriting):
+    if "turnings" not in rewriting.known:
+        rewriting.known["turnings"] = Turnings(rewriting)
+    return rewriting.known["turnings"]
 
 
 def stands_of(rewriting):
@@ -137,9 +167,8 @@ def turned_gap(rewriting, one, other):
     if before is None or after is None:
         return None
     shift = other.shift - one.shift
-    least = [-bound for bound in before[1:] if bound is not None] + [b + shift for b in after[:1] if b is not None]
-    most = [-bound for bound in before[:1] if bound is not None] + [b + shift for b in after[1:] if b is not None]
-    gap = (max(least, default=None), min(most, default=None))
+    turned = tuple([None if bound is None else -bound for bound in before[::-1]])
+    gap = common_gap(turned, tuple([None if bound is None else bound + shift for bound in after]))
     return None if has_no_gap(gap, gap_steps(rewriting, one, other)) else gap
 
 
@@ -151,6 +180,13 @@ def gap_steps(rewriting, one, other):
     if one.place[0] == other.place[0]:
         told.append((one.loop.step, other.shift - one.shift))
     return told
+
+
+def common_gap(one, other):
+    """What both gaps allow."""
+    least = [gap[0] for gap in (one, other) if gap[0] is not None]
+    most = [gap[1] for gap in (one, other) if gap[1] is not None]
+    return max(least, default=None), min(most, default=None)
 
 
 def has_no_gap(gap, steps):
@@ -172,15 +208,15 @@ def all_places(program, name):
 
 def first_turned(rewriting):
     """(n, first, second) of the least size: the first work, and the first one that meets it and comes ahead of it."""
-    found = Turnings(rewriting).pairs()
+    found = turnings_of(rewriting).pairs()
     if not found:
         return None
     program = rewriting.before
-    n = least_size([machine for _, _, machine in found])
-    firsts = [(one[0], one[1], 0, machine) for one, _, machine in found]
-    loop, counter, statement, _ = first_at(program, n, firsts)
+    n = least_size([meeting.machine() for meeting in found])
+    firsts = [(*meeting.one.name, 0, meeting.machine()) for meeting in found]
+    loop, counter, statement, _ = first_at(program, [n], firsts)
     behind = []
-    for one, other, machine in found:
-        if one == (loop, statement):
-            behind.append((other[0], other[1], 0, put_machine(machine, 1, counter)))
-    return n, (loop, counter, statement), first_at(program, n, behind)[:3]
+    for meeting in found:
+        if meeting.one.name == (loop, statement):
+            behind.append((*meeting.other.name, 0, meeting.machine()))
+    return n, (loop, counter, statement), first_at(program, [n, counter], behind)[:3]

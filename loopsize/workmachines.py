@@ -7,10 +7,10 @@ from loopsize.conditionsets import in_all, least_machine, rest_machine
 def range_machines(loop):
     """The machines of what a counter of a loop has to keep to."""
     low, high = loop.low, loop.high
-    told = [
-        least_machine((-low.straight.n, low.divisor), low.straight.one - low.divisor + 1),
-        least_machine((high.straight.n, -high.divisor), high.divisor - high.straight.one),
-    ]
+    told = [least_machine((high.straight.n, -high.divisor), high.divisor - high.straight.one)]
+    # Counters are never below 0.
+    if low.straight.n != 0 or low.straight.one > 0:
+        told.append(least_machine((-low.straight.n, low.divisor), low.straight.one - low.divisor + 1))
     if loop.step > 1:
         told.append(rest_machine((-low.straight.n, 1), loop.step, (low.straight.one % loop.step,)))
     return told
