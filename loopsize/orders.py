@@ -1,13 +1,16 @@
 """What a rewriting loses, and what it turns about."""
 
+from loopsize.conditionsets import joined_at_last
 from loopsize.errors import NotWhole
-from loopsize.machines import BOTH, EITHER, UNLIKE, empty_machine, joined
+from loopsize.machines import BOTH, EITHER, UNLIKE, empty_machine, joined, joined_freely
 from loopsize.rewriting import stands_for
 from loopsize.shifts import first_at, least_size, moved_machine
 from loopsize.sources import is_empty
 from loopsize.touches import key_of_condition
 from loopsize.turnings import first_turned, turnings_of
-from loopsize.workmachines import work_machine
+from loopsize.workmachines import work_machines
+
+MANY_STANDS = 3
 
 
 def lost_work(rewriting):
@@ -25,7 +28,7 @@ def first_lost(rewriting):
             stands = stands_for(rewriting, place, number)
             if not is_plainly_once(rewriting, place, number, stands):
                 machine = lost_machine(rewriting, place, number, stands)
-                if not is_empty(machine):
+                if True in machine[1]:
                     found.append((place, number, 0, machine))
     if not found:
         return None
@@ -52,18 +55,28 @@ def checks_of(statement):
 
 
 def lost_machine(rewriting, place, number, stands):
-    """The pairs (n, i) that are works and not stood for just once, or none and stood for."""
-    once = empty_machine(2)
+    """The pairs (n, i) that are works and not stood for just once, or none and stood for. There may be more states
+    than are needed: few machines are joined here, and those of turns go the same way, so there are not many more."""
+    once = None
     twice = empty_machine(2)
     for loop, statement, shift in stands:
         after = rewriting.after.loops[loop]
-        works = moved_machine(work_machine(after, after.statements[statement]), 1, shift)
-        if not is_empty(once):
-            twice = joined(twice, joined(once, works, BOTH), EITHER)
-        once = joined(once, works, EITHER)
+        works = moved_machine(works_freely(after, after.statements[statement]), 1, shift)
+        if once is None:
+            once = works
+        else:
+            again = joined_freely(once, works, BOTH)
+            if True in again[1]:
+                twice = joined(twice, again, EITHER)
+            once = joined_freely(once, works, EITHER) if len(stands) < MANY_STANDS else joined(once, works, EITHER)
     before = rewriting.before.loops[place]
-    works = work_machine(before, before.statements[number])
-    return joined(joined(works, once, UNLIKE), twice, EITHER)
+    works = works_freely(before, before.statements[number])
+    unlike = works if once is None else joined_freely(works, once, UNLIKE)
+    return unlike if is_empty(twice) else joined_freely(unlike, twice, EITHER)
+
+
+def works_freely(loop, statement):
+    return joined_at_last(work_machines(loop, statement), BOTH)
 
 
 def is_whole(rewriting):

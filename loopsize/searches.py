@@ -21,21 +21,43 @@ def goals_behind(machine, arity, place):
 
 
 def letters_at(level, fixed, digit, free):
-    return letters_with([bit(number, level) for number in fixed] + [digit], free)
-
-
-def goals_by_level(rows, goals, fixed, low, free):
-    """For each level the states from which the fixed numbers and low, from their digit there on, lead to a goal."""
-    told = [goals]
-    for level in reversed(range(max([number.bit_length() for number in [*fixed, low]]))):
-        letters = letters_at(level, fixed, bit(low, level), free)
-        behind = told[-1]
-        told.append([any([behind[row[letter]] for letter in letters]) for row in rows])
-    return told[::-1]
+    """The letters with the digits of the fixed numbers at a level, and one more digit."""
+    low = digit << len(fixed)
+    for place, number in enumerate(fixed):
+        low = low | (number >> level & 1) << place
+    return [low] if free == 0 else [low | rest << len(fixed) + 1 for rest in range(1 << free)]
 
 
 def followers(rows, states, letters):
-    return sorted({rows[state][letter] for state in states for letter in letters})
+    """The states behind some states."""
+    return list({rows[state][letter]: True for state in states for letter in letters})
+
+
+def fronts_of(rows, fixed, last, free):
+    """For each level up to the last one the states to which the fixed numbers lead, with any digits of the others."""
+    told = [[0]]
+    for level in range(last):
+        letters = letters_at(level, fixed, 0, free) + letters_at(level, fixed, 1, free)
+        told.append(followers(rows, told[-1], letters))
+    return told
+
+
+def zones_of(rows, goals, fronts, fixed, low, free):
+    """For each level the states of its front from which the fixed numbers and low, from their digit there on, lead to
+    a goal."""
+    told = [{state: True for state in fronts[-1] if goals[state]}]
+    for level in reversed(range(len(fronts) - 1)):
+        letters = letters_at(level, fixed, bit(low, level), free)
+        behind = told[-1]
+        told.append({state: True for state in fronts[level] if leads_there(rows[state], letters, behind)})
+    return told[::-1]
+
+
+def leads_there(row, letters, goals):
+    for letter in letters:
+        if row[letter] in goals:
+            return True
+    return False
 
 
 def least_from(rows, goals, fixed, low, free):
@@ -45,29 +67,36 @@ def least_from(rows, goals, fixed, low, free):
     The number has the digits of low down to some level, there 1 instead of 0, and whatever is least below: so the
     lowest such level is looked for.
     """
-    zones = goals_by_level(rows, goals, fixed, low, free)
-    if zones[0][0]:
+    last = max([number.bit_length() for number in [*fixed, low]])
+    fronts = fronts_of(rows, fixed, last, free)
+    zones = zones_of(rows, goals, fronts, fixed, low, free)
+    if 0 in zones[0]:
         return low
-    last = len(zones) - 1
-    lasting = lasting_states(rows, goals, letters_at(last, fixed, 0, free), letters_at(last, fixed, 1, free))
-    fronts = [[0]]
-    while fronts[-1]:
-        level = len(fronts) - 1
+    for level in range(last):
         letters = letters_at(level, fixed, 1, free)
-        zone = zones[min(level + 1, last)]
-        found = [state for state in fronts[-1] if any([zone[rows[state][letter]] for letter in letters])]
+        found = [state for state in fronts[level] if leads_there(rows[state], letters, zones[level + 1])]
         if found and bit(low, level) == 0:
             number = (low >> level | 1) << level
-            return number | digits_below(rows, fronts[:-1], found, (0, 1), fixed, free)
-        front = followers(rows, fronts[-1], letters + letters_at(level, fixed, 0, free))
-        fronts.append([state for state in front if level + 1 < last or lasting[state]])
+            return number | digits_below(rows, fronts[:level], found, (0, 1), fixed, free)
+    return least_behind(rows, goals, fronts, fixed, free)
+
+
+def least_behind(rows, goals, fronts, fixed, free):
+    """The same of numbers with more digits than all given ones have: there are as many fronts as these have levels,
+    and one more."""
+    last = len(fronts) - 1
+    zeros = letters_at(last, fixed, 0, free)
+    ones = letters_at(last, fixed, 1, free)
+    lasting = leads_to(rows, zeros + ones, [any([goals[row[letter]] for letter in ones]) for row in rows])
+    front = [state for state in fronts[-1] if lasting[state]]
+    fronts = fronts[:-1]
+    while front:
+        found = [state for state in front if any([goals[rows[state][letter]] for letter in ones])]
+        if found:
+            return 1 << len(fronts) | digits_below(rows, fronts, found, (0, 1), fixed, free)
+        fronts.append(front)
+        front = [state for state in followers(rows, front, zeros + ones) if lasting[state]]
     return None
-
-
-def lasting_states(rows, goals, zeros, ones):
-    """The states from which, behind the last digits of all given numbers, a digit 1 can still lead to a goal."""
-    marked = [any([goals[row[letter]] for letter in ones]) for row in rows]
-    return leads_to(rows, zeros + ones, marked)
 
 
 def digits_below(rows, fronts, found, order, fixed, free):

@@ -28,9 +28,11 @@ class Stand:
 
     def wide_works(self, place):
         """The machine of the works (n, i), with any number put in at the place 1 or 2."""
+        if not self.works:
+            own = work_machine(self.loop, self.loop.statements[self.place[1]])
+            self.works[0] = moved_machine(own, 1, self.shift)
         if place not in self.works:
-            own = moved_machine(work_machine(self.loop, self.loop.statements[self.place[1]]), 1, self.shift)
-            self.works[place] = widened_machine(own, place)
+            self.works[place] = widened_machine(self.works[0], place)
         return self.works[place]
 
 
@@ -52,7 +54,10 @@ class Meeting:
         more states than are needed."""
         if not self.told:
             order = [] if self.gap == ANY_GAP else [gap_machine(self.gap)]
-            rows, ends = joined_freely(in_all(order + self.parts + [self.one.wide_works(2)]), self.other.wide_works(1), BOTH)
+            told = self.one.wide_works(2)
+            if order + self.parts:
+                told = joined_freely(in_all(order + self.parts), told, BOTH)
+            rows, ends = joined_freely(told, self.other.wide_works(1), BOTH)
             self.told.append((rows, ends) if True in ends else None)
         return self.told[0]
 
