@@ -87,6 +87,9 @@ def rest_machine(factors, m, rests):
     common = m
     for factor in factors:
         common = gcd(common, factor)
+    wanted_at = [at for at, rest in enumerate(range(0, m, common)) if rest in rests]
+    if len(wanted_at) == 1:
+        return one_rest_machine([factor // common for factor in factors], m // common, wanted_at[0])
     first = shortest([rest in rests for rest in range(0, m, common)])
 
     def follow(wanted, digits):
@@ -99,6 +102,22 @@ def rest_machine(factors, m, rests):
 
     sums = digit_sums([factor // common for factor in factors])
     return explored_freely(first, sums, follow, lambda wanted: wanted[0])
+
+
+def one_rest_machine(factors, m, rest):
+    """The same for one rest alone. A state is the modulus that is left and the rest of what is to come, None if it
+    cannot be had."""
+
+    def follow(wanted, digits):
+        if wanted is None or wanted[0] == 1:
+            return wanted
+        many, left = wanted
+        left = (left - digits) % many
+        if many % 2 == 1:
+            return many, (left if left % 2 == 0 else left + many) // 2
+        return (many // 2, left // 2) if left % 2 == 0 else None
+
+    return explored_freely((m, rest), digit_sums(factors), follow, lambda wanted: wanted is not None and wanted[1] == 0)
 
 
 def shortest(wanted):

@@ -6,12 +6,12 @@ the other one always writes another cell.
 """
 
 from loopsize.checks import statement_at
-from loopsize.conditionsets import between_machine, in_all, least_machine
+from loopsize.conditionsets import between_machine, in_all
 from loopsize.cuts import left_freely, left_machine
 from loopsize.guesses import Guesses
 from loopsize.machines import BOTH, EITHER, FIRST_ALONE, empty_machine, full_machine, joined, joined_freely
 from loopsize.machines import minimal, widened_machine
-from loopsize.relations import ANY_GAP, difference_machine, gap_ahead
+from loopsize.relations import ANY_GAP, common_gap, constant_difference, difference_machine, gap_ahead, gap_machine
 from loopsize.sources import is_empty, reads_of, writers_of
 
 MANY_BUNDLES = 1000
@@ -19,32 +19,57 @@ MANY_BUNDLES = 1000
 
 def triples_of(sources, array, written):
     """All triples with rows: of the reads of an array, and of the statements that write it, or another one."""
-    writers = writers_of(sources.program, written)
-    told = []
-    for read in reads_of(sources.program, array):
-        taken = sources.taken_by(read)
-        for source in taken:
-            for other in writers:
-                machine = between_works(sources, read, source, taken[source], other)
-                if not is_empty(machine):
-                    told.append((read, source, other, machine))
-    return told
+    key = ("triples", array, written)
+    if key not in sources.told:
+        told = []
+        writers = writers_of(sources.program, written)
+        for read in reads_of(sources.program, array):
+            taken = sources.taken_by(read)
+            for source in taken:
+                between = Between(sources, read, source, taken[source])
+                for other in writers:
+                    machine = between.works(other)
+                    if not is_empty(machine):
+                        told.append((read, source, other, machine))
+        sources.told[key] = told
+    return sources.told[key]
 
 
-def between_works(sources, read, source, taken, other):
-    """The machine of a triple, out of that of the rows (n, j, i) at which the read takes from the source."""
-    behind = gap_ahead(sources.program, other, source)
-    ahead = gap_ahead(sources.program, read[:2], other)
-    if behind is None or ahead is None:
-        return empty_machine(3)
-    order = difference_machine((0, 1, -1), behind)
-    return in_all([sources_with(taken, ahead), order, sources.wide_works(other, 1)])
+class Between:
+    """The works between a read and its source, out of the rows (n, j, i) at which the read takes from the source."""
+
+    def __init__(self, sources, read, source, taken):
+        self.sources = sources
+        self.read = read
+        self.source = source
+        self.taken = taken
+        self.apart = constant_difference(taken)
+        self.wide = widened_machine(left_machine(taken, 1), 2)
+
+    def works(self, other):
+        """The rows (n, i, k) at which the work of the statement other at k comes between."""
+        program = self.sources.program
+        behind = gap_ahead(program, other, self.source)
+        ahead = gap_ahead(program, self.read[:2], other)
+        if behind is None or ahead is None:
+            return empty_machine(3)
+        if ahead == ANY_GAP:
+            order = [self.wide, difference_machine((0, 1, -1), behind)]
+        elif self.apart is not None:
+            # The gap k - i is that of k and j, and of j and i together.
+            near = tuple([None if bound is None else bound + self.apart for bound in ahead])
+            far = tuple([None if bound is None else -bound for bound in behind[::-1]])
+            gap = common_gap(near, far)
+            if None not in gap and gap[0] > gap[1]:
+                return empty_machine(3)
+            order = [gap_machine(gap), self.wide]
+        else:
+            order = [rows_with(self.taken, ahead), difference_machine((0, 1, -1), behind)]
+        return in_all(order + [self.sources.wide_works(other, 1)])
 
 
-def sources_with(taken, gap):
+def rows_with(taken, gap):
     """The rows (n, i, k) such that (n, j, i) is taken for some j with the gap k - j."""
-    if gap == ANY_GAP:
-        return widened_machine(left_machine(taken, 1), 2)
     rows, ends = joined_freely(widened_machine(taken, 3), difference_machine((0, -1, 0, 1), gap), BOTH)
     rows, ends = left_freely((rows, ends), 1)
     return minimal(rows, ends)
@@ -64,7 +89,7 @@ def distance_rows(sources, array):
         factors, constant = cells_apart(sources.program, source, other)
         for sign in (1, -1):
             apart = between_machine((*factors, -sign), -constant, -constant)
-            part = in_all([apart, least_machine((0, 0, 0, 1), 1), widened_machine(machine, 3)])
+            part = joined(apart, widened_machine(machine, 3), BOTH)
             if not is_empty(part) and part not in told:
                 told.append(part)
     return told
@@ -73,9 +98,23 @@ def distance_rows(sources, array):
 def distance_numbers(sources, array):
     """The machine of all distances of an array."""
     told = empty_machine(1)
-    for part in distance_rows(sources, array):
-        rows, ends = Guesses([part], (3,)).machine()
-        told = joined(told, minimal(rows, ends), EITHER)
+    for _, source, other, machine in triples_of(sources, array, array):
+        factors, constant = cells_apart(sources.program, source, other)
+        if factors[0] == 0:
+            # The size is left out ahead of the counters, as the distance hangs on these alone.
+            factors = factors[1:]
+            machine = left_machine(machine, 0)
+        places = len(factors)
+        for sign in (1, -1):
+            known = told
+            for _ in range(places):
+                known = widened_machine(known, 0)
+            apart = between_machine((*factors, -sign), -constant, -constant)
+            fresh = joined_freely(apart, known, FIRST_ALONE)
+            part = joined_freely(fresh, widened_machine(machine, places), BOTH)
+            if True in part[1]:
+                rows, ends = Guesses([part], (places,)).machine()
+                told = joined(told, minimal(rows, ends), EITHER)
     return told
 
 

@@ -10,6 +10,7 @@ from loopsize.copies import is_copy
 from loopsize.cuts import left_machine
 from loopsize.errors import Deep
 from loopsize.machines import BOTH, EITHER, FIRST_ALONE, empty_machine, joined, joined_freely, widened_machine
+from loopsize.relations import constant_difference
 from loopsize.searches import least_row
 from loopsize.sources import Sources, is_empty, without_all
 
@@ -94,13 +95,6 @@ class Endings:
     def takes_input(self, read):
         """The works (n, j) of a read that take the input."""
         return without_all(self.sources.works_of(read[:2]), self.sources.reaches_from(read, 0))
-
-
-def constant_difference(own):
-    """j - i if it is the same for all rows (n, j, i), otherwise None."""
-    _, j, i = least_row(own, 3, 0)
-    others = joined_freely(own, between_machine((0, 1, -1), j - i, j - i), FIRST_ALONE)
-    return None if True in others[1] else j - i
 
 
 def stretch_machine(works, inner, apart):

@@ -15,17 +15,17 @@ from loopsize.relations import gap_ahead
 from loopsize.runs import log_program
 from loopsize.searches import least_first, least_row
 from loopsize.shifts import first_at, least_size
-from loopsize.sources import Sources, is_empty, reads_of, without_all
+from loopsize.sources import is_empty, reads_of, sources_for, without_all
 
 MOST_FAILING = 100
-SMALL_SIZES = 6
-MANY_TURNS = 1000
+SMALL_SIZES = 5
+MANY_TURNS = 40
 
 
 def kept_sources(program, array):
     """What tells the sources of a program; refuses an array of which some read takes the value of the beginning."""
     check_array(program, array)
-    sources = Sources(program)
+    sources = sources_for(program)
     found = first_not_kept(sources, array)
     if found is not None:
         raise NotKept(found[0], found[1], found[2])
@@ -34,10 +34,16 @@ def kept_sources(program, array):
 
 def first_not_kept(sources, array):
     """(n, work, read) of what takes a value of the beginning first; None if the array is kept between."""
+    key = ("kept", array)
+    if key not in sources.told:
+        early = early_not_kept(sources.program, array)
+        sources.told[key] = not_kept_at_all(sources, array) if early is None else early
+    return sources.told[key]
+
+
+def not_kept_at_all(sources, array):
+    """The same, without a look at small sizes first."""
     program = sources.program
-    early = early_not_kept(program, array)
-    if early is not None:
-        return early
     found = []
     for read in reads_of(program, array):
         machine = without_all(sources.works_of(read[:2]), sources.reaches_from(read, 0))
@@ -73,7 +79,10 @@ def fold_distances(program, name):
 
 def tail_of_distances(sources, name):
     """How the distances of all sizes go on: (start, period, rests, early)."""
-    return tail_of_machine(distance_numbers(sources, name))
+    key = ("tail", name)
+    if key not in sources.told:
+        sources.told[key] = tail_of_machine(distance_numbers(sources, name))
+    return sources.told[key]
 
 
 def fold_least(program, name):
@@ -107,7 +116,12 @@ def fold_is_right(program, name, m):
     sources = kept_sources(program, name)
     if not is_integer(m) or m < 1:
         raise BadNumber("m", m)
-    _, period, rests, early = tail_of_distances(sources, name)
+    return divides_none(tail_of_distances(sources, name), m)
+
+
+def divides_none(tail, m):
+    """Whether a number divides none of those that go on so."""
+    _, period, rests, early = tail
     return not divides_one(gcd(m, period), rests) and not divides_one(m, early)
 
 
@@ -116,6 +130,8 @@ def fold_fails(program, name, m):
     sources = kept_sources(program, name)
     if not is_integer_from(m, 1, MOST_FAILING):
         raise BadNumber("m", m)
+    if ("tail", name) in sources.told and divides_none(sources.told[("tail", name)], m):
+        return None
     best = None
     for triple in triples_of(sources, name, name):
         factors, constant = cells_apart(program, triple[1], triple[2])

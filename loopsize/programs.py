@@ -101,6 +101,8 @@ class Program:
         check_many("loops", loops, MOST_LOOPS)
         self.loops = tuple(loops)
         self.arrays = arrays_in(self.loops)
+        # What was found out about it: a program is asked one thing after the other.
+        self.known = {}
 
 
 def turns_from(loop, least, n):

@@ -5,7 +5,8 @@ A gap (least, most) is what the difference i - j may be, None for a side without
 
 from loopsize.checks import statement_at
 from loopsize.conditionsets import between_machine, least_machine
-from loopsize.machines import full_machine
+from loopsize.machines import FIRST_ALONE, full_machine, joined_freely
+from loopsize.searches import least_row
 from loopsize.straights import place_like
 
 ANY_GAP = (None, None)
@@ -43,6 +44,20 @@ def difference_machine(factors, gap):
     if most is None:
         return least_machine(factors, least)
     return between_machine(factors, least, most)
+
+
+def common_gap(one, other):
+    """What both gaps allow."""
+    least = [gap[0] for gap in (one, other) if gap[0] is not None]
+    most = [gap[1] for gap in (one, other) if gap[1] is not None]
+    return max(least, default=None), min(most, default=None)
+
+
+def constant_difference(own):
+    """j - i if it is the same for all rows (n, j, i), otherwise None."""
+    _, j, i = least_row(own, 3, 0)
+    others = joined_freely(own, between_machine((0, 1, -1), j - i, j - i), FIRST_ALONE)
+    return None if True in others[1] else j - i
 
 
 def cells_machine(place, cell):

@@ -3,7 +3,7 @@
 from loopsize.folding import first_not_kept, least_right
 from loopsize.formulas import formula_of
 from loopsize.gaps import lanes, least_gap
-from loopsize.sources import Sources
+from loopsize.sources import sources_for
 from loopsize.spaces import bad_cell
 from loopsize.works import work_totals
 
@@ -22,7 +22,7 @@ class Report:
 def report_of(program):
     """Gathers what is told of a program."""
     works = formula_of(work_totals(program))
-    sources = Sources(program)
+    sources = sources_for(program)
     arrays = tuple([(array, fold_of(sources, array)) for array in program.arrays])
     loops = tuple([(least_gap(program, loop), lanes(program, loop)) for loop in range(len(program.loops))])
     reads = tuple([(read, tuple(sorted(sources.taken_by(read)))) for read in all_reads(program)])

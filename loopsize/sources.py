@@ -22,6 +22,8 @@ class Sources:
         self.late = {}
         self.reaches = {}
         self.overs = {}
+        # What others made of it.
+        self.told = {}
 
     def works_of(self, name):
         """The machine of the works (n, i) of a statement."""
@@ -146,6 +148,13 @@ class Sources:
                 if not is_empty(machine):
                     told[writer] = machine
         return told
+
+
+def sources_for(program):
+    """What tells the sources of a program, the same one each time."""
+    if "sources" not in program.known:
+        program.known["sources"] = Sources(program)
+    return program.known["sources"]
 
 
 def is_empty(machine):

@@ -6,7 +6,7 @@ which comes first in the program after.
 
 from loopsize.conditionsets import in_all
 from loopsize.machines import BOTH, joined_freely, widened_machine
-from loopsize.relations import ANY_GAP, gap_ahead, gap_machine, meeting_gap, meeting_machine, place_of_access
+from loopsize.relations import ANY_GAP, common_gap, gap_ahead, gap_machine, meeting_gap, meeting_machine, place_of_access
 from loopsize.rewriting import stands_for
 from loopsize.shifts import first_at, least_size, moved_machine
 from loopsize.workmachines import work_machine
@@ -185,13 +185,6 @@ def gap_steps(rewriting, one, other):
     if one.place[0] == other.place[0]:
         told.append((one.loop.step, other.shift - one.shift))
     return told
-
-
-def common_gap(one, other):
-    """What both gaps allow."""
-    least = [gap[0] for gap in (one, other) if gap[0] is not None]
-    most = [gap[1] for gap in (one, other) if gap[1] is not None]
-    return max(least, default=None), min(most, default=None)
 
 
 def has_no_gap(gap, steps):
