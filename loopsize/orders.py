@@ -47,7 +47,8 @@ def is_plainly_once(rewriting, place, number, stands):
     checks = checks_of(before.statements[number])
     there = [checks_of(rewriting.after.loops[loop].statements[other]) for loop, other, _ in stands]
     many = len(stands)
-    return many > 0 and sorted(there) == ([checks] if many == 1 else [[(1, 0, 0, many, rest), *checks] for rest in range(many)])
+    wanted = [checks] if many == 1 else [[(1, 0, 0, many, rest), *checks] for rest in range(many)]
+    return many > 0 and sorted(there) == wanted
 
 
 def checks_of(statement):
