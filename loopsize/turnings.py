@@ -6,7 +6,8 @@ which comes first in the program after.
 
 from loopsize.conditionsets import in_all
 from loopsize.machines import BOTH, joined_freely, widened_machine
-from loopsize.relations import ANY_GAP, common_gap, gap_ahead, gap_machine, meeting_gap, meeting_machine, place_of_access
+from loopsize.relations import ANY_GAP, common_gap, gap_ahead, gap_machine, meeting_gap, meeting_machine
+from loopsize.relations import place_of_access
 from loopsize.rewriting import stands_for
 from loopsize.shifts import first_at, least_size, moved_machine
 from loopsize.workmachines import work_machine
