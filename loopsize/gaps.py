@@ -13,13 +13,13 @@ from loopsize.machines import BOTH, EITHER, FIRST_ALONE, empty_machine, joined, 
 from loopsize.machines import reordered_machine, widened_machine
 from loopsize.searches import least_first
 from loopsize.remainders import united_set
-from loopsize.sources import Sources
+from loopsize.sources import sources_for
 from loopsize.sumsat import SumsAt
 from loopsize.touches import touching_parts
 
 
 def parts_of(program, loop):
-    return touching_parts(Sources(program), loop, loop)
+    return touching_parts(sources_for(program), loop, loop)
 
 
 def touching(program, loop):

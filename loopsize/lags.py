@@ -8,7 +8,7 @@ from loopsize.guesses import Guesses
 from loopsize.layers import Layers
 from loopsize.machines import BOTH, joined_freely, minimal, widened_machine
 from loopsize.searches import greatest_in, has_finitely_many, least_first
-from loopsize.sources import Sources
+from loopsize.sources import sources_for
 from loopsize.spaces import turns_differ
 from loopsize.touches import touching_parts
 
@@ -47,7 +47,7 @@ def lag(program, loop):
     one, other = signs_of(program.loops[loop])
     step = program.loops[loop].step
     found = []
-    for part in touching_parts(Sources(program), loop, loop + 1):
+    for part in touching_parts(sources_for(program), loop, loop + 1):
         pairs = left_machine(part, 0)
         ahead = numbers_apart(pairs, (one, other, -step))
         if ahead is None:
@@ -65,6 +65,6 @@ def lag_at(program, loop, n):
     check_size(n)
     check_next(program, loop)
     signs = signs_of(program.loops[loop])
-    found = [Layers(part, n).greatest_sum(signs) for part in touching_parts(Sources(program), loop, loop + 1)]
+    found = [Layers(part, n).greatest_sum(signs) for part in touching_parts(sources_for(program), loop, loop + 1)]
     most = max([total for total in found if total is not None], default=None)
     return None if most is None else most // program.loops[loop].step

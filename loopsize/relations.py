@@ -10,6 +10,7 @@ from loopsize.searches import least_row
 from loopsize.straights import place_like
 
 ANY_GAP = (None, None)
+FAR_GAP = 600
 
 
 def place_of_access(program, access):
@@ -51,6 +52,14 @@ def common_gap(one, other):
     least = [gap[0] for gap in (one, other) if gap[0] is not None]
     most = [gap[1] for gap in (one, other) if gap[1] is not None]
     return max(least, default=None), min(most, default=None)
+
+
+def has_no_gap(gap, steps):
+    """Whether a gap has no number with all rests of the steps, pairs (step, rest); a great one is not looked at."""
+    least, most = gap
+    if least is None or most is None or most - least > FAR_GAP:
+        return False
+    return not any([all([(d - rest) % step == 0 for step, rest in steps]) for d in range(least, most + 1)])
 
 
 def constant_difference(own):

@@ -10,7 +10,7 @@ from loopsize.layers import has_rows_at
 from loopsize.machines import BOTH, EITHER, FIRST_ALONE, empty_machine, joined, joined_freely, minimal, widened_machine
 from loopsize.remainders import united_set
 from loopsize.searches import least_first
-from loopsize.sources import Sources, is_empty
+from loopsize.sources import is_empty, sources_for
 from loopsize.touches import touching_parts
 from loopsize.workmachines import turn_machine
 
@@ -25,7 +25,7 @@ def check_grade(grade):
 
 def clashing_parts(program, loop, grade, wanted):
     """Machines of the rows (n, i, j) with i < j whose turns are in conflict."""
-    sources = Sources(program)
+    sources = sources_for(program)
     if grade == "strict":
         return touching_parts(sources, loop, loop)
     if grade == "values":
@@ -53,7 +53,7 @@ def fronts(program, loop, most):
     check_loop(program, loop)
     if not is_integer_from(most, 1, MOST_FRONTS):
         raise BadNumber("most", most)
-    parts = touching_parts(Sources(program), loop, loop)
+    parts = touching_parts(sources_for(program), loop, loop)
     down = program.loops[loop].down
     waves = [turn_machine(program.loops[loop])]
     while not is_empty(waves[-1]) and len(waves) <= most:

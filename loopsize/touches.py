@@ -3,8 +3,9 @@ least writes it."""
 
 from loopsize.conditions import Rest
 from loopsize.conditionsets import in_all
-from loopsize.machines import BOTH, joined
-from loopsize.relations import gap_machine, meeting_machine, place_of_access
+from loopsize.machines import BOTH, empty_machine, joined
+from loopsize.relations import ANY_GAP, common_gap, gap_machine, has_no_gap, meeting_gap, meeting_machine
+from loopsize.relations import place_of_access
 from loopsize.sources import is_empty
 
 
@@ -55,13 +56,27 @@ def meetings(program, loop, other):
 def touching_parts(sources, loop, other):
     """Machines of the rows (n, i, j) at which the turn of a loop at i and that of another loop at j touch; of one loop
     those with i < j alone."""
-    told = []
-    for one, two in meetings(sources.program, loop, other):
-        machine = meeting_machine(one.place, two.place)
-        if loop == other:
-            machine = joined(machine, gap_machine((1, None)), BOTH)
-        if not is_empty(machine):
-            machine = in_all([machine, sources.wide_works(one.name, 2), sources.wide_works(two.name, 1)])
+    key = ("touching", loop, other)
+    if key not in sources.told:
+        told = []
+        for one, two in meetings(sources.program, loop, other):
+            machine = touching_machine(sources.program, one, two)
             if not is_empty(machine):
-                told.append(machine)
-    return told
+                machine = in_all([machine, sources.wide_works(one.name, 2), sources.wide_works(two.name, 1)])
+                if not is_empty(machine):
+                    told.append(machine)
+        sources.told[key] = told
+    return sources.told[key]
+
+
+def touching_machine(program, one, two):
+    """The rows (n, i, j) at which two accesses are of one cell, and in one loop i < j."""
+    loop = one.name[0]
+    order = (1, None) if loop == two.name[0] else ANY_GAP
+    near = meeting_gap(one.place, two.place)
+    if near is None:
+        machine = meeting_machine(one.place, two.place)
+        return machine if order == ANY_GAP else joined(machine, gap_machine(order), BOTH)
+    gap = common_gap(order, near)
+    steps = [] if order == ANY_GAP else [(program.loops[loop].step, 0)]
+    return empty_machine(3) if has_no_gap(gap, steps) else gap_machine(gap)

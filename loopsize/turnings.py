@@ -6,13 +6,12 @@ which comes first in the program after.
 
 from loopsize.conditionsets import in_all
 from loopsize.machines import BOTH, joined_freely, widened_machine
-from loopsize.relations import ANY_GAP, common_gap, gap_ahead, gap_machine, meeting_gap, meeting_machine
+from loopsize.relations import ANY_GAP, common_gap, gap_ahead, gap_machine, has_no_gap, meeting_gap, meeting_machine
 from loopsize.relations import place_of_access
 from loopsize.rewriting import stands_for
 from loopsize.shifts import first_at, least_size, moved_machine
 from loopsize.workmachines import work_machine
 
-FAR_GAP = 600
 TOP_LOOP = 6
 WRITE = -1
 
@@ -186,13 +185,6 @@ def gap_steps(rewriting, one, other):
     if one.place[0] == other.place[0]:
         told.append((one.loop.step, other.shift - one.shift))
     return told
-
-
-def has_no_gap(gap, steps):
-    least, most = gap
-    if least is None or most is None or most - least > FAR_GAP:
-        return False
-    return not any([all([(d - rest) % step == 0 for step, rest in steps]) for d in range(least, most + 1)])
 
 
 def all_places(program, name):
