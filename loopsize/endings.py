@@ -12,7 +12,7 @@ from loopsize.errors import Deep
 from loopsize.machines import BOTH, EITHER, FIRST_ALONE, empty_machine, joined, joined_freely, widened_machine
 from loopsize.relations import constant_difference
 from loopsize.searches import least_row
-from loopsize.sources import Sources, is_empty, without_all
+from loopsize.sources import is_empty, sources_for, without_all
 
 MOST_STRETCHES = 4
 
@@ -22,7 +22,7 @@ class Endings:
 
     def __init__(self, program):
         self.program = program
-        self.sources = Sources(program)
+        self.sources = sources_for(program)
         self.steps = {}
         self.lasts = {}
         self.longs = {}

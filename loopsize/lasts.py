@@ -9,7 +9,7 @@ from loopsize.kinds import is_integer
 from loopsize.machines import full_machine, widened_machine
 from loopsize.relations import value_machine
 from loopsize.remainders import remaining_set
-from loopsize.sources import Sources, is_empty, without_all, writers_of
+from loopsize.sources import is_empty, sources_for, without_all, writers_of
 from loopsize.turnsets import done_turns, is_done_in, last_of_turns
 from loopsize.works import turn_of_work
 
@@ -17,7 +17,7 @@ from loopsize.works import turn_of_work
 def stays(program, writer):
     """All (n, i) at which no work behind that of writer at i writes the same cell."""
     check_statement(program, writer[0], writer[1])
-    sources = Sources(program)
+    sources = sources_for(program)
     return remaining_set(sources.works_of(tuple(writer)), later_parts(sources, tuple(writer)), 1)
 
 
@@ -45,7 +45,7 @@ def staying(sources, writer):
 def last_works(program, writer):
     """All (n, c, i) at which the work of writer at i is the last one to write the cell c."""
     check_statement(program, writer[0], writer[1])
-    sources = Sources(program)
+    sources = sources_for(program)
     cell = statement_at(program, writer[0], writer[1]).cell
     writes = in_all([value_machine(cell), sources.wide_works(tuple(writer), 1)])
     return set_without(writes, [widened_machine(later, 1) for later in later_writes(sources, tuple(writer))])
@@ -54,7 +54,7 @@ def last_works(program, writer):
 def untouched(program, array):
     """All (n, c) at which no work writes the cell c of the array."""
     check_array(program, array)
-    sources = Sources(program)
+    sources = sources_for(program)
     written = []
     for writer in writers_of(program, array):
         cell = statement_at(program, writer[0], writer[1]).cell

@@ -10,7 +10,7 @@ from loopsize.machines import EITHER, full_machine, joined
 from loopsize.origins import ends_of_cells, ends_of_read, unlike_ends, widened_alike
 from loopsize.programs import Loop, Program, Read, Statement
 from loopsize.searches import least_row
-from loopsize.sources import Sources
+from loopsize.sources import sources_for
 from loopsize.unread import takings
 
 
@@ -75,7 +75,7 @@ def with_statements(program, loop, statement, made):
 def drop(program, loop, statement):
     """The program without a statement whose works are all idle."""
     check_statement(program, loop, statement)
-    sources = Sources(program)
+    sources = sources_for(program)
     writer = (loop, statement)
     busy = staying(sources, writer)
     for taken in takings(sources, writer):

@@ -4,7 +4,7 @@ from loopsize.checks import check_access, check_statement
 from loopsize.conditionsets import joined_at_last
 from loopsize.digitsets import least_told_set
 from loopsize.machines import BOTH
-from loopsize.sources import Sources
+from loopsize.sources import sources_for
 
 
 def same_cell(program, access, writer):
@@ -12,7 +12,7 @@ def same_cell(program, access, writer):
     check_access(program, access)
     loop, statement = writer
     check_statement(program, loop, statement)
-    rows, ends = joined_at_last(Sources(program).same_cell_parts(tuple(access), (loop, statement)), BOTH)
+    rows, ends = joined_at_last(sources_for(program).same_cell_parts(tuple(access), (loop, statement)), BOTH)
     return least_told_set(rows, ends)
 
 
@@ -20,5 +20,5 @@ def ahead(program, one, other):
     """All (n, j, i) at which the work of other at i comes ahead of that of one at j."""
     check_statement(program, one[0], one[1])
     check_statement(program, other[0], other[1])
-    rows, ends = joined_at_last(Sources(program).ahead_parts(tuple(one), tuple(other)), BOTH)
+    rows, ends = joined_at_last(sources_for(program).ahead_parts(tuple(one), tuple(other)), BOTH)
     return least_told_set(rows, ends)

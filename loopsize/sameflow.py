@@ -6,7 +6,7 @@ from loopsize.orders import check_whole, is_whole
 from loopsize.rewriting import stands_for
 from loopsize.runs import log_program
 from loopsize.shifts import first_at, least_size, moved_machine
-from loopsize.sources import Sources, in_any, reads_of, writers_of
+from loopsize.sources import in_any, reads_of, sources_for, writers_of
 from loopsize.turnings import WRITE, read_of, turnings_of
 
 SMALL_SIZES = 6
@@ -33,8 +33,8 @@ def first_unlike_flow(rewriting):
     early = early_unlike(rewriting, least) if mixed else first_moved(rewriting, least)
     if early is not None:
         return early
-    before = Sources(rewriting.before)
-    after = Sources(rewriting.after)
+    before = sources_for(rewriting.before)
+    after = sources_for(rewriting.after)
     writers = []
     for array in mixed:
         reads = reads + [read for read in reads_of(rewriting.before, array) if read[0] >= mixed[array]]

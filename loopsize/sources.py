@@ -22,6 +22,7 @@ class Sources:
         self.late = {}
         self.reaches = {}
         self.overs = {}
+        self.taken = {}
         # What others made of it.
         self.told = {}
 
@@ -134,10 +135,12 @@ class Sources:
 
     def taken_from(self, access, writer):
         """The machine of the rows (n, j, i) at which the source of an access at j is the work of a writer at i."""
-        candidates = self.candidates(access, writer)
-        if is_empty(candidates):
-            return candidates
-        return without_all(candidates, self.parts_behind(access, writer))
+        key = (access, writer)
+        if key not in self.taken:
+            candidates = self.candidates(access, writer)
+            others = [] if is_empty(candidates) else self.parts_behind(access, writer)
+            self.taken[key] = without_all(candidates, others)
+        return self.taken[key]
 
     def taken_by(self, access):
         """For each writer that is a source of an access the same machine."""

@@ -5,13 +5,13 @@ from loopsize.flows import taken_set
 from loopsize.lasts import later_writes
 from loopsize.machines import FIRST_ALONE, joined
 from loopsize.remainders import remaining_set
-from loopsize.sources import Sources, is_empty, reads_of, without_all
+from loopsize.sources import is_empty, reads_of, sources_for, without_all
 
 
 def unread(program, writer):
     """All (n, i) at which the work of writer at i is the source of no read."""
     check_statement(program, writer[0], writer[1])
-    sources = Sources(program)
+    sources = sources_for(program)
     return remaining_set(sources.works_of(tuple(writer)), takings(sources, tuple(writer)), 1)
 
 
@@ -28,7 +28,7 @@ def takings(sources, writer):
 def idle(program, writer):
     """All (n, i) of unread that are not in stays."""
     check_statement(program, writer[0], writer[1])
-    sources = Sources(program)
+    sources = sources_for(program)
     works = sources.works_of(tuple(writer))
     staying = without_all(works, later_writes(sources, tuple(writer)))
     return remaining_set(joined(works, staying, FIRST_ALONE), takings(sources, tuple(writer)), 1)
@@ -43,4 +43,4 @@ def overwritten(program, writer, other):
     loop, statement = other
     check_statement(program, loop, statement)
     write = (loop, statement, len(statement_at(program, loop, statement).reads))
-    return taken_set(Sources(program), write, tuple(writer))
+    return taken_set(sources_for(program), write, tuple(writer))
