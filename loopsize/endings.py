@@ -8,6 +8,7 @@ from loopsize.checks import statement_at
 from loopsize.conditionsets import between_machine, in_all, least_machine, rest_machine
 from loopsize.copies import is_copy
 from loopsize.cuts import left_machine
+from loopsize.earlypaths import EarlyPaths
 from loopsize.errors import Deep
 from loopsize.machines import BOTH, EITHER, FIRST_ALONE, empty_machine, joined, joined_freely, widened_machine
 from loopsize.relations import constant_difference
@@ -15,6 +16,7 @@ from loopsize.searches import least_row
 from loopsize.sources import is_empty, sources_for, without_all
 
 MOST_STRETCHES = 4
+MANY_STATES = 50
 
 
 class Endings:
@@ -63,8 +65,24 @@ class Endings:
         stretches."""
         return left_machine(joined_freely(rows, widened_machine(self.long_works(writer, many), 1), BOTH), 2)
 
-    def check_depth(self, first):
-        """Refuses paths with too many stretches. first has for writers the rows (n, j, i) of the first works."""
+    def is_laborious(self):
+        """Whether the machines are so large that plain logs are worth while first."""
+        many = 0
+        for loop, entry in enumerate(self.program.loops):
+            for number in range(len(entry.statements)):
+                if is_copy(self.program, (loop, number)):
+                    many += sum([len(machine[0]) for machine in list(self.steps_of((loop, number)).values())])
+        return many > MANY_STATES
+
+    def check_depth(self, first, starts):
+        """Refuses paths with too many stretches. first has for writers the rows (n, j, i) of the first works; starts
+        tells them for plain logs."""
+        if self.is_laborious():
+            if "early" not in self.sources.told:
+                self.sources.told["early"] = EarlyPaths(self.program)
+            early = self.sources.told["early"].first_deep(starts, MOST_STRETCHES)
+            if early is not None:
+                raise Deep(early[0], early[1])
         found = []
         for writer in first:
             if is_copy(self.program, writer):
@@ -109,6 +127,14 @@ def stretch_machine(works, inner, apart):
         return rows
     wide = joined_freely(widened_machine(nearer, 1), least_machine((0, sign, -sign, 0), 0), BOTH)
     return joined(rows, left_machine(wide, 2), FIRST_ALONE)
+
+
+def endings_for(program):
+    """What tells of a program how its paths go on, the same one each time."""
+    told = sources_for(program).told
+    if "endings" not in told:
+        told["endings"] = Endings(program)
+    return told["endings"]
 
 
 def composed_rows(one, other):

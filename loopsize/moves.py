@@ -3,7 +3,7 @@
 from loopsize.checks import check_read, check_statement, statement_at
 from loopsize.copies import is_copy
 from loopsize.cuts import left_machine
-from loopsize.endings import Endings
+from loopsize.endings import endings_for
 from loopsize.errors import Mixing, NotSame, Taken
 from loopsize.lasts import staying
 from loopsize.machines import EITHER, full_machine, joined
@@ -23,7 +23,7 @@ def check_copies(program):
 
 def contents_of_all(program, arrays):
     """For each of some arrays the ends of what its cells hold; an array that the program has not is left as it is."""
-    endings = Endings(program)
+    endings = endings_for(program)
     told = []
     for array in arrays:
         if array in program.arrays:
@@ -55,8 +55,8 @@ def forward(program, read, array, place):
     reads[number] = Read(array, place, factor=old.reads[number].factor)
     made = Statement(old.array, old.cell, old.constant, reads=reads, conditions=old.conditions)
     told = with_statements(program, loop, statement, [made])
-    one = ends_of_read(Endings(program), (loop, statement, number))
-    other = ends_of_read(Endings(told), (loop, statement, number))
+    one = ends_of_read(endings_for(program), (loop, statement, number))
+    other = ends_of_read(endings_for(told), (loop, statement, number))
     row = least_row(unlike_ends(one, other), 2, 0)
     if row is not None:
         raise NotSame(row[0], row[1])

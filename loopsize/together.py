@@ -4,6 +4,7 @@ from loopsize.checks import check_loop, check_size
 from loopsize.clashes import free_parts, value_parts
 from loopsize.cuts import left_machine, put_machine
 from loopsize.digitsets import told_set
+from loopsize.earlyfronts import early_deeper
 from loopsize.errors import BadGrade, BadNumber, Deeper
 from loopsize.kinds import is_integer_from
 from loopsize.layers import has_rows_at
@@ -16,6 +17,7 @@ from loopsize.workmachines import turn_machine
 
 GRADES = ("strict", "free", "values")
 MOST_FRONTS = 6
+MANY_STATES = 100
 
 
 def check_grade(grade):
@@ -54,6 +56,11 @@ def fronts(program, loop, most):
     if not is_integer_from(most, 1, MOST_FRONTS):
         raise BadNumber("most", most)
     parts = touching_parts(sources_for(program), loop, loop)
+    if sum([len(part[0]) for part in parts]) > MANY_STATES:
+        # Most chains that are too long are seen at small sizes, where no large machines are needed.
+        early = early_deeper(program.loops[loop], most)
+        if early is not None:
+            raise Deeper(early[0], early[1])
     down = program.loops[loop].down
     waves = [turn_machine(program.loops[loop])]
     while not is_empty(waves[-1]) and len(waves) <= most:
