@@ -2,9 +2,14 @@
 
 from loopsize.machines import leads_to, minimal, settled, with_digit
 
+MANY_STATES = 200
+
 
 def left_machine(machine, place):
     """The rows with the number at the place left out."""
+    if len(machine[0]) > MANY_STATES:
+        # States that are alike would make very many bundles.
+        machine = minimal(machine[0], machine[1])
     rows, ends = left_freely(machine, place)
     return minimal(rows, ends)
 

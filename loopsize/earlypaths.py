@@ -30,7 +30,7 @@ class EarlyPaths:
                 self.is_even[(loop, number)] = is_plainly_even(program, (loop, number))
 
     def at_size(self, n):
-        """(log, few, many) of a size; the last two have the numbers of stretches of all works. None if it is too far."""
+        """(log, few, many) of a size, with the numbers of stretches of all works; None if the size is too far."""
         while len(self.sizes) <= n:
             size = len(self.sizes)
             turns = sum([loop.many_turns(size) for loop in self.program.loops])
