@@ -5,7 +5,7 @@ from math import gcd
 from loopsize.checks import check_loop, check_size
 from loopsize.conditionsets import between_machine
 from loopsize.cuts import left_machine
-from loopsize.digitsets import least_told_set, told_set
+from loopsize.digitsets import told_set
 from loopsize.guesses import Guesses
 from loopsize.lanerows import rows_of_lanes
 from loopsize.layers import Layers
@@ -54,9 +54,12 @@ def gaps_at(program, loop, n):
     """The same at one size."""
     check_loop(program, loop)
     check_size(n)
-    entries = [(Layers(part, n), (-1, 1), 0) for part in parts_of(program, loop)]
-    rows, ends = SumsAt(entries, program.loops[loop].step).machine()
-    return least_told_set(rows, ends)
+    told = empty_machine(1)
+    for part in parts_of(program, loop):
+        # Gaps of one kind follow few ways, those of several kinds together very many.
+        rows, ends = SumsAt([(Layers(part, n), (-1, 1), 0)], program.loops[loop].step).machine()
+        told = joined(told, minimal(rows, ends), EITHER)
+    return told_set(told)
 
 
 def least_gap(program, loop):
