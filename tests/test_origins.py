@@ -2,6 +2,7 @@
 
 import random
 import unittest
+import unittest.mock
 
 from loopsize.digitsets import DigitSet, digit_set, is_none
 from loopsize.errors import Deep, NoArray, NoLoop, NoRead, NoStatement, TooLarge
@@ -134,6 +135,30 @@ class OriginsTest(unittest.TestCase):
             contents(five, "f")
         self.assertEqual(vars(caught.exception), {"n": 1, "counter": 0})
         self.assertEqual([end for end, _ in contents(five, "z")], [("input", "z"), ("work", 5, 0)])
+
+    def test_deep_paths_are_the_same_by_machines_and_by_plain_logs(self):
+        chance = random.Random(314)
+        met = set()
+        for _ in range(40):
+            text = program_text(random_mover(chance))
+            told = []
+            for bound in (-1, 10 ** 9):
+                with unittest.mock.patch("loopsize.endings.MANY_STATES", bound):
+                    program = read_program(text)
+                    told.append([self.deep_or_none(contents, program, array) for array in program.arrays])
+                    told[-1].extend(self.deep_or_none(origins, program, read) for read in reads_in(program))
+            self.assertEqual(told[0], told[1], text)
+            met.update(kind for kind in told[0])
+        self.assertGreater(len(met), 3)
+
+    def deep_or_none(self, function, *arguments):
+        try:
+            function(*arguments)
+        except Deep as error:
+            return error.n, error.counter
+        except TooLarge:
+            return "TooLarge"
+        return None
 
     def test_stretches(self):
         # The copies go by 2: 0, 1 are taken from elsewhere, whatever n is.

@@ -4,6 +4,7 @@ import random
 import unittest
 
 from loopsize.digitsets import DigitSet, is_none, without
+from loopsize.earlyfronts import early_deeper
 from loopsize.errors import BadGrade, BadNumber, BadSize, Deeper, NoLoop, TooLarge
 from loopsize.members import least_of
 from loopsize.orders import turned_pair
@@ -218,6 +219,21 @@ class FrontsTest(unittest.TestCase):
         self.assertEqual(turns, sorted(set(turns)))
         for one, other in zip(error.chain, error.chain[1:]):
             self.assertTrue(do_touch(cells[one], cells[other]), program_text(program))
+
+    def test_chains_that_are_seen_early(self):
+        met = set()
+        for program in random_programs(213, 80):
+            for loop in range(len(program.loops)):
+                for most in (1, 2, 4):
+                    told = early_deeper(program.loops[loop], most)
+                    deep = [n for n in SIZES if max(plain_fronts(program, n, loop).values(), default=0) > most]
+                    if deep:
+                        self.assertEqual(told[0], deep[0], program_text(program))
+                    if told is not None:
+                        self.check_chain(program, loop, most, Deeper(*told), deep)
+                        met.add(most)
+        self.assertEqual(met, {1, 2, 4})
+        self.assertIsNone(early_deeper(NO_TURNS.loops[0], 1))
 
     def test_each_most(self):
         text = "for i from 0 below {}:\n s[0] = 1\n"
