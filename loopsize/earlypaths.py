@@ -10,17 +10,17 @@ from loopsize.relations import meeting_gap
 from loopsize.runs import log_program
 from loopsize.straights import place_like
 
-MANY_SIZES = 200
-MANY_WORKS = 4000
+MANY_SIZES = 1000
+FEW_TURNS = 4000
 
 
 class EarlyPaths:
-    """The counts for all works at the sizes from 0 on, as far as they are few."""
+    """The counts for all works at small sizes; those of the first sizes are kept."""
 
     def __init__(self, program):
         self.program = program
         self.sizes = []
-        self.works = 0
+        self.turns = 0
         self.is_copy = {}
         self.is_even = {}
         self.apart = {}
@@ -29,16 +29,15 @@ class EarlyPaths:
                 self.is_copy[(loop, number)] = is_copy(program, (loop, number))
                 self.is_even[(loop, number)] = is_plainly_even(program, (loop, number))
 
-    def at_size(self, n):
-        """(log, few, many) of a size, with the numbers of stretches of all works; None if the size is too far."""
-        while len(self.sizes) <= n:
-            size = len(self.sizes)
-            turns = sum([loop.many_turns(size) for loop in self.program.loops])
-            if size > MANY_SIZES or self.works + turns > MANY_WORKS:
-                return None
-            self.works += turns
-            self.sizes.append(self.counted(log_program(self.program, size)))
-        return self.sizes[n]
+    def at_size(self, n, turns):
+        """(log, few, many) of a size that has so many turns, with the numbers of stretches of all works."""
+        if n < len(self.sizes):
+            return self.sizes[n]
+        told = self.counted(log_program(self.program, n))
+        if n == len(self.sizes) and self.turns + turns <= FEW_TURNS:
+            self.sizes.append(told)
+            self.turns += turns
+        return told
 
     def counted(self, log):
         names = [(work[0], work[2]) for work in log.works]
@@ -57,20 +56,20 @@ class EarlyPaths:
                 many[work] = many.get(source, 0) + (0 if is_own and self.is_even[name] else 1)
         return log, few, many
 
-    def first_deep(self, starts, most):
-        """(n, number) of the first path with more stretches; None if this is not seen, or not for sure. starts tells
-        for a log the pairs (number, work) with which paths begin, numbers ascending."""
-        n = 0
-        found = self.at_size(0)
-        while found is not None:
-            log, few, many = found
+    def first_deep(self, starts, most, many_turns):
+        """(n, number) of the first path with more stretches; None if this is not seen in so many turns, or not for
+        sure. starts tells for a log the pairs (number, work) with which paths begin, numbers ascending."""
+        for n in range(MANY_SIZES):
+            turns = sum([loop.many_turns(n) for loop in self.program.loops])
+            many_turns -= turns
+            if many_turns < 0:
+                return None
+            log, few, many = self.at_size(n, turns)
             pairs = starts(log)
             sure = [number for number, work in pairs if few.get(work, 0) > most]
             likely = [number for number, work in pairs if many.get(work, 0) > most]
             if likely:
                 return (n, likely[0]) if sure[:1] == likely[:1] else None
-            n += 1
-            found = self.at_size(n)
         return None
 
 

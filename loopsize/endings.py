@@ -8,7 +8,7 @@ from loopsize.checks import statement_at
 from loopsize.conditionsets import between_machine, in_all, least_machine, rest_machine
 from loopsize.copies import is_copy
 from loopsize.cuts import left_machine
-from loopsize.earlypaths import EarlyPaths
+from loopsize.earlypaths import FEW_TURNS, EarlyPaths
 from loopsize.errors import Deep
 from loopsize.machines import BOTH, EITHER, FIRST_ALONE, empty_machine, joined, joined_freely, widened_machine
 from loopsize.relations import constant_difference
@@ -17,6 +17,8 @@ from loopsize.sources import is_empty, sources_for, without_all
 
 MOST_STRETCHES = 4
 MANY_STATES = 50
+MANY_LONG = 1000
+MANY_TURNS = 100000
 
 
 class Endings:
@@ -28,6 +30,7 @@ class Endings:
         self.steps = {}
         self.lasts = {}
         self.longs = {}
+        self.early = None
 
     def steps_of(self, copy):
         """For each writer from which a copy takes the rows (n, j, i); those within a stretch are not there."""
@@ -78,19 +81,28 @@ class Endings:
         """Refuses paths with too many stretches. first has for writers the rows (n, j, i) of the first works; starts
         tells them for plain logs."""
         if self.is_laborious():
-            if "early" not in self.sources.told:
-                self.sources.told["early"] = EarlyPaths(self.program)
-            early = self.sources.told["early"].first_deep(starts, MOST_STRETCHES)
-            if early is not None:
-                raise Deep(early[0], early[1])
+            self.check_small_sizes(starts, FEW_TURNS)
+        copies = [writer for writer in first if is_copy(self.program, writer)]
+        for many in range(2, MOST_STRETCHES + 1):
+            if max([len(self.long_works(writer, many)[0]) for writer in copies], default=0) > MANY_LONG:
+                # The next machines would be far larger, and most of such paths are seen.
+                self.check_small_sizes(starts, MANY_TURNS)
+                break
         found = []
-        for writer in first:
-            if is_copy(self.program, writer):
-                row = least_row(self.leading_to(first[writer], writer, MOST_STRETCHES + 1), 2, 0)
-                if row is not None:
-                    found.append(row)
+        for writer in copies:
+            row = least_row(self.leading_to(first[writer], writer, MOST_STRETCHES + 1), 2, 0)
+            if row is not None:
+                found.append(row)
         if found:
             raise Deep(min(found)[0], min(found)[1])
+
+    def check_small_sizes(self, starts, many_turns):
+        """Refuses paths with too many stretches that are seen in plain logs."""
+        if self.early is None:
+            self.early = EarlyPaths(self.program)
+        found = self.early.first_deep(starts, MOST_STRETCHES, many_turns)
+        if found is not None:
+            raise Deep(found[0], found[1])
 
     def ends_from(self, first):
         """For each end a list of machines: the rows (n, j, e) such that the path of j ends there, in e."""

@@ -169,7 +169,9 @@ class ForwardTest(unittest.TestCase):
         first = read_program("for i from 0 below n:\n t[i] = x[0]\nfor i from 0 below n:\n y[i] = 1 - 2 * t[i] + t[0]\n")
         told = forward(first, (1, 0, 0), "x", 0)
         self.assertEqual(program_text(told).split("\n")[3], "    y[i] = 1 - 2 * x[0] + t[0]")
-        told = forward(first, [1, 0, 1], "t", Place(Straight(1, 0, 0), 1))
+        read = [1, 0, 1]
+        told = forward(first, read, "t", Place(Straight(1, 0, 0), 1))
+        self.assertEqual(read, [1, 0, 1])
         self.assertEqual(program_text(told).split("\n")[3], "    y[i] = 1 - 2 * t[i] + t[i]")
         halves = read_program("for i from 0 below n:\n t[i] = x[i // 2]\nfor i from 0 below n by 2 down:\n if n >= 3: y[i] = 1 + t[i]\n")
         told = forward(program=halves, read=(1, 0, 0), array="x", place=Straight(1, 0, 0) // 2)
