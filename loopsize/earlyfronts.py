@@ -1,15 +1,14 @@
 """Fronts of turns that are greater than they may be, seen at small sizes by going through the turns."""
 
-MANY_SIZES = 200
-MANY_TURNS = 2000
+MANY_SIZES = 2000
 
 
-def early_deeper(loop, most):
-    """(n, chain) of the least size at which a turn of a loop has a greater front; None if this is not seen."""
-    left = MANY_TURNS
+def early_deeper(loop, most, many_turns):
+    """(n, chain) of the least size at which a turn of a loop has a greater front; None if this is not seen in so many
+    turns."""
     for n in range(MANY_SIZES):
-        left -= loop.many_turns(n)
-        if left < 0:
+        many_turns -= loop.many_turns(n)
+        if many_turns < 0:
             return None
         chain = chain_of_turns(loop, n, most)
         if chain is not None:

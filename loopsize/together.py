@@ -17,7 +17,10 @@ from loopsize.workmachines import turn_machine
 
 GRADES = ("strict", "free", "values")
 MOST_FRONTS = 6
-MANY_STATES = 100
+FEW_STATES = 200
+MANY_STATES = 600
+FEW_TURNS = 1500
+MANY_TURNS = 100000
 
 
 def check_grade(grade):
@@ -56,19 +59,34 @@ def fronts(program, loop, most):
     if not is_integer_from(most, 1, MOST_FRONTS):
         raise BadNumber("most", most)
     parts = touching_parts(sources_for(program), loop, loop)
-    if sum([len(part[0]) for part in parts]) > MANY_STATES:
-        # Most chains that are too long are seen at small sizes, where no large machines are needed.
-        early = early_deeper(program.loops[loop], most)
-        if early is not None:
-            raise Deeper(early[0], early[1])
-    down = program.loops[loop].down
-    waves = [turn_machine(program.loops[loop])]
-    while not is_empty(waves[-1]) and len(waves) <= most:
-        waves.append(behind_wave(parts, waves[-1], down))
+    many = sum([len(part[0]) for part in parts])
+    if many > FEW_STATES:
+        check_small_sizes(program.loops[loop], most, FEW_TURNS if many < MANY_STATES else MANY_TURNS)
+    waves = waves_of(program.loops[loop], parts, most)
     if not is_empty(waves[-1]):
         n = least_first(waves[-1])
-        raise Deeper(n, chain_at(parts, waves, down, n))
+        raise Deeper(n, chain_at(parts, waves, program.loops[loop].down, n))
     return tuple([told_set(joined(one, other, FIRST_ALONE)) for one, other in zip(waves, waves[1:])])
+
+
+def check_small_sizes(loop, most, many_turns):
+    """Refuses chains that are too long: most are seen at small sizes, where no large machines are needed."""
+    early = early_deeper(loop, most, many_turns)
+    if early is not None:
+        raise Deeper(early[0], early[1])
+
+
+def waves_of(loop, parts, most):
+    """For each front from 1 on the turns (n, i) that have it or a greater one, up to an empty one, or to the first
+    front that is too great."""
+    told = [turn_machine(loop)]
+    is_large = False
+    while not is_empty(told[-1]) and len(told) <= most:
+        if len(told[-1][0]) > MANY_STATES and not is_large:
+            is_large = True
+            check_small_sizes(loop, most, MANY_TURNS)
+        told.append(behind_wave(parts, told[-1], loop.down))
+    return told
 
 
 def behind_wave(parts, wave, down):

@@ -225,7 +225,7 @@ class FrontsTest(unittest.TestCase):
         for program in random_programs(213, 80):
             for loop in range(len(program.loops)):
                 for most in (1, 2, 4):
-                    told = early_deeper(program.loops[loop], most)
+                    told = early_deeper(program.loops[loop], most, 2000)
                     deep = [n for n in SIZES if max(plain_fronts(program, n, loop).values(), default=0) > most]
                     if deep:
                         self.assertEqual(told[0], deep[0], program_text(program))
@@ -233,7 +233,7 @@ class FrontsTest(unittest.TestCase):
                         self.check_chain(program, loop, most, Deeper(*told), deep)
                         met.add(most)
         self.assertEqual(met, {1, 2, 4})
-        self.assertIsNone(early_deeper(NO_TURNS.loops[0], 1))
+        self.assertIsNone(early_deeper(NO_TURNS.loops[0], 1, 2000))
 
     def test_each_most(self):
         text = "for i from 0 below {}:\n s[0] = 1\n"
