@@ -6,11 +6,16 @@ import unittest
 from math import gcd
 
 from loopsize.folding import fold_fails, fold_is_right, fold_least
+from loopsize.gaps import gaps_at, lanes_at, least_gap_at
+from loopsize.lags import lag_at
 from loopsize.orders import lost_work, turned_pair
+from loopsize.paths import path
 from loopsize.rewriting import cut_loop, deal_loop, join_loops, split_loop, swap_loops, turn_loop, unroll_loop
 from loopsize.sameflow import unlike_flow
 from loopsize.straights import Straight
 from loopsize.texts import read_program
+from loopsize.together import is_free
+from loopsize.windows import fold_is_right_at, fold_least_at, window
 
 SECONDS = 0.02
 GROUPS = 300
@@ -150,6 +155,20 @@ class FarGroupsTest(unittest.TestCase):
             numbers = (chance.randint(1, 9), chance.randint(1, 10 ** 30), chance.randint(1, 100))
             groups.append(lambda part=(kind, far, c, chance.random() < 0.5, numbers): self.fold_group(*part))
         self.timed(groups)
+
+
+class GreatSizesTest(unittest.TestCase):
+    def test_great_sizes_take_hardly_longer_than_small_ones(self):
+        near = read_program("for i from 0 below n:\n t[i] = a[i]\n x[i + 1] = 2\n if i >= 1: b[i] = t[i] + t[i - 1]\nfor i from 0 below n:\n"
+                            " y[i] = x[i + 2] + b[n - i]\n")
+        copies = read_program("for i from 0 below n:\n t[n - 1 - i] = x[i]\nfor i from 0 below n:\n y[i] = t[i]\n")
+        for call in (lambda n: window(near, "t", n), lambda n: fold_is_right_at(near, "t", n, 64), lambda n: fold_least_at(near, "t", n),
+                     lambda n: gaps_at(near, 0, n), lambda n: least_gap_at(near, 0, n), lambda n: lanes_at(near, 0, n),
+                     lambda n: lag_at(near, 0, n), lambda n: is_free(near, 0, "free", n), lambda n: path(copies, n, (1, 0, 0), 5)):
+            for n in (10, 10 ** 30):
+                before = time.process_time()
+                call(n)
+                self.assertLess(time.process_time() - before, 0.5)
 
 
 if __name__ == "__main__":
